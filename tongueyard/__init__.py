@@ -1,0 +1,1 @@
+"""Tongueyard: grammars, texts and trees kept in one house."""
