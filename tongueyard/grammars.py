@@ -24,6 +24,7 @@ class Grammar:
         self._rules = tuple([(name, tuple(alternatives)) for name, alternatives in rules])
         self._begin = rules[0][0] if begin is None else begin
         self._bars = tuple(bars)
+        self._kind_names = {name: True for name, _, _ in kinds}
         self._labels = {}
         self._homes = {}
         self._rows = {}
@@ -67,7 +68,14 @@ class Grammar:
         return self._homes[label]
 
     def is_kind(self, name):
-        return name in [kind for kind, _, _ in self._kinds]
+        return name in self._kind_names
+
+    def is_rule(self, name):
+        return name in self._labels
+
+    def is_label(self, thing):
+        """Whether a thing, of any kind, is a label."""
+        return isinstance(thing, str) and thing in self._rows
 
     def __eq__(self, other):
         return (isinstance(other, Grammar) and self._kinds == other._kinds and self._rules == other._rules

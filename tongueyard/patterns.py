@@ -33,14 +33,24 @@ def are_signs(thing):
     return all(rising) and all([sign in SIGNS for sign in thing])
 
 
+class Speller:
+    """A pattern made ready to be asked of many texts."""
+
+    def __init__(self, pattern):
+        self._places = Places([pattern])
+        self._having = self._places.by_signs()
+
+    def takes(self, text):
+        """Whether the pattern spells a text."""
+        reached = BEGINNING
+        for sign in text:
+            reached = self._places.all_behind(reached) & self._having.get(sign, 0)
+        return self._places.first_end(reached) is not None
+
+
 def spells(pattern, text):
     """Whether a pattern spells a text."""
-    places = Places([pattern])
-    by_signs = places.by_signs()
-    reached = BEGINNING
-    for sign in text:
-        reached = places.all_behind(reached) & by_signs.get(sign, 0)
-    return places.first_end(reached) is not None
+    return Speller(pattern).takes(text)
 
 
 def spells_none(pattern):
