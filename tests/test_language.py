@@ -127,12 +127,17 @@ class Forms(unittest.TestCase):
 
     def test_what_is_not_used(self):
         barred = (ast.GeneratorExp, ast.SetComp, ast.Set, ast.Yield, ast.YieldFrom, ast.Await, ast.Div, ast.MatMult,
-                  ast.Global, ast.Nonlocal, ast.AnnAssign, ast.Starred, ast.NamedExpr, ast.Pow)
+                  ast.Global, ast.Nonlocal, ast.AnnAssign, ast.NamedExpr, ast.Pow)
         self.assertEqual([(name, node.lineno) for name, node in nodes(barred)], [])
         for name, node in nodes(ast.Constant):
             self.assertIn(type(node.value), (int, str, bool, type(None)), name)
         for name, node in nodes((ast.FunctionDef, ast.ClassDef)):
             self.assertEqual(node.decorator_list, [], name)
+
+    def test_stars_stand_in_zip_alone(self):
+        in_zip = [one for _, node in nodes(ast.Call) for one in node.args
+                  if isinstance(one, ast.Starred) and isinstance(one.value, ast.Name) and ast.unparse(node.func) == "zip"]
+        self.assertEqual(len(nodes(ast.Starred)), len(in_zip))
 
     def test_calls(self):
         own = {node.name for _, node in nodes((ast.FunctionDef, ast.ClassDef))}

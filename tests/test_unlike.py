@@ -49,6 +49,65 @@ class UnlikeWords(unittest.TestCase):
         self.assertIsNone(unlike_words(LARGE, LARGE[::-1]))
 
 
+def chain(many):
+    return then(*[signs("b")] * many)
+
+
+def chains(*many):
+    """A pattern of the texts of b of which one of some numbers is a part."""
+    return either(*[more(chain(one)) for one in many])
+
+
+class LongPatterns(unittest.TestCase):
+    """Chains of places, whose least unlike texts are long, and whose sets of places are many."""
+
+    def test_the_text_that_both_spell_first(self):
+        one, other = ("ph", more(chain(13)), False), ("xxuhynji", more(chain(12)), False)
+        self.assertEqual(unlike_words([one, other], [other, one]), "b" * 156)
+        self.assertEqual(unlike_words([other, one], [one, other]), "b" * 156)
+        self.assertIsNone(unlike_words([one, other], [one, other]))
+
+    def test_all_pairs_of_chains(self):
+        for one in range(1, 13):
+            for other in range(1, 13):
+                kinds = [("x", more(chain(one)), False), ("y", more(chain(other)), False)]
+                # Where one number is a part of the other one, a kind of the longer chain behind it has no text.
+                both = next(many for many in range(1, 157) if many % one == 0 and many % other == 0)
+                self.assertEqual(unlike_words(kinds, kinds[::-1]), "b" * both)
+                self.assertEqual(beyond(more(chain(one)), more(chain(other))), "b" * one if one % other else None)
+                swapped = [("y", more(chain(one)), False), ("x", more(chain(other)), False)]
+                self.assertEqual(unlike_words(kinds, swapped), "b" * min(one, other))
+
+    def test_tables_of_chains(self):
+        for one, other in ((10, 13), (13, 12), (4, 6), (5, 5), (1, 7)):
+            table = word_table([("x", more(chain(one)), False), ("y", more(chain(other)), False)])
+            kind = ["x" if many % one == 0 else "y" if many % other == 0 else None for many in range(1, 200)]
+            state = 0
+            for wanted in kind:
+                state = table[state][1][0][1]
+                self.assertEqual(table[state][0], wanted)
+            period = next(many for many in range(1, 200) if many % one == 0 and many % other == 0)
+            self.assertEqual(len(table), 1 + (one if other % one == 0 else period))
+
+    def test_alike_with_many_pairs_of_sets(self):
+        # Each has a cycle of its own, all that is spelled is the same; so pairs of sets are many, pairs of states one.
+        one, other = either(more(signs("b")), chains(13, 12)), either(more(signs("b")), chains(11, 7))
+        self.assertIsNone(unlike_words([("x", one, False)], [("x", other, True)]))
+        self.assertIsNone(beyond(one, other))
+        self.assertIsNone(beyond(other, one))
+        self.assertEqual(unlike_words([("x", one, False)], [("y", other, False)]), "b")
+        self.assertEqual(beyond(either(one, EMPTY), other), "")
+
+    def test_unlike_behind_many_pairs_of_sets(self):
+        for one, other in (((6, 10), (15, 4)), ((13, 11), (12, 11)), ((2, 3), (3, 4)), ((7, 9, 5), (7, 10, 5))):
+            wanted = [many for many in range(1, 2000) if any(many % part == 0 for part in one)
+                      and not any(many % part == 0 for part in other)]
+            self.assertEqual(beyond(chains(*one), chains(*other)), "b" * wanted[0])
+        self.assertEqual(beyond(more(chain(1)), chains(2, 3, 5, 7, 11)), "b")
+        self.assertEqual(beyond(more(chain(11)), chains(2, 3, 5, 7)), "b" * 11)
+        self.assertIsNone(beyond(chains(12, 8), chains(4)))
+
+
 class LostWord(unittest.TestCase):
     def test_against_all_lesser_texts(self):
         for kinds in SAMPLES:

@@ -76,16 +76,21 @@ class Places:
     def all_behind(self, places):
         """The set of all places that may stand behind one of a set of places."""
         behind = 0
-        for number in numbers_of(places):
-            behind = behind | self.behind[number]
+        while places:
+            lowest = places & -places
+            behind = behind | self.behind[lowest.bit_length() - 1]
+            places = places - lowest
         return behind
 
     def by_signs(self):
         """A dict from all signs that some place has, in order, to the set of the places that have it."""
-        found = {}
+        by_texts = {}
         for number, signs in enumerate(self.signs):
+            by_texts[signs] = by_texts.get(signs, 0) | 1 << number
+        found = {}
+        for signs, having in by_texts.items():
             for sign in signs:
-                found[sign] = found.get(sign, 0) | 1 << number
+                found[sign] = found.get(sign, 0) | having
         return {sign: found[sign] for sign in sorted(found)}
 
     def first_end(self, places):
@@ -94,57 +99,3 @@ class Places:
             if ends & places:
                 return number
         return None
-
-
-class PlaceSets:
-    """The sets of places to which rows of signs come, numbered as they are first met.
-
-    groups: texts of signs that no place tells apart; sets: the sets; moves: for each set and
-    each group the number of the set to which it leads, or None; ended: for each set the number of
-    the first pattern that may end there, or None.
-    """
-
-    def __init__(self, patterns):
-        places = Places(patterns)
-        by_group = {}
-        for sign, having in places.by_signs().items():
-            by_group[having] = by_group.get(having, "") + sign
-        self.groups = list(by_group.values())
-        self.sets = [BEGINNING]
-        self.moves = []
-        numbers = {BEGINNING: 0}
-        while len(self.moves) < len(self.sets):
-            behind = places.all_behind(self.sets[len(self.moves)])
-            moves = []
-            for having in by_group:
-                led = behind & having
-                if led and led not in numbers:
-                    numbers[led] = len(self.sets)
-                    self.sets.append(led)
-                moves.append(numbers.get(led))
-            self.moves.append(moves)
-        self.ended = [places.first_end(some) for some in self.sets]
-
-    def states(self):
-        """For each set the number of its state: sets have one where all that may follow is alike."""
-        states = numbered(self.ended)
-        while True:
-            seen = [(state, tuple([at_or_none(states, to) for to in moves]))
-                    for state, moves in zip(states, self.moves)]
-            finer = numbered(seen)
-            if finer == states:
-                return states
-            states = finer
-
-
-def at_or_none(rows, number):
-    return None if number is None else rows[number]
-
-
-def numbered(things):
-    """For each thing a number, alike for like ones, from 0 on as they are first met."""
-    numbers = {}
-    for thing in things:
-        if thing not in numbers:
-            numbers[thing] = len(numbers)
-    return [numbers[thing] for thing in things]

@@ -1,41 +1,47 @@
 """Word tables: to which state each row of signs comes, and the least texts of all sorts."""
 
-from tongueyard.places import PlaceSets, numbers_of
+from tongueyard.places import numbers_of
+from tongueyard.searches import least_text
+from tongueyard.ways import classes_of, least_between, merged, sets_and_ways
 
 
 def word_table(kinds):
     """The word table of kinds."""
-    return table_of_patterns([name for name, _, _ in kinds], [pattern for _, pattern, _ in kinds])
-
-
-def table_of_patterns(names, patterns):
-    """The word table of patterns by their names; these may spell the text without signs, too."""
-    sets = PlaceSets(patterns)
-    states = sets.states()
+    ways = merged(ways_of_kinds(kinds))
+    in_order = {}
     table = []
-    for number, state in enumerate(states):
-        # The sets are numbered as they are first met, so the first one of a state has its number.
-        if state == len(table):
-            ended = sets.ended[number]
-            kind = None if ended is None else names[ended]
-            table.append((kind, moves_of_set(sets, states, number)))
+    for kind, row in zip(ways.ended[:-1], ways.rows):
+        moves = [(signs, to) for signs, to in zip(ways.groups, row) if to >= 0]
+        if len(moves) > 1:
+            moves = moves_by_states(moves, in_order)
+        table.append((kind, tuple(moves)))
     return tuple(table)
 
 
-def moves_of_set(sets, states, number):
-    """The moves of a set's state: for each state that comes next all signs that lead there."""
+def ways_of_kinds(kinds):
+    return sets_and_ways([name for name, _, _ in kinds], [pattern for _, pattern, _ in kinds])[1]
+
+
+def moves_by_states(moves, in_order):
+    """Moves with those to one state put together, by their first signs.
+
+    in_order: the texts that were put together so far, and the same signs in order; it is added to.
+    """
     led = {}
-    for group, to in zip(sets.groups, sets.moves[number]):
-        if to is not None:
-            led[states[to]] = led.get(states[to], "") + group
-    return tuple([("".join(sorted(signs)), to) for to, signs in led.items()])
+    for signs, to in moves:
+        led[to] = led.get(to, "") + signs
+    if len(led) == len(moves):
+        return moves
+    for signs in led.values():
+        if signs not in in_order:
+            in_order[signs] = "".join(sorted(signs))
+    return [(in_order[signs], to) for to, signs in led.items()]
 
 
 def word_paper(kinds):
     """The sorted paper of pairs (state, places) that shows the word table of kinds."""
-    sets = PlaceSets([pattern for _, pattern, _ in kinds])
-    states = sets.states()
-    return tuple(sorted([(state, tuple(numbers_of(some))) for state, some in zip(states, sets.sets)]))
+    sets, ways = sets_and_ways([name for name, _, _ in kinds], [pattern for _, pattern, _ in kinds])
+    return tuple(sorted([(state, tuple(numbers_of(some))) for state, some in zip(classes_of(ways), sets)]))
 
 
 def state_behind(table, state, sign):
@@ -59,35 +65,6 @@ def state_of(table, text):
 def kind_at(table, state):
     """The kind of a state's rows, or None, also where there is no state."""
     return None if state is None else table[state][0]
-
-
-def least_text(start, steps, is_goal):
-    """The least text by whose signs steps lead from a stand to a goal, or None.
-
-    steps(stand) lists (sign, next stand), the signs rising; so stands are met by their least texts.
-    """
-    came = {start: None}
-    stands = [start]
-    done = 0
-    while done < len(stands):
-        stand = stands[done]
-        done += 1
-        if is_goal(stand):
-            return text_to(came, stand)
-        for sign, to in steps(stand):
-            if to not in came:
-                came[to] = (sign, stand)
-                stands.append(to)
-    return None
-
-
-def text_to(came, stand):
-    """The text by which one came to a stand."""
-    signs = []
-    while came[stand] is not None:
-        sign, stand = came[stand]
-        signs.append(sign)
-    return "".join(signs[::-1])
 
 
 def single_steps(table, state):
@@ -116,16 +93,19 @@ def least_ending(table, state):
 
 
 def led_by_signs(table, state):
-    """A dict from signs to the states to which they lead, without any where there is no state."""
-    if state is None:
-        return {}
+    """A dict from signs to the states to which they lead."""
     return {sign: to for signs, to in table[state][1] for sign in signs}
 
 
 def double_steps(table, other, stand):
-    """The first sign to each next pair of states, and that pair; a state of a pair may be None."""
-    led = led_by_signs(table, stand[0])
-    other_led = led_by_signs(other, stand[1])
+    """The first sign to each next pair of states, and that pair; one state of a pair may be None."""
+    state, other_state = stand
+    if other_state is None:
+        return [(sign, (to, None)) for sign, to in single_steps(table, state)]
+    if state is None:
+        return [(sign, (None, to)) for sign, to in single_steps(other, other_state)]
+    led = led_by_signs(table, state)
+    other_led = led_by_signs(other, other_state)
     steps = {}
     for sign in sorted({**led, **other_led}):
         to = (led.get(sign), other_led.get(sign))
@@ -134,21 +114,20 @@ def double_steps(table, other, stand):
     return [(sign, to) for to, sign in steps.items()]
 
 
-def least_between(table, other, start):
-    """The least text that leads from a pair of states to unlike kinds, or to one and none, or None."""
-    def are_unlike(stand):
-        return kind_at(table, stand[0]) != kind_at(other, stand[1])
-    return least_text(start, lambda stand: double_steps(table, other, stand), are_unlike)
+def are_unlike(kind, other):
+    return kind != other
 
 
 def least_apart(table, one, other):
     """The least text that, put behind the rows of two states, makes texts not of the same kind."""
-    return least_between(table, table, (one, other))
+    def are_apart(stand):
+        return kind_at(table, stand[0]) != kind_at(table, stand[1])
+    return least_text((one, other), lambda stand: double_steps(table, table, stand), are_apart)
 
 
 def unlike_words(kinds, others):
     """None where each text has the same pieces by both, else the least text that has not."""
-    return least_between(word_table(kinds), word_table(others), (0, 0))
+    return least_between(ways_of_kinds(kinds), ways_of_kinds(others), are_unlike)
 
 
 def lost_word(table, kind, other, name):
@@ -161,6 +140,11 @@ def lost_word(table, kind, other, name):
     return least_text((0, 0), steps, is_lost)
 
 
+def is_beyond(kind, other):
+    return kind is not None and other is None
+
+
 def beyond(one, other):
     """The least text that the one pattern spells and the other does not, or None."""
-    return lost_word(table_of_patterns(["one"], [one]), "one", table_of_patterns(["other"], [other]), "other")
+    ways = sets_and_ways(["one"], [one])[1]
+    return least_between(ways, sets_and_ways(["other"], [other])[1], is_beyond)
