@@ -1,6 +1,7 @@
 """Points 39 to 41: grammars and patterns written and read."""
 
 import unittest
+from random import Random
 
 from tests.brute import EMPTY, LANGUAGE, again, either, maybe, more, signs, some_patterns, then, word
 from tests.brute_grammars import BARRED, KINDS, NAMED, PATTERNS, grammar_of, some_grammars
@@ -126,6 +127,24 @@ class Read(unittest.TestCase):
                      "#word z;\nrule\na # (\n: p :\nx\n b | q : ; word x [ab] # ;\n| \"cd\" ;\n\n bar p 2 r ;\n"
                      "rule b : r : x ; skip y ( \"c\" ) ; top\tb;#".replace("\t", " ")):
             self.assertEqual(read_grammar(text)[0], wanted, text)
+
+    def test_rows_in_any_order(self):
+        chance = Random(3)
+        for grammar in SAMPLES:
+            rows = show_grammar(grammar).splitlines()
+            for _ in range(5):
+                left = [[row for row in rows if row[:4] in ("word", "skip")], [row for row in rows if row[:4] == "rule"],
+                        [row for row in rows if row[:4] == "top "], [row for row in rows if row[:4] == "bar "]]
+                mixed = []
+                while any(left):
+                    mixed.append(chance.choice([one for one in left if one]).pop(0))
+                self.assertEqual(read_grammar("".join(mixed))[0], grammar)
+                self.assertEqual(sorted(mixed), sorted(rows))
+            # Kinds and rules stand as they stand in the text.
+            kinds, rules = rows[:len(grammar.kinds())], rows[len(grammar.kinds()):][:len(grammar.rules())]
+            rest = [row for row in rows if row.startswith("bar ")] + ["top " + grammar.begin() + ";"]
+            turned = read_grammar("".join(rest + rules[::-1] + kinds))[0]
+            self.assertEqual((turned.rules(), turned.begin()), (grammar.rules()[::-1], grammar.begin()))
 
     def test_gaps_and_remarks_anywhere(self):
         for grammar in SAMPLES[:12]:

@@ -153,6 +153,15 @@ class Wrong(unittest.TestCase):
                               (-1, places), (len(table), places), (None, places), (state, None), None, state):
                     self.assertTrue(fault(kinds, table, self.put(pairs, at, other)), other)
 
+    def test_states_to_which_nothing_leads_have_their_form_too(self):
+        for kinds in SMALL:
+            table, pairs = word_table(kinds), word_paper(kinds)
+            for state in ((None, (("a", 0),)), ("nil", (("ab", 0), ("c", 0))), (None, ())):
+                self.assertIsNone(word_fault(kinds, table + (state,), pairs))
+            for state in ((None, (("a", 0), ("a", 0))), (None, (("aa", 0),)), (None, (("ab", 0), ("cb", 1))), (None, (("%", 0),)),
+                          (None, (("a", len(table) + 1),)), (None, (("a", -1),)), (7, ()), (None, [("a", 0)]), (None, (["a", 0],))):
+                self.assertTrue(fault(kinds, table + (state,), pairs), state)
+
     def test_truths_are_no_numbers(self):
         kinds = [("x", signs("a"), False)]
         self.assertIsNone(word_fault(kinds, ((None, (("a", 1),)), ("x", ())), ((0, (0,)), (1, (1,)))))
