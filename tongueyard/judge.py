@@ -8,7 +8,7 @@ from tongueyard.judge_rows import CleanRows, are_texts, is_number_to, is_tuple_o
 from tongueyard.judge_tables import table_holds
 from tongueyard.judge_words import words_hold
 from tongueyard.judge_worths import worths_hold
-from tongueyard.logs import log_of
+from tongueyard.logs import alike_words, log_of
 from tongueyard.things import is_row_of, is_whole
 from tongueyard.trees import is_shape
 
@@ -89,9 +89,5 @@ def is_clash(grammar, one, other, at):
         return False
     deeds = log_of(grammar, one[1])
     others = log_of(grammar, other[1])
-    if deeds == others:
-        return False
-    alike = 0
-    while alike < min(len(deeds), len(others)) and deeds[alike] == others[alike]:
-        alike += 1
-    return at == deeds[:alike].count("") and one[0][:at + 1] == other[0][:at + 1]
+    return (deeds != others and at == alike_words(deeds, others)
+            and one[0][:at + 1] == other[0][:at + 1])

@@ -67,3 +67,11 @@ def shape_of_nodes(nodes):
         shape.append(label)
         due.extend(parts[::-1])
     return tuple(shape)
+
+
+def alike_words(log, other):
+    """How many words are among the deeds in which two logs are alike from their beginnings on."""
+    alike = 0
+    while alike < min(len(log), len(other)) and log[alike] == other[alike]:
+        alike += 1
+    return log[:alike].count("")
