@@ -36,6 +36,8 @@ def others(part):
         return STRANGE + [float(part), bool(part), str(part), (part,), [part]]
     if isinstance(part, str):
         return STRANGE + [part.encode(), (part,), [part], 0, True, tuple(part) + (0,)]
+    if isinstance(part, dict):
+        return [one for one in STRANGE if one != {}] + [0, True, "p", (), tuple(part.items())]
     return STRANGE[1:] + [0, True, "p", ()]
 
 
