@@ -26,7 +26,28 @@ FUNCTIONS = {
                 "completed": "grammar marks sums", "parted_tally": "grammar tally"},
     "logs": {"log_of": "grammar shape", "shape_of_log": "grammar log"},
     "judge_words": {"word_fault": "kinds table pairs", "words_hold": "grammar paper"},
+    "judge": {"lets_by": "grammar paper"},
+    "judge_mends": {"mends_hold": "grammar paper"},
+    "judge_worths": {"worths_hold": "grammar paper"},
+    "judge_known": {"known_holds": "grammar paper"},
+    "judge_bridges": {"led_holds": "grammar paper"},
+    "reading": {"nth_shape": "grammar row number", "place_of_shape": "grammar row shape", "only_shape": "grammar row",
+                "reading_paper": "grammar row", "dead_paper": "grammar row"},
+    "goingon": {"going_on": "grammar row"},
+    "states": {"begins_of": "grammar symbols ahead"},
+    "machine": {"run_kinds": "table kinds"},
+    "carry": {"table_text": "table", "read_table": "text"},
+    "mends": {"mended": "row deeds", "fewest": "grammar row", "mend": "grammar row", "mend_paper": "grammar row"},
+    "mendtables": {"lows": "grammar row", "nofewer_paper": "grammar row"},
 }
+# Functions with an argument by its name that has a default of its own: (file, function, arguments, name, default).
+NAMED_ONES = [("twice", "twice", ["grammar"], "most", 4), ("states", "split_states", ["grammar"], "limit", 120),
+              ("states", "merged_states", ["grammar"], "limit", 120), ("tables", "table_of", ["grammar"], "limit", 120),
+              ("tables", "why_ahead", ["grammar", "state", "label", "kind"], "limit", 120)]
+CLASSES = {("charts", "Chart", "grammar row"): {"facts": "", "reads": "", "bad": "", "next_kinds": "at", "how_many": "",
+                                                "__eq__": "other", "__len__": "", "__repr__": ""},
+           ("machine", "Machine", "table"): {"feed": "kind", "may": "", "stand": "", "log": "", "taken": "", "whole": "", "back": "many",
+                                             "twin": "", "__eq__": "other", "__len__": "", "__repr__": ""}}
 METHODS = {"kinds": "", "rules": "", "begin": "", "bars": "", "labels": "", "labels_of": "name", "row_of": "label",
            "rule_of": "label", "is_kind": "name", "__len__": "", "__eq__": "other", "__repr__": ""}
 
@@ -66,9 +87,29 @@ class Interface(unittest.TestCase):
         for name, wanted in {"plain": [], "led_in": ["shape"], "led_out": ["shape"], "old_label": ["label"]}.items():
             self.assertEqual([one.name for one in parameters(vars(module.Parted)[name])], ["self"] + wanted)
 
+    def test_arguments_by_their_names(self):
+        for file, name, ahead, named, default in NAMED_ONES:
+            function = getattr(importlib.import_module("tongueyard." + file), name)
+            self.assertEqual(function.__module__, "tongueyard." + file)
+            found = parameters(function)
+            self.assertEqual([one.name for one in found], ahead + [named])
+            self.assertEqual([one.default for one in found], [inspect.Parameter.empty] * len(ahead) + [default])
+            self.assertEqual(found[-1].kind, inspect.Parameter.KEYWORD_ONLY)
+
+    def test_classes(self):
+        for (file, name, made_of), methods in CLASSES.items():
+            found = getattr(importlib.import_module("tongueyard." + file), name)
+            self.assertEqual(found.__module__, "tongueyard." + file)
+            self.assertEqual([one.name for one in parameters(found)], made_of.split())
+            for method, wanted in methods.items():
+                self.assertIn(method, vars(found))
+                self.assertEqual([one.name for one in parameters(vars(found)[method])], ["self"] + wanted.split())
+
     def test_values(self):
         self.assertEqual(importlib.import_module("tongueyard.grammars").END, ".")
         self.assertEqual(len(importlib.import_module("tongueyard.patterns").SIGNS), 95)
         sorts = importlib.import_module("tongueyard.sorts")
         self.assertEqual((sorts.MOST, sorts.LONG, sorts.MEMBERS), (1000000000, 60, 40))
         self.assertIs(type(importlib.import_module("tongueyard.gtexts").META), str)
+        self.assertEqual(importlib.import_module("tongueyard.twice").TEXTS, 200)
+        self.assertEqual(importlib.import_module("tongueyard.states").STATES, 120)
