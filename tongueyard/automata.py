@@ -86,7 +86,7 @@ class Items:
                 by_symbol.setdefault(symbol, {})[(item[0], item[1] + 1)] = mask
         return {symbol: by_symbol[symbol] for symbol in self.symbols if symbol in by_symbol}
 
-    def told(self, items):
+    def told_items(self, items):
         """The tuple of a state's items as they are told."""
         return tuple([(self.heads[number], dot, self.ahead_of(mask)) for (number, dot), mask in sorted(items.items())])
 
@@ -126,7 +126,8 @@ class States:
     def lead(self, is_split):
         """Finds where the first state leads that was not led on; split ones are alike by their aheads, too."""
         gos = {}
-        for symbol, items in self.base.gone(self.found[len(self.gos)]).items():
+        gone = self.base.gone(self.found[len(self.gos)])
+        for symbol, items in gone.items():
             key = tuple(sorted(items.items())) if is_split else tuple(sorted(items))
             to = self.number_of(items, key)
             if to is not None:
@@ -142,7 +143,7 @@ class States:
 
     def told(self):
         """The list of the states as they are told."""
-        return [self.base.told(items) for items in self.found]
+        return [self.base.told_items(items) for items in self.found]
 
 
 def split_ones(items, limit):
@@ -176,7 +177,8 @@ def put_aheads(states):
     due = list(range(len(states.found)))
     while due:
         number = due.pop()
-        for symbol, items in states.base.gone(states.found[number]).items():
+        gone = states.base.gone(states.found[number])
+        for symbol, items in gone.items():
             to = states.gos[number][symbol]
             there = states.found[to]
             if [item for item, mask in items.items() if there[item] | mask != there[item]]:

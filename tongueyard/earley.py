@@ -7,7 +7,7 @@ class Facts:
     """All facts of the kinds taken so far, of the clean alternatives alone.
 
     Of each place: sets: a dict of the facts (label, dot, first) that end there; waiting: by the symbol that is
-    next the list of these; whole: a dict of the (rule, first) of which a whole fact ends there.
+    next the list of these; ended: a dict of the (rule, first) of which a whole fact ends there.
     """
 
     def __init__(self, grammar):
@@ -21,7 +21,7 @@ class Facts:
                 self.homes[label] = name
         self.sets = []
         self.waiting = []
-        self.whole = []
+        self.ended = []
         self._due = []
         self.add_place([(label, 0, 0) for label, _ in self.clean.alternatives.get(self.top, [])])
 
@@ -34,7 +34,7 @@ class Facts:
         """Takes the last kind back."""
         self.sets.pop()
         self.waiting.pop()
-        self.whole.pop()
+        self.ended.pop()
 
     def is_dead(self):
         """Whether no text of the grammar begins with the kinds taken."""
@@ -42,7 +42,7 @@ class Facts:
 
     def may_end(self, at):
         """Whether the first kinds, so many, are a text."""
-        return (self.top, 0) in self.whole[at]
+        return (self.top, 0) in self.ended[at]
 
     def next_kinds(self, at):
         """The list of the kinds that can stand behind the first ones, so many."""
@@ -52,7 +52,7 @@ class Facts:
         """Adds a place at which some facts end, and all that come with them."""
         self.sets.append({})
         self.waiting.append({})
-        self.whole.append({})
+        self.ended.append({})
         for fact in facts:
             self.put(fact)
         while self._due:
@@ -70,8 +70,8 @@ class Facts:
 
     def complete(self, name, first):
         """Leads on the facts that wait for a rule at the place where a whole fact of it begins."""
-        if (name, first) not in self.whole[-1]:
-            self.whole[-1][(name, first)] = True
+        if (name, first) not in self.ended[-1]:
+            self.ended[-1][(name, first)] = True
             waiting = list(self.waiting[first].get(name, []))
             for label, dot, start in waiting:
                 self.put((label, dot + 1, start))
@@ -85,7 +85,7 @@ class Facts:
                 self.put((label, 0, here))
         self.waiting[-1][symbol].append(fact)
         # What comes to no words may have been completed here ahead of this fact.
-        if (symbol, here) in self.whole[-1]:
+        if (symbol, here) in self.ended[-1]:
             self.put((fact[0], fact[1] + 1, fact[2]))
 
 

@@ -13,7 +13,7 @@ class Forest:
         self._top = (facts.top, 0, len(row))
         # Of each place, by rules, where their nodes begin that end there.
         self._starts = []
-        for whole in facts.whole:
+        for whole in facts.ended:
             starts = {}
             for name, first in whole:
                 starts.setdefault(name, []).append(first)
@@ -120,7 +120,7 @@ class Forest:
                 elif taken is None:
                     number = number - many
             climb.take(taken)
-        return tuple(climb.taken)
+        return tuple(climb.path)
 
     def place_of(self, shape):
         """The number of a shape, which must be one of the row's."""
@@ -175,7 +175,7 @@ class Climb:
         self._at = 0
         # What is due, the next one last: (symbol, by places the ways in which what is behind it can be).
         self._due = [(forest.top_symbol(), {forest.end(): 1})]
-        self.taken = []
+        self.path = []
 
     def is_due(self):
         return len(self._due) > 0
@@ -187,7 +187,7 @@ class Climb:
 
     def take(self, label):
         _, ends = self._due.pop()
-        self.taken.append(label)
+        self.path.append(label)
         row = self._forest.row_of(label)
         for symbol in row[::-1]:
             self._due.append((symbol, ends))

@@ -30,7 +30,7 @@ class Endings:
         self._outer = {(facts.top, 0): 0}
         self._waits = {(facts.top, 0): None}
         for place in range(len(facts.sets)):
-            self.reckon(place)
+            self.reckon_place(place)
 
     def cost_of(self, fact):
         """How many kinds must come for a fact to be whole, and all around it behind that."""
@@ -38,7 +38,7 @@ class Endings:
         rest = self._facts.rows[label][dot:]
         return self._outer[(self._facts.homes[label], first)] + sum([self._costs[symbol] for symbol in rest])
 
-    def reckon(self, place):
+    def reckon_place(self, place):
         """Reckons the spots that begin at a place; those further ahead are reckoned."""
         spots = [(name, fact) for name, waiting in self._facts.waiting[place].items()
                  if name in self._facts.clean.alternatives for fact in waiting]

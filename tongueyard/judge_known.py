@@ -2,7 +2,7 @@
 
 from tongueyard.errors import NoTree
 from tongueyard.grammars import END
-from tongueyard.judge_rows import CleanRows, are_rising, is_number_to, is_tuple_of_rows
+from tongueyard.judge_rows import CleanRows, are_rising, has_all, is_number_to, is_tuple_of_rows
 from tongueyard.things import is_row_of, is_whole
 from tongueyard.trees import need_walk
 
@@ -158,8 +158,3 @@ class JudgedKnown:
         if len(falls) != len(self._standing) or not has_all(falls, self._standing):
             return False
         return all([falls[name] > falls[part] for name, part in self._clean.steps(self._standing)])
-
-
-def has_all(found, wanted):
-    """Whether a dict has all of some keys."""
-    return all([key in found for key in wanted])

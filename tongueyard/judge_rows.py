@@ -131,3 +131,8 @@ def is_number_to(thing, most):
 def are_rising(things):
     """Whether each of some texts, or tuples of texts, is greater than the one ahead."""
     return all([things[at - 1] < things[at] for at in range(1, len(things))])
+
+
+def has_all(found, wanted):
+    """Whether a dict is there, and has all of some keys."""
+    return found is not None and all([key in found for key in wanted])

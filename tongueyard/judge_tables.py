@@ -1,7 +1,7 @@
 """The judge of tables."""
 
 from tongueyard.grammars import END
-from tongueyard.judge_rows import CleanRows, is_number_to
+from tongueyard.judge_rows import CleanRows, has_all, is_number_to
 from tongueyard.things import is_row_of, is_whole
 
 
@@ -151,8 +151,3 @@ class JudgedTable:
 
 def members(ahead):
     return {kind: True for kind in ahead}
-
-
-def has_all(found, wanted):
-    """Whether a dict is there, and has all keys of another one."""
-    return found is not None and all([kind in found for kind in wanted])

@@ -36,14 +36,14 @@ class Lowest:
             grown = False
             for name, label, symbols in self._rows:
                 for dot in range(1, len(symbols) + 1):
-                    self.lower(label, dot, symbols[dot - 1], first, behind)
+                    self.take_low(label, dot, symbols[dot - 1], first, behind)
                 low = self.lows.get((label, len(symbols), first, behind))
                 known = self._names.get((name, first, behind))
                 if low is not None and (known is None or low < known[0]):
                     self._names[(name, first, behind)] = (low, label)
                     grown = True
 
-    def lower(self, label, dot, symbol, first, behind):
+    def take_low(self, label, dot, symbol, first, behind):
         """Takes the fewest deeds that are known for the first symbols of a label, the last one told."""
         for middle in range(first, behind + 1):
             ahead = self.lows.get((label, dot - 1, first, middle))

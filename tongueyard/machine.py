@@ -59,15 +59,15 @@ class Machine:
 
     def may(self):
         kinds = [kind for kind in list(self._deeds[self._stand[-1]]) if self.goes_by(kind)]
-        return sorted(kinds + ([END] if self.is_whole() else []))
+        return sorted(kinds + ([END] if self.can_end() else []))
 
-    def is_whole(self):
+    def can_end(self):
         """Whether the kinds taken are a text."""
         deed = self.led_by(END)[3]
         return deed is not None and deed[0] == "done"
 
     def whole(self):
-        if not self.is_whole():
+        if not self.can_end():
             raise Stop(len(self._taken), self.may())
         nodes = []
         # The pieces that are open: the numbers of nodes, None for words.

@@ -18,14 +18,14 @@ class Trails:
         due = list(self._came)
         done = 0
         while done < len(due):
-            spots = self.behind(due[done])
+            spots = self.led_from(due[done])
             for spot in spots:
                 if spot not in self._came:
                     self._came[spot] = due[done]
                     due.append(spot)
             done += 1
 
-    def behind(self, spot):
+    def led_from(self, spot):
         """The list of the spots to which one leads straight."""
         state, number, dot, end = spot
         symbol = self._items.next_of((number, dot))
