@@ -6,6 +6,7 @@ import unittest
 from tests.brute import signs
 from tests.brute_grammars import (BARRED, NAMED, SUMS, all_nodes, grammar_of, is_plain_shape, labels_by_rule,
                                   numbers_of_shape, rows_of, shapes_up_to, some_grammars, spelled_plainly)
+from tests.brute_reading import barren_rules
 from tongueyard.errors import Barred
 from tongueyard.grammars import END, Grammar
 from tongueyard.known import begins, can_be_empty, follows, known_paper, least, ring, stands
@@ -14,17 +15,6 @@ from tongueyard.trees import is_shape, spelled_by
 SAMPLES = list(NAMED.values()) + some_grammars(3, 60)
 MAKERS = (least, can_be_empty, stands, begins, follows, ring, known_paper)
 DEPTH = 6
-
-
-def barren_rules(grammar):
-    """The rules of which there is no shape, by leaving out again and again what comes to an end."""
-    left = dict(grammar.rules())
-    gone = True
-    while gone:
-        gone = [name for name in left if any(all(part not in left for part in row) for _, row in left[name])]
-        for name in gone:
-            del left[name]
-    return list(left)
 
 
 def clean_rows(grammar):

@@ -102,7 +102,10 @@ def begun(items, symbols, ahead):
 
 
 class States:
-    """States as they are found: found: of each its items with their aheads; gos: by symbols where it leads."""
+    """States, numbered as they are met.
+
+    found: of each its items with their aheads; gos: of each that was led on, by symbols, where it leads.
+    """
 
     def __init__(self, items, limit):
         self.base = items
@@ -146,30 +149,22 @@ class States:
         return [self.base.told_items(items) for items in self.found]
 
 
-def split_ones(items, limit):
-    """All split states; refuses more than a limit."""
+def found_ones(items, limit, is_split):
+    """All states, split ones or such as are alike but for their aheads; refuses more than a limit."""
     states = States(items, limit)
     states.begin()
     while not states.is_done():
-        states.lead(True)
-        need_few(states)
+        states.lead(is_split)
+        if states.has_more:
+            raise TooMany(limit)
     return states
 
 
 def merged_ones(items, limit):
     """All merged states; refuses more than a limit."""
-    states = States(items, limit)
-    states.begin()
-    while not states.is_done():
-        states.lead(False)
-        need_few(states)
+    states = found_ones(items, limit, False)
     put_aheads(states)
     return states
-
-
-def need_few(states):
-    if states.has_more:
-        raise TooMany(states.limit)
 
 
 def put_aheads(states):

@@ -1,6 +1,6 @@
 """The states of grammars: split ones, and those merged whose items are alike but for their aheads."""
 
-from tongueyard.automata import Items, begun, merged_ones, split_ones
+from tongueyard.automata import Items, begun, found_ones, merged_ones
 
 STATES = 120
 
@@ -17,7 +17,7 @@ def begins_of(grammar, symbols, ahead):
 
 def split_states(grammar, *, limit=STATES):
     """The list of the split states, as they are found."""
-    return split_ones(Items(grammar), limit).told()
+    return found_ones(Items(grammar), limit, True).told()
 
 
 def merged_states(grammar, *, limit=STATES):
