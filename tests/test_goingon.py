@@ -63,6 +63,16 @@ class Fewest(unittest.TestCase):
             going_on(READ["none"], [])
         self.assertEqual((caught.exception.at, caught.exception.may_kinds), (0, []))
 
+    def test_the_fewest_of_several_surroundings(self):
+        for rows in ("a: p b y y y | q b", "a: p b | q b y y y", "a: p b y y | q c | r b y\n c: u b | v b x x",
+                     "a: p c c c | q c | r x\n c: s b | t c y y"):
+            grammar = grammar_of(rows + "\n b: z x x")
+            texts = texts_up_to(grammar, 8)
+            for row in (["x"], ["x", "x"], ["x", "x", "y"]):
+                ahead = [text for text in texts if text[:len(row)] == tuple(row)]
+                if ahead:
+                    self.assertEqual(len(going_on(grammar, row)), len(ahead[0]))
+
     def test_what_is_told_may_be_handed_in(self):
         rows = ["a%s: l%s %s" % ("bcdef"[at], "bcdef"[at], " ".join(["a" + "bcdefg"[at + 1]] * 4)) for at in range(5)]
         grammar = grammar_of("\n".join(rows + ["ag: m x y"]))

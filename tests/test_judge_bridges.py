@@ -57,6 +57,9 @@ class Right(unittest.TestCase):
     def test_names(self):
         for more_names in ({"b": "aa"}, {"b": "k"}, {"gap": "aa"}, {"gap": "z"}, {"z": "bb"}, {"p": "bb"}, {"gap": "x"}, {"b": ""}):
             self.assertFalse(lets_by(OLD, paper(names={**NAMES, **more_names})), more_names)
+        free = {name: NAMES[name] for name in "axy"}
+        for more_names in ({"z": "bb"}, {"z": "l"}, {"p": "bb"}, {"b": "l"}, {"gap": "bb"}, {"b": "z"}, {"gap": "pp"}):
+            self.assertFalse(lets_by(OLD, paper(names={**free, **more_names})), more_names)
         for more_names in ({"gap": "gap"}, {"gap": "l"}):
             self.assertTrue(lets_by(OLD, paper(names={**NAMES, **more_names})), more_names)
         self.assertTrue(lets_by(OLD, paper(names={name: NAMES[name] for name in "axy"})))
@@ -86,9 +89,24 @@ class Right(unittest.TestCase):
                 ("p", (("node", "pp"), ("word", "gap", " "), ("part", 3), ("within", 1, "s", 1))),
                 ("p", (("node", "pp"), ("part", True), ("part", 3), ("within", 1, "s", 1))),
                 ("p", (("node", "p"), ("part", 2), ("part", 3), ("within", 1, "s", 1))),
+                ("p", (("node", "pp"), ("part", 2), ("part", 3), ("other", 1, "s", 1))),
+                ("p", (("node", "pp"), ("part", 2), ("part", 3), ("within", 1, "s"))),
+                ("p", (("node", "pp"), ("part", 2), ("part", 3), ("within", 1, "s", 1, 1))),
+                ("p", (("node", "pp"), ("part", 2), ("part", 3), ("within", 9, "s", 1))),
+                ("p", (("node", "pp"), ("part", 2), ("part", 3), ("within", 1, ["s"], 1))),
+                ("p", (("node", "pp"), ("part", 2), ("part", 3), ("word", "z", "a"))),
+                ("p", (("node", "pp"), ("part", 2), ("part", 3), ("part", 1, 1))),
+                ("p", (("node", "pp"), ("part", 2), ("part", 3), ())), ("p", (("node", "pp"), ("part", 2), ("part", 3), (None, 1))),
+                ("p", (("node", "pp"), ("part", 2), ("part", 3), None)), ("p", (("node", "pp"), ("part", 2), ("part", 3), "node")),
+                ("p", (None,)), ("p", ((),)), ("p", ("node",)), ("p", (("within", 1, "s", 2),)),
                 ("r", (("node", "tt"),)), ("r", (("node", "rr"),)), ("r", (("node", "rr"), ("node", "tt"), ("node", "tt"))),
                 ("r", (("other", "rr"), ("node", "tt"))), ("r", (("node", "rr", 1), ("node", "tt"))), ("r", (("node",), ("node", "tt")))):
             self.assertFalse(lets_by(OLD, paper(templates={**good, label: pieces})), pieces)
+            # So too where no node of the tree is led by it.
+            alone = {one: good[one] for one in "qr" if one != label}
+            tree, other = ((("q",), (("x", "x"),)), (("qq",), (("x", "x"), ("l", "end")))) if label == "r" else ((("r",), ()), (("rr", "tt"), ()))
+            self.assertTrue(lets_by(OLD, paper(templates=alone, tree=tree, other=other)))
+            self.assertFalse(lets_by(OLD, paper(templates={**alone, label: pieces}, tree=tree, other=other)), pieces)
 
     def test_other_templates(self):
         for label, pieces, other in (

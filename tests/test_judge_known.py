@@ -8,7 +8,7 @@ from tests.brute_reading import READ
 from tongueyard.judge import lets_by
 from tongueyard.judge_known import known_holds
 from tongueyard.known import known_paper, ring
-from tongueyard.grammars import END
+from tongueyard.grammars import END, Grammar
 from tongueyard.trees import nodes_of, spelled_by
 
 SAMPLES = list(NAMED.values()) + list(READ.values()) + some_grammars(45, 60)
@@ -73,7 +73,8 @@ class Known(unittest.TestCase):
         grammar = grammar_of("a: p x\n b: q a")
         paper = known_paper(grammar)
         self.assertEqual(paper[6], (("a", 0),))
-        self.assertFalse(lets_by(grammar, put(paper, 6, (("a", 0), ("b", 1)))))
+        for falls in ((("a", 0), ("b", 1)), (("b", 0),), (("z", 0),), ()):
+            self.assertFalse(lets_by(grammar, put(paper, 6, falls)))
 
     def test_least_ones(self):
         grammar = grammar_of("a: p x | q y | r b\n b: s a | t x x")
@@ -146,3 +147,6 @@ class Known(unittest.TestCase):
         self.assertFalse(known_holds(SUMS, ("known",)))
         for grammar in BARRED.values():
             self.assertFalse(known_holds(grammar, known_paper(SUMS)))
+            plain = Grammar(grammar.kinds(), grammar.rules(), begin=grammar.begin())
+            self.assertTrue(known_holds(plain, known_paper(plain)))
+            self.assertFalse(known_holds(grammar, known_paper(plain)))

@@ -86,6 +86,56 @@ class Holding(unittest.TestCase):
         self.assertTrue(holds(grammar, with_deed(more, state, "y", ("by", "q", 1, "b"))))
 
 
+class Alone(unittest.TestCase):
+    """Tables in which all else is as it ought to be."""
+
+    def test_the_wholes_ahead_is_the_end_alone(self):
+        grammar = grammar_of("a: p x")
+        table = table_of(grammar)
+        state = table[1][0]["a"][1]
+        self.assertEqual(table[0][state], ((END, 1, (END,)),))
+        more = with_deed(with_part(table, (0, state, 0, 2), (END, "y")), state, "y", ("done",))
+        self.assertFalse(holds(grammar, more))
+        less = with_deed(with_part(table, (0, state, 0, 2), ()), state, END, None)
+        self.assertFalse(holds(grammar, less))
+
+    def test_aheads_of_texts_that_are_no_kinds(self):
+        grammar = grammar_of("a: p x")
+        table = table_of(grammar)
+        state = table[1][0]["x"][1]
+        for strange, wanted in (("x", True), ("y", True), ("z", False), ("a", False), ("p", False), ("", False), (None, False), (0, False)):
+            more = with_part(table, (0, state, 0, 2), (END, strange))
+            self.assertEqual(holds(grammar, with_deed(more, state, strange, ("by", "p", 1, "a"))), wanted, strange)
+
+    def test_no_go_leads_to_the_first_state(self):
+        grammar = grammar_of("a: p x")
+        labels = ((END, 0, (END,)), ("p", 0, (END,)), ("p", 1, (END,))), ((END, 1, (END,)),)
+        deeds = {"a": ("go", 1), "x": ("go", 0), END: ("by", "p", 1, "a")}, {END: ("done",)}
+        self.assertFalse(holds(grammar, (labels, deeds)))
+        self.assertFalse(plain_holds(grammar, (labels, deeds)))
+        # Nothing is asked of a state by gos to it where there are none.
+        labels = labels + (labels[0][2:],)
+        deeds = {**deeds[0], "x": ("go", 2)}, deeds[1], {END: ("by", "p", 1, "a")}
+        self.assertTrue(holds(grammar, (labels, deeds)))
+
+    def test_deeds_of_another_form(self):
+        for grammar, table in TABLES[:20]:
+            for number, deeds in enumerate(table[1]):
+                for symbol, deed in deeds.items():
+                    for other in (deed + (0,), deed[:-1], list(deed), (deed[0].upper(),) + deed[1:], (deed,), ("go",) + deed):
+                        self.assertFalse(holds(grammar, with_deed(table, number, symbol, other)))
+
+    def test_what_names_begin_with_by_other_names(self):
+        grammar = grammar_of("a: p b c\n b: q x\n c: r d\n d: s e\n e: t y")
+        table = table_of(grammar)
+        self.assertTrue(holds(grammar, table))
+        state = table[1][0]["x"][1]
+        self.assertEqual(table[0][state], (("q", 1, ("y",)),))
+        at = [item[0] for item in table[0][0]].index("q")
+        less = with_part(with_part(table, (0, 0, at, 2), ()), (0, state, 0, 2), ())
+        self.assertFalse(holds(grammar, with_deed(less, state, "y", None)))
+
+
 class Bent(unittest.TestCase):
     def test_bent_by_chance_against_the_plain_judge(self):
         chance = Random(9)

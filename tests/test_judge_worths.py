@@ -8,6 +8,7 @@ from tests.brute_grammars import BARRED, NAMED, SUMS, grammar_of, shapes_up_to, 
 from tests.brute_reading import READ
 from tests.brute_worths import PlainOrders, PlainTree, plain_worth, reads_of, some_tallies
 from tests.test_tallies import MARKS, SUMS_OF
+from tongueyard.grammars import Grammar
 from tongueyard.judge import lets_by
 from tongueyard.judge_worths import worths_hold
 from tongueyard.reckoning import worth_of
@@ -25,9 +26,9 @@ def rows_told(grammar, tally, tree, given=()):
 class Expressions(unittest.TestCase):
     def test_against_plain_ones(self):
         numbers = [("number", n) for n in (0, 1, 7, 10 ** 9, 999999999, 31623)]
-        texts = [("text", t) for t in ("", "a", "007", "123456789", "1234567890", "12a", "+1", "x" * 60, "9" * 59)]
+        texts = [("text", t) for t in ("", "a", "007", "7", "0", "123456789", "1234567890", "12a", "+1", "x" * 60, "9" * 59)]
         some = ("nobody",)
-        for text in texts[1:5]:
+        for text in texts[1:7]:
             some = ("either", some, ("just", text))
         names = [("nobody",), ("just", ("text", "a")), ("just", ("text", "007")), some]
         made = [(word, one, other) for word in ("plus", "times", "less", "most", "same") for one in numbers for other in numbers]
@@ -149,6 +150,8 @@ class Worths(unittest.TestCase):
         self.assertTrue(lets_by(grammar, ("worth", tally, tree, (), rows)))
         barred = (("p", "r", "p", "r", "r"), tree_of(grammar, ("p", "r", "p", "r", "r"))[1])
         self.assertFalse(lets_by(grammar, ("worth", tally, barred, (), ((1, "n", 0),))))
+        plain = Grammar(grammar.kinds(), grammar.rules(), begin=grammar.begin())
+        self.assertTrue(worths_hold(plain, PlainOrders(grammar, tally).paper(tally)))
         for paper in (PlainOrders(grammar, tally).paper(tally), ("orders", tally, ()), ("round", tally, (), ())):
             self.assertFalse(lets_by(grammar, paper))
             self.assertFalse(worths_hold(grammar, paper))
@@ -211,7 +214,7 @@ class Orders(unittest.TestCase):
         # A choice that no tree makes, with its order: the relation that comes of it is there already.
         row = ("p", ((("n", "m"),),), ((0, "n"), (1, "n"), (1, "m"), (0, "m")))
         self.assertTrue(lets_by(grammar, ("orders", tally, paper[2] + (row,))))
-        for choice in (((("m", "n"),),), ((("n", "z"),),), ((("n", "m"), ("n", "m")),), (), ((), ()), ((("n", "m", "n"),),), ([],),
+        for choice in (((("m", "n"),),), ((("n", "z"),),), ((("z", "m"),),), ((("m", "m"),),), ((("n", "n"),),), (((None, "m"),),), ((("n", "m"), ("n", "m")),), (), ((), ()), ((("n", "m", "n"),),), ([],),
                        (None,), ((["n", "m"],),)):
             self.assertFalse(lets_by(grammar, ("orders", tally, paper[2] + (("p", choice, row[2]),))))
         for label in ("z", None, ("p",), "a"):

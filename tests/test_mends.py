@@ -292,8 +292,17 @@ class Mends(unittest.TestCase):
         self.assertTrue(lets_by(SUMS, paper))
         self.assertTrue(mends_hold(SUMS, paper))
         check_form(self, SUMS, paper)
+        for deeds in ((("keep", "num"),), (("turn", "num"),), (KEEP, ("drop", "x")), (("other", "x"), KEEP), (KEEP, ("put", "num", "x")),
+                      (KEEP, KEEP), (), (("keep",), ()), (("put", "num"),)):
+            self.assertFalse(lets_by(SUMS, ("mend", ("num",), deeds, ("one", "leaf"))), deeds)
+        self.assertFalse(lets_by(SUMS, ("mend", ("num", "num"), (KEEP, ("drop", "x")), ("one", "leaf"))))
+        self.assertFalse(lets_by(SUMS, ("mend", ("num", "num"), (KEEP, ("other", "x")), ("one", "leaf"))))
+        self.assertTrue(lets_by(SUMS, ("mend", ("num", "num"), (KEEP, DROP), ("one", "leaf"))))
         for bars in BARRED.values():
-            self.assertFalse(mends_hold(bars, paper))
+            plain = Grammar(bars.kinds(), bars.rules(), begin=bars.begin())
+            for other in (mend_paper(plain, ["x"]), nofewer_paper(plain, ["x"])):
+                self.assertTrue(mends_hold(plain, other))
+                self.assertFalse(mends_hold(bars, other))
 
     def test_the_same_asked_again(self):
         for grammar in SAMPLES[:20]:

@@ -24,10 +24,10 @@ def is_dict_of_deeds(thing, many):
     """Whether a thing is a dict from texts to deeds of a table of so many states."""
     if not isinstance(thing, dict):
         return False
-    return all([isinstance(symbol, str) and is_deed(deed, many) for symbol, deed in thing.items()])
+    return all([isinstance(symbol, str) and is_table_deed(deed, many) for symbol, deed in thing.items()])
 
 
-def is_deed(thing, many):
+def is_table_deed(thing, many):
     """Whether a thing has the form of a deed; a go leads to a state, but never to state 0."""
     if not isinstance(thing, tuple) or len(thing) == 0 or not isinstance(thing[0], str):
         return False
