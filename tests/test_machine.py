@@ -11,6 +11,7 @@ from tests.test_tables import SPLIT
 from tongueyard.charts import Chart
 from tongueyard.errors import Clash, NoPlace, Stop, TooMany
 from tongueyard.grammars import END
+from tongueyard.judge import lets_by
 from tongueyard.logs import log_of, shape_of_log
 from tongueyard.machine import Machine, run_kinds
 from tongueyard.tables import table_of
@@ -252,5 +253,16 @@ class Back(unittest.TestCase):
             third = Machine(table)
             third.feed("num")
             self.assertFalse(one == third)
+        turned = tuple(tuple((label, dot, ahead[::-1]) for label, dot, ahead in state) for state in SUM_TABLE[0])
+        third = Machine((turned, SUM_TABLE[1]))
+        third.feed("num")
+        self.assertFalse(one == third)
+        # The same states, but another one of two alike is gone to.
+        double = SUM_TABLE[0] + (SUM_TABLE[0][1],), SUM_TABLE[1] + (SUM_TABLE[1][1],)
+        other = copy.deepcopy(double)
+        for deeds in other[1]:
+            deeds.update({symbol: ("go", len(SUM_TABLE[0])) for symbol, deed in deeds.items() if deed == ("go", 1)})
+        self.assertTrue(lets_by(SUMS, ("table", double)) and lets_by(SUMS, ("table", other)))
+        self.assertFalse(Machine(double) == Machine(other))
         for thing in (None, ["num"], SUM_TABLE, "Machine(['num'])", 1):
             self.assertFalse(one == thing)

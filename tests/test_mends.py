@@ -63,7 +63,7 @@ class Deeds(unittest.TestCase):
         for thing in ANYTHING + [("keep", "x"), ("keep", None), ("drop", "x"), ("put",), ("put", "x", "y"), ("turn",), ("turn", "x", "y"),
                                  ("Keep",), ["keep"], ("put", ""), ("put", "X"), ("put", None), ("put", 1), ("put", ("x",)),
                                  ("put", "word"), ("put", "abcdefghi"), ("put", "."), ("turn", ""), ("turn", b"y"), "keep",
-                                 ("put", ["x"]), (None,), ((),), (["keep"],)]:
+                                 ("put", ["x"]), ("other", "x"), ("keeps",), (None,), ((),), (["keep"],)]:
             self.assertEqual(refused(["x", "y"], [KEEP, thing, KEEP]), 1, thing)
             self.assertEqual(refused(["x"], [KEEP, KEEP, thing]), 1, thing)
             self.assertEqual(refused([], [thing]), 0, thing)

@@ -1,6 +1,7 @@
 """Point 64: the search for a text with two shapes."""
 
 import unittest
+from itertools import permutations
 
 from tests.brute import signs
 from tests.brute_grammars import BARRED, NAMED, SUMS, grammar_of, labels_by_rule, rows_of, some_grammars
@@ -89,6 +90,12 @@ class Twice(unittest.TestCase):
         rules = grammar.rules()
         self.assertEqual(twice(Grammar(kinds, rules)), ("two", ("y", "y"), ("p",), ("q",)))
         self.assertEqual(twice(grammar, most=1), ("one", ((), ())))
+
+    def test_surroundings_that_come_late(self):
+        for order in permutations(["p b x", "q c x y", "s d y", "u e"]):
+            for rules in permutations(["b: r x x", "c: v b y", "d: t c x", "e: w d y x"]):
+                grammar = grammar_of("a: %s\n %s" % (" | ".join(order), "\n".join(rules)))
+                self.assertEqual(told(grammar, 8), slow_twice(grammar, 8))
 
     def test_too_many(self):
         kinds = [(name, signs(name), False) for name in "abcdefghijklmn"]

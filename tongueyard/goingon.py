@@ -10,7 +10,7 @@ from tongueyard.trees import spelled_by
 def going_on(grammar, row):
     """A text of the fewest kinds that begins with a row of kinds."""
     facts = facts_of(grammar, row)
-    if len(facts.sets) <= len(row) or facts.is_dead():
+    if facts.is_dead():
         chart = Chart(grammar, row)
         raise NoReading(chart.bad(), chart.next_kinds(chart.bad()))
     return list(row) + Endings(grammar, facts).fewest()

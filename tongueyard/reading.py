@@ -58,6 +58,6 @@ def reading_paper(grammar, row):
 def dead_paper(grammar, row):
     """The paper that no text begins with a row, None where one does."""
     facts = facts_of(grammar, row)
-    if len(facts.sets) == len(row) + 1 and not facts.is_dead():
+    if not facts.is_dead():
         return None
     return ("dead", tuple(row), Chart(grammar, row).facts())

@@ -40,7 +40,7 @@ class Trails:
 
     def shape_to(self, spot):
         """A shape of the beginning in which a spot is come to, its end next behind the label."""
-        number, dot = spot[1], spot[2]
+        number = spot[1]
         shape = self.head_of(number) + self._items.clean.least_of(self._items.rows[number])
         while spot is not None:
             ahead = self._came[spot]
