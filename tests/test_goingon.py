@@ -1,6 +1,7 @@
 """Point 59: texts of the fewest kinds that begin with a row."""
 
 import unittest
+from itertools import permutations
 
 from tests.brute_grammars import NAMED, SUMS, grammar_of, some_grammars
 from tests.brute_reading import READ, all_rows, texts_up_to
@@ -72,6 +73,15 @@ class Fewest(unittest.TestCase):
                 ahead = [text for text in texts if text[:len(row)] == tuple(row)]
                 if ahead:
                     self.assertEqual(len(going_on(grammar, row)), len(ahead[0]))
+
+    def test_surroundings_that_come_late(self):
+        for order in permutations(["p b y y y y", "q c x y", "s d y", "u e"]):
+            for rules in permutations(["b: r x x", "c: v b y", "d: t c", "e: w d"]):
+                grammar = grammar_of("a: %s\n %s" % (" | ".join(order), "\n".join(rules)))
+                texts = texts_up_to(grammar, 7)
+                for row in (("x",), ("x", "x")):
+                    fewest = min(len(text) for text in texts if text[:len(row)] == row)
+                    self.assertEqual(len(going_on(grammar, list(row))), fewest)
 
     def test_what_is_told_may_be_handed_in(self):
         rows = ["a%s: l%s %s" % ("bcdef"[at], "bcdef"[at], " ".join(["a" + "bcdefg"[at + 1]] * 4)) for at in range(5)]

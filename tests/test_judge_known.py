@@ -140,6 +140,12 @@ class Known(unittest.TestCase):
         self.assertTrue(lets_by(grammar, known_paper(grammar)))
         self.assertFalse(lets_by(SUMS, known_paper(grammar)))
 
+    def test_without_the_beginning(self):
+        for grammar in SAMPLES:
+            paper = known_paper(grammar)
+            for other in (paper[:3] + ((), (), (), ()), paper[:4] + ((), (), ()), paper[:3] + ((),) + paper[4:]):
+                self.assertEqual(lets_by(grammar, other), other == paper)
+
     def test_forms(self):
         for grammar in (SUMS, NAMED["ring"], READ["apart"]):
             check_form(self, grammar, known_paper(grammar), 60)

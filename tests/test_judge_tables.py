@@ -107,6 +107,12 @@ class Alone(unittest.TestCase):
             more = with_part(table, (0, state, 0, 2), (END, strange))
             self.assertEqual(holds(grammar, with_deed(more, state, strange, ("by", "p", 1, "a"))), wanted, strange)
 
+    def test_a_barren_beginning(self):
+        grammar = grammar_of("a: p a\n b: q x")
+        self.assertTrue(holds(grammar, (((),), ({},))))
+        self.assertFalse(holds(grammar, (((("q", 1, ()),),), ({},))))
+        self.assertTrue(holds(grammar, (((), (("q", 1, ()),)), ({}, {}))))
+
     def test_no_go_leads_to_the_first_state(self):
         grammar = grammar_of("a: p x")
         labels = ((END, 0, (END,)), ("p", 0, (END,)), ("p", 1, (END,))), ((END, 1, (END,)),)

@@ -92,8 +92,8 @@ class Twice(unittest.TestCase):
         self.assertEqual(twice(grammar, most=1), ("one", ((), ())))
 
     def test_surroundings_that_come_late(self):
-        for order in permutations(["p b x", "q c x y", "s d y", "u e"]):
-            for rules in permutations(["b: r x x", "c: v b y", "d: t c x", "e: w d y x"]):
+        for order in permutations(["p b", "q c x", "s d y x", "u e"]):
+            for rules in permutations(["b: r x", "c: v b y", "d: t c x x", "e: w d y y y"]):
                 grammar = grammar_of("a: %s\n %s" % (" | ".join(order), "\n".join(rules)))
                 self.assertEqual(told(grammar, 8), slow_twice(grammar, 8))
 
