@@ -50,6 +50,44 @@ FORMS.update({"loose " + name: [tuple(map(loosened, row)) for row in rows] for n
 FORMS["loose rows"].append(("loose top", "loose gap", "loose rows"))
 
 
+def letters(word):
+    return tuple(("one", letter) for letter in word)
+
+
+FORMS.update({
+    "ws": [(), (("one", "\n "), "ws")],
+    "treetext": [("ws", "tree", "ws")],
+    "tree": [("N", "ws", ("one", "("), "ws", "parts", ("one", ")"))],
+    "parts": [(), ("part", "ws", "parts")],
+    "part": [("tree",), ("N", "ws", ("one", "\""), ("quoted", 10 ** 6))],
+    "tally": [("gap", "trows")],
+    "trows": [(), ("trow", "gap", "trows")],
+    "trow": [letters(way) + ("blank", "gap", "N", "blank", "gap", "sort", "gap", ("one", ":"), "gap", "names", ("one", ";"))
+             for way in ("up", "down")]
+    + [("N", "gap", ("one", "."), "gap", ("one", "0123456"), "gap", ("one", "."), "gap", "N", "gap", ("one", "="), "gap", "exp0", "gap", ("one", ";"))],
+    "sort": [letters(word) for word in ("number", "text", "names")],
+    "names": [("N", "gap"), ("N", "blank", "gap", "names")],
+})
+MANY_PARTS = {"join": 2, "shown": 1, "plus": 2, "times": 2, "less": 2, "most": 2, "long": 1, "digits": 1, "many": 1, "has": 2, "same": 2,
+              "nobody": 0, "just": 1, "either": 2, "off": 2, "choose": 3}
+
+
+def forms_of_expressions():
+    for depth in range(6):
+        rows = [("N", "gap", ("one", "."), "gap", ("one", "0123456")), (("figures", ""),), (("one", "\""), ("quoted", 60)),
+                letters("word") + ("gap", ("one", "("), "gap", ("one", "123456"), "gap", ("one", ")"))]
+        for word, many in MANY_PARTS.items():
+            if many == 0 or depth < 5:
+                inner = ()
+                for at in range(many):
+                    inner += ((("one", ","), "gap") if at else ()) + (f"exp{depth + 1}", "gap")
+                rows.append(letters(word) + ("gap", ("one", "("), "gap") + inner + (("one", ")"),))
+        FORMS[f"exp{depth}"] = rows
+
+
+forms_of_expressions()
+
+
 def led(item, sign):
     """The rows that may stand for what remembers behind a sign; None in a row where the sign isn't taken by it."""
     sort, told = item
@@ -63,7 +101,29 @@ def led(item, sign):
         elif told and told not in KEPT:
             found.append(None)
         return found
+    if sort == "figures":
+        return led_figures(told, sign)
+    if sort.startswith("quoted"):
+        return led_quoted(told, sign, sort.endswith("\\"))
     return led_within(sort.rstrip("\\"), told, sign, sort.endswith("\\"))
+
+
+def led_figures(told, sign):
+    """The same of a number from 0 to 1000000000, some of its figures being told."""
+    if sign not in "0123456789":
+        return [None] if told else []
+    return [(("figures", told + sign),)] if told != "0" and int(told + sign) <= 1000000000 else []
+
+
+def led_quoted(left, sign, is_escaped):
+    """The same within a quoted text that may have so many signs more."""
+    if is_escaped:
+        return [(("quoted", left - 1),)] if sign in "\"\\n" else []
+    if sign == "\"":
+        return [()]
+    if sign == "\\":
+        return [(("quoted\\", left),)] if left > 0 else []
+    return [(("quoted", left - 1),)] if left > 0 and sign in PLAIN else []
 
 
 def led_within(sort, told, sign, is_escaped):

@@ -2,6 +2,7 @@
 
 import importlib
 import inspect
+import re
 import unittest
 
 FUNCTIONS = {
@@ -50,6 +51,58 @@ CLASSES = {("charts", "Chart", "grammar row"): {"facts": "", "reads": "", "bad":
                                              "twin": "", "__eq__": "other", "__len__": "", "__repr__": ""}}
 METHODS = {"kinds": "", "rules": "", "begin": "", "bars": "", "labels": "", "labels_of": "name", "row_of": "label",
            "rule_of": "label", "is_kind": "name", "__len__": "", "__eq__": "other", "__repr__": ""}
+
+# Functions and classes of the later stages: each name with its arguments as Python tells them.
+SIGNED = {
+    "layouts": "Layout(grammar, marks)",
+    "printing": "printed(layout, tree, *, width=None) packed(grammar, tree) printed_spans(layout, tree, *, width=None)",
+    "worths": "worths(grammar, tally, tree, *, given=()) why(grammar, tally, tree, node, attribute, *, given=())"
+              " hangs_on(grammar, tally, tree, node, attribute, *, given=())",
+    "rounds": "relations(grammar, tally, *, limit=300) round_paper(grammar, tally, *, limit=300)"
+              " shape_of_rows(rows, *, number=None, limit=120) one_walk(grammar, tally)",
+    "ledger": "Ledger(grammar, tally, *, given=())",
+    "readers": "Reader(grammar)",
+    "documents": "Document(reader, text='', *, limit=200)",
+    "bridges": "Step(old, new, names, templates) Bridge(steps=()) step_fault(step) led(bridge, tree, *, keep=False)"
+               " led_paper(step, tree) turned(bridge)",
+    "hinders": "hindered(step) found_step(old, new)",
+    "deeds": "done(grammar, deed) turn(grammar, deeds)",
+    "ledtallies": "led_tally(step, tally)",
+    "bench": "Bench()",
+    "treetexts": "show_tree(tree, parts) read_tree(grammar, text, *, name=None)",
+    "tallytexts": "show_tally(tally) sums_read(text) read_tally(grammar, text, *, fill=False)",
+    "orders": "show_deed(deed, *, parts=None) read_deed(text)",
+    "desk": "Desk() desk_of(rows) desk_from(text)",
+}
+SIGNED_METHODS = {
+    ("layouts", "Layout"): "marks_of(label) __eq__(other)",
+    ("ledger", "Ledger"): "laid(numbered) relaid(grammar, tally, numbered, *, given=()) worths_now() worth_of(node, attribute)"
+                          " __eq__(other) __len__() __repr__()",
+    ("readers", "Reader"): "grammar_read() has_table()",
+    ("documents", "Document"): "text_now() words_now() tree_now() many_now() nodes_now() stop_now() edit(at, *, gone=0, put='')"
+                               " edits(rows) undo() redo() cut_again(at, *, gone=0, put='') change_now() span_of(number)"
+                               " home_of(number) over(place) is_busy() entries() __eq__(other) __len__() __repr__()",
+    ("bridges", "Step"): "old() new() names() templates() steps() leads(label) straight(label) leads_name(name) __eq__(other)"
+                         " __repr__()",
+    ("bridges", "Bridge"): "steps() joined_to(other) leads(label) straight(label) leads_name(name) __eq__(other) __len__()",
+    ("bench", "Bench"): "founded(name, grammar) turn(name, deeds) summed(name, marks, sums) unsummed(name) laid_out(name, marks)"
+                        " opened(name, grammar, text, *, still=False) closed(name) edit(name, at, *, gone=0, put='')"
+                        " edits(name, rows) lead(name) undo() redo() mend(name) tongues() docs() versions(name)"
+                        " grammar_of(name, *, version=None) sums_of(name, *, version=None) layout_of(name, *, version=None)"
+                        " bridge_of(name, version) about(name) document(name) print_of(name, *, width=None) worths_of(name)"
+                        " hangs_of(name) papers_of(name) spared() changed() is_busy() entries() __eq__(other) __len__() __repr__()",
+    ("desk", "Desk"): "say(row) log_text() log() entries() is_busy() __eq__(other) __len__() __repr__()",
+}
+
+
+def signed(thing):
+    """The arguments of a function as Python tells them, without self."""
+    return str(inspect.signature(thing)).replace("(self, ", "(").replace("(self)", "()")
+
+
+def names_and_arguments(row):
+    """All (name, arguments) of a row of the tables."""
+    return re.findall(r"(\w+)(\((?:[^()]|\(\))*\))", row)
 
 
 def parameters(thing):
@@ -104,6 +157,25 @@ class Interface(unittest.TestCase):
             for method, wanted in methods.items():
                 self.assertIn(method, vars(found))
                 self.assertEqual([one.name for one in parameters(vars(found)[method])], ["self"] + wanted.split())
+
+    def test_signed_ones(self):
+        for file, row in SIGNED.items():
+            module = importlib.import_module("tongueyard." + file)
+            for name, arguments in names_and_arguments(row):
+                found = getattr(module, name)
+                self.assertEqual((found.__module__, signed(found)), ("tongueyard." + file, arguments), name)
+        for (file, name), row in SIGNED_METHODS.items():
+            found = getattr(importlib.import_module("tongueyard." + file), name)
+            self.assertGreater(len(names_and_arguments(row)), 1)
+            for method, arguments in names_and_arguments(row):
+                self.assertIn(method, vars(found))
+                self.assertEqual(signed(vars(found)[method]), arguments, method)
+
+    def test_values_of_the_later_stages(self):
+        rounds = importlib.import_module("tongueyard.rounds")
+        self.assertEqual((rounds.CHOICES, rounds.NODES), (300, 120))
+        self.assertEqual(importlib.import_module("tongueyard.documents").LIMIT, 200)
+        self.assertIs(type(importlib.import_module("tongueyard.treetexts").TREES), str)
 
     def test_values(self):
         self.assertEqual(importlib.import_module("tongueyard.grammars").END, ".")
