@@ -21,7 +21,8 @@ from tongueyard.wordtables import least_word, word_table
 
 KINDS = [("x", signs("x"), False), ("y", more(signs("y")), False), ("gap", more(signs("\n ")), True)]
 SAMPLES = {
-    "sums": Grammar([("num", more(signs("0123456789")), False), ("plus", signs("+"), False), ("gap", more(signs("\n ")), True)], SUMS.rules()),
+    "sums": Grammar([("num", more(signs("0123456789")), False), ("plus", signs("+"), False),
+                     ("gap", more(signs("\n ")), True)], SUMS.rules()),
     "lists": grammar_of("a: p b a | q\n b: s y e c\n c: t | u x c\n e: v f\n f: w", kinds=KINDS),
     "two": grammar_of("a: p a x a | q y | r", kinds=KINDS),
     "bars": grammar_of("a: p a x a | r y | s", bars=(("p", 3, "p"), ("p", 1, "s")), kinds=KINDS),
@@ -58,7 +59,8 @@ class PlainBench:
         self.past, self.future, self.spared, self.ahead = [], [], [], None
 
     def state(self):
-        return {name: list(rows) for name, rows in self.grammars.items()}, {name: leaf.kept() for name, leaf in self.leaves.items()}
+        return {name: list(rows) for name, rows in self.grammars.items()}, {name: leaf.kept() for name,
+            leaf in self.leaves.items()}
 
     def bring(self, state):
         self.grammars = {name: list(rows) for name, rows in state[0].items()}
@@ -147,9 +149,11 @@ class PlainBench:
             stays = [word[0] for word in words if led_kinds[word[1]] == kind and word[2:4] == (text, place)]
             new_words.append((stays[0] if stays else None, kind, text, place, look))
         spared = (shape is not None and reader.has_table() and all(word[0] is not None for word in new_words) and len(words) == len(new_words)
-                  and [led_kinds[word[1]] for word in tree_words] == [new_words[at][1] for at in plain_row(new, [word[1:] for word in new_words])]
+                  and [led_kinds[word[1]] for word in tree_words] == [new_words[at][1] for at in plain_row(new,
+                      [word[1:] for word in new_words])]
                   and all(bridge.straight(label) for label in shape)
-                  and is_tree(new, (tuple(bridge.leads(label) for label in shape), tuple((led_kinds[word[1]], word[2]) for word in tree_words))))
+                  and is_tree(new, (tuple(bridge.leads(label) for label in shape),
+                                    tuple((led_kinds[word[1]], word[2]) for word in tree_words))))
         document.grammar = new
         nodes = []
         for node in document.last:
@@ -251,7 +255,8 @@ class PlainBench:
                 words.append(old)
             elif deed[0] != "drop":
                 text = least_word(word_table(grammar.kinds()), deed[1])
-                words.append((deed[1], least_spelled([one[1] for one in grammar.kinds() if one[0] == deed[1]][0]) if text is None else text))
+                words.append((deed[1],
+                              least_spelled([one[1] for one in grammar.kinds() if one[0] == deed[1]][0]) if text is None else text))
         reading = PlainDocument(grammar, "")
         reading.put([(None, kind, text, 0, 0) for kind, text in words], "")
         text = self.printed(grammar, marks, (reading.shape, tuple(words)))
@@ -269,7 +274,8 @@ class PlainBench:
         plain = PlainTree(grammar, tally, self.tree(leaf), ())
         if plain.has_ring:
             return "round"
-        return [(node.number, mark[0], plain.rows[(at, mark[0])]) for at, node in enumerate(leaf.document.last) for mark in tally[0]
+        return [(node.number, mark[0], plain.rows[(at, mark[0])]) for at,
+                node in enumerate(leaf.document.last) for mark in tally[0]
                 if grammar.rule_of(node.label) in mark[3]]
 
     def seen(self, name):

@@ -8,18 +8,23 @@ from tongueyard.bridges import Step
 from tongueyard.patterns import least_spelled, spells
 
 KINDS = [("x", signs("x"), False), ("y", more(signs("xy")), False), ("gap", signs(" "), True)]
-NEW_KINDS = [("k", more(signs("xyz")), False), ("l", word("end"), False), ("y", signs("x"), False), ("gap", signs("_"), True)]
+NEW_KINDS = [("k", more(signs("xyz")), False), ("l", word("end"), False), ("y", signs("x"), False),
+             ("gap", signs("_"), True)]
 PAIRS = [
     (grammar_of("a: p b x a | q x | r\n b: s y a\n c: t x | u", kinds=KINDS),
-     grammar_of("d: k y d k | l y l | m e | n d d\n e: o k | p\n f: q e d", kinds=NEW_KINDS), {"a": "d", "x": "y", "y": "k", "b": "f"}),
+     grammar_of("d: k y d k | l y l | m e | n d d\n e: o k | p\n f: q e d", kinds=NEW_KINDS),
+     {"a": "d", "x": "y", "y": "k", "b": "f"}),
     (grammar_of("a: p a b | q\n b: r x c | s c\n c: t y | u", kinds=KINDS),
-     grammar_of("a: p b a | q | v a c\n b: r c x\n c: t y | u | w c", kinds=KINDS), {name: name for name in ("a", "b", "c", "x", "y")}),
+     grammar_of("a: p b a | q | v a c\n b: r c x\n c: t y | u | w c", kinds=KINDS),
+     {name: name for name in ("a", "b", "c", "x", "y")}),
     (grammar_of("a: p x b | q y\n b: r a a | s\n c: t b", begin="a", kinds=KINDS),
-     grammar_of("a: l x b | m y | n a b\n b: o a\n c: h x", kinds=KINDS, bars=(("l", 2, "o"),)), {"a": "a", "b": "b", "x": "x", "y": "y", "c": "c"}),
+     grammar_of("a: l x b | m y | n a b\n b: o a\n c: h x", kinds=KINDS, bars=(("l", 2, "o"),)),
+     {"a": "a", "b": "b", "x": "x", "y": "y", "c": "c"}),
     (grammar_of("a: p b c | q x\n b: r x y\n c: s b", kinds=KINDS),
      grammar_of("a: k x y b | l b c b\n b: m x y\n c: n b | o", kinds=KINDS), {"a": "a", "b": "b", "c": "c", "x": "x"}),
     (grammar_of("a: p y a | q x y | r b\n b: s y x", kinds=KINDS),
-     grammar_of("a: p a y | q y x b | r b | t y y x\n b: s x y | u y x", kinds=[KINDS[0], ("y", more(signs("y")), False)]),
+     grammar_of("a: p a y | q y x b | r b | t y y x\n b: s x y | u y x",
+                kinds=[KINDS[0], ("y", more(signs("y")), False)]),
      {"a": "a", "b": "b", "x": "x", "y": "y"}),
 ]
 TEXTS = {"x": ["x"], "y": ["y", "x", "xyx"], "num": ["1", "22"], "plus": ["+"]}
@@ -129,7 +134,8 @@ def some_template(step_of, label, chance):
     def fill(symbol, depth):
         possible = [(piece,) for piece in takes if names.get(symbol_of(piece)) == symbol] * 3
         if symbol in patterns:
-            possible += [(("word", symbol, text),) for text in ("x", "y", "end", "xzy", "_") if spells(patterns[symbol], text)]
+            possible += [(("word", symbol, text),) for text in ("x", "y", "end", "xzy", "_") if spells(patterns[symbol],
+                text)]
         elif depth:
             made = [node(one, depth - 1) for one in new_labels[symbol]]
             possible += [one for one in made if one is not None]

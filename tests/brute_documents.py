@@ -13,15 +13,19 @@ from tongueyard.wordtables import word_table
 KINDS = [("x", signs("x"), False), ("y", more(signs("y")), False), ("gap", more(signs("\n ")), True)]
 
 READ = {
-    "sums": Grammar([("num", more(signs("0123456789")), False), ("plus", signs("+"), False), ("gap", more(signs(" ")), True)],
-                    [("sum", [("one", ("term",)), ("both", ("sum", "plus", "term"))]), ("term", [("leaf", ("num",)), ("none", ())])]),
+    "sums": Grammar([("num", more(signs("0123456789")), False), ("plus", signs("+"), False),
+                     ("gap", more(signs(" ")), True)],
+                    [("sum", [("one", ("term",)), ("both", ("sum", "plus", "term"))]),
+                     ("term", [("leaf", ("num",)), ("none", ())])]),
     "lists": grammar_of("a: p b a | q\n b: s y e c\n c: t | u x c\n e: v f\n f: w", kinds=KINDS),
     "two": grammar_of("a: p a x a | q y | r", kinds=KINDS),
-    "barred": grammar_of("a: p a x a | q b a | r y\n b: s x | t a", bars=(("p", 3, "p"), ("q", 2, "p"), ("q", 2, "q")), kinds=KINDS),
+    "barred": grammar_of("a: p a x a | q b a | r y\n b: s x | t a", bars=(("p", 3, "p"), ("q", 2, "p"), ("q", 2, "q")),
+                         kinds=KINDS),
     "bars": grammar_of("a: p a x a | r y | s", bars=(("p", 3, "p"), ("p", 1, "s")), kinds=KINDS),
     "barren": grammar_of("a: p a x | q x a", kinds=KINDS),
     "even": grammar_of("a: p x a x | q y a y | r", kinds=KINDS),
-    "skip": grammar_of("a: p x | q x a", kinds=[("x", more(signs("xy")), False), ("y", signs("y"), False), ("gap", signs(" "), True)]),
+    "skip": grammar_of("a: p x | q x a", kinds=[("x", more(signs("xy")), False), ("y", signs("y"), False),
+                                                ("gap", signs(" "), True)]),
 }
 
 
@@ -102,7 +106,8 @@ def plain_nodes(grammar, shape, numbers):
 
 def told_nodes(nodes, words):
     """The numbered tree; words: by numbers (kind, text)."""
-    return nodes[0].number, {node.number: (node.label, tuple(part.number if isinstance(part, PlainNode) else words[part] for part in node.parts))
+    return nodes[0].number, {node.number: (node.label, tuple(part.number if isinstance(part,
+        PlainNode) else words[part] for part in node.parts))
                              for node in nodes}
 
 
@@ -162,7 +167,8 @@ class PlainDocument:
             text = text[:at] + put + text[at + gone:]
             new = []
             for kind, told, place, look in plain_words(self.grammar, text):
-                stays = [number for number, old_kind, old_told, old_place, _ in words if (old_kind, old_told) == (kind, told) and (
+                stays = [number for number, old_kind, old_told, old_place,
+                         _ in words if (old_kind, old_told) == (kind, told) and (
                     old_place + len(old_told) <= at and place == old_place
                     or old_place >= at + gone and place == old_place + len(put) - gone)]
                 new.append((stays[0] if stays else None, kind, told, place, look))

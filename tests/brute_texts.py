@@ -62,19 +62,23 @@ FORMS.update({
     "part": [("tree",), ("N", "ws", ("one", "\""), ("quoted", 10 ** 6))],
     "tally": [("gap", "trows")],
     "trows": [(), ("trow", "gap", "trows")],
-    "trow": [letters(way) + ("blank", "gap", "N", "blank", "gap", "sort", "gap", ("one", ":"), "gap", "names", ("one", ";"))
+    "trow": [letters(way) + ("blank", "gap", "N", "blank", "gap", "sort", "gap", ("one", ":"), "gap", "names",
+                             ("one", ";"))
              for way in ("up", "down")]
-    + [("N", "gap", ("one", "."), "gap", ("one", "0123456"), "gap", ("one", "."), "gap", "N", "gap", ("one", "="), "gap", "exp0", "gap", ("one", ";"))],
+    + [("N", "gap", ("one", "."), "gap", ("one", "0123456"), "gap", ("one", "."), "gap", "N", "gap", ("one", "="),
+        "gap", "exp0", "gap", ("one", ";"))],
     "sort": [letters(word) for word in ("number", "text", "names")],
     "names": [("N", "gap"), ("N", "blank", "gap", "names")],
 })
-MANY_PARTS = {"join": 2, "shown": 1, "plus": 2, "times": 2, "less": 2, "most": 2, "long": 1, "digits": 1, "many": 1, "has": 2, "same": 2,
+MANY_PARTS = {"join": 2, "shown": 1, "plus": 2, "times": 2, "less": 2, "most": 2, "long": 1, "digits": 1, "many": 1,
+              "has": 2, "same": 2,
               "nobody": 0, "just": 1, "either": 2, "off": 2, "choose": 3}
 
 
 def forms_of_expressions():
     for depth in range(6):
-        rows = [("N", "gap", ("one", "."), "gap", ("one", "0123456")), (("figures", ""),), (("one", "\""), ("quoted", 60)),
+        rows = [("N", "gap", ("one", "."), "gap", ("one", "0123456")), (("figures", ""),),
+                (("one", "\""), ("quoted", 60)),
                 letters("word") + ("gap", ("one", "("), "gap", ("one", "123456"), "gap", ("one", ")"))]
         for word, many in MANY_PARTS.items():
             if many == 0 or depth < 5:

@@ -16,7 +16,8 @@ from tongueyard.bench import Bench
 from tongueyard.bridges import Bridge
 from tongueyard.deeds import turn
 from tongueyard.documents import Document
-from tongueyard.errors import (AllBarred, NoDeed, NoGiven, NoGrammar, NoLayout, NoMend, NoName, NoReading, NoRoom, NoSpan, NoStep, NoSuch, NoTally, NoVersion,
+from tongueyard.errors import (AllBarred, NoDeed, NoGiven, NoGrammar, NoLayout, NoMend, NoName, NoReading, NoRoom,
+                               NoSpan, NoStep, NoSuch, NoTally, NoVersion,
                                NotAlone, NotDone, NotStill, Ringed, RoundWorths, Stopped, Taken, YardError)
 from tongueyard.grammars import END, Grammar
 from tongueyard.judge import lets_by
@@ -232,16 +233,19 @@ class Driven:
             for call in (bench.print_of, bench.worths_of, bench.hangs_of):
                 test.assertEqual(fields(lambda: call(name)), ("NoReading", at, kinds))
         else:
-            test.assertEqual((told.many_now(), told.nodes_now(), told.tree_now()), (many, nodes_told(document), self.plain.tree(leaf)))
+            test.assertEqual((told.many_now(), told.nodes_now(), told.tree_now()),
+                             (many, nodes_told(document), self.plain.tree(leaf)))
             worths = self.plain.worths(name)
             found = fields(lambda: bench.worths_of(name))
-            test.assertEqual(found[0] if isinstance(found, tuple) else found, "RoundWorths" if worths == "round" else worths)
+            test.assertEqual(found[0] if isinstance(found, tuple) else found,
+                             "RoundWorths" if worths == "round" else worths)
             test.assertEqual(bench.hangs_of(name), [label for label in grammar.labels() if label in document.shape])
         if self.chance.random() < 0.2:
             self.check_papers(name, document, many)
             if many:
                 for width in (None, 0, 4):
-                    test.assertEqual(fields(lambda: bench.print_of(name, width=width)), fields(lambda: self.plain.print_of(name, width)))
+                    test.assertEqual(fields(lambda: bench.print_of(name, width=width)),
+                                     fields(lambda: self.plain.print_of(name, width)))
 
     def check_papers(self, name, document, many):
         papers = self.bench.papers_of(name)
@@ -268,7 +272,8 @@ class DrivenOnes(unittest.TestCase):
                 changed += len(driven.plain.changed())
             for word, many in driven.counts.items():
                 counts[word] = counts.get(word, 0) + many
-        for word, many in (("turn", 120), ("lead", 25), ("mend", 50), ("undo", 80), ("redo", 15), ("summed", 10), ("NotDone", 4), ("NotStill", 3), ("NoReading", 3), ("NoLead", 2), ("Ringed", 1)):
+        for word, many in (("turn", 120), ("lead", 25), ("mend", 50), ("undo", 80), ("redo", 15), ("summed", 10),
+                           ("NotDone", 4), ("NotStill", 3), ("NoReading", 3), ("NoLead", 2), ("Ringed", 1)):
             self.assertGreater(counts.get(word, 0), many, (word, counts))
         self.assertGreater(spared, 30)
         self.assertGreater(changed, 300)
@@ -288,23 +293,30 @@ def everything(bench):
     for name in bench.tongues():
         for number in range(bench.versions(name)):
             layout = bench.layout_of(name, version=number)
-            told += [bench.grammar_of(name, version=number), [layout.marks_of(label) for label in layout.grammar.labels()], bench.sums_of(name, version=number)]
+            told += [bench.grammar_of(name, version=number),
+                     [layout.marks_of(label) for label in layout.grammar.labels()], bench.sums_of(name, version=number)]
     for name in bench.docs():
         document = bench.document(name)
-        told += [bench.about(name), document.text_now(), document.words_now(), document.stop_now(), fields(document.nodes_now), fields(lambda: bench.worths_of(name)),
+        told += [bench.about(name), document.text_now(), document.words_now(), document.stop_now(),
+                 fields(document.nodes_now), fields(lambda: bench.worths_of(name)),
                  fields(lambda: bench.print_of(name)), document.change_now()]
     return told
 
 
 class Refusals(unittest.TestCase):
     def deeds(self, bench, name, other="g"):
-        return [("founded", lambda: bench.founded(name, SIMPLE)), ("summed", lambda: bench.summed(name, None, None)), ("unsummed", lambda: bench.unsummed(name)), ("laid_out", lambda: bench.laid_out(name, None)),
-                ("turn", lambda: bench.turn(name, None)), ("opened", lambda: bench.opened(name, other, "")), ("closed", lambda: bench.closed(name)), ("edit", lambda: bench.edit(name, -1)),
-                ("edits", lambda: bench.edits(name, [(-1, 0, "")])), ("lead", lambda: bench.lead(name)), ("mend", lambda: bench.mend(name))]
+        return [("founded", lambda: bench.founded(name, SIMPLE)), ("summed", lambda: bench.summed(name, None, None)),
+                ("unsummed", lambda: bench.unsummed(name)), ("laid_out", lambda: bench.laid_out(name, None)),
+                ("turn", lambda: bench.turn(name, None)), ("opened", lambda: bench.opened(name, other, "")),
+                ("closed", lambda: bench.closed(name)), ("edit", lambda: bench.edit(name, -1)),
+                ("edits", lambda: bench.edits(name, [(-1, 0, "")])), ("lead", lambda: bench.lead(name)),
+                ("mend", lambda: bench.mend(name))]
 
     def asks(self, bench, name):
-        return [lambda: bench.versions(name), lambda: bench.grammar_of(name), lambda: bench.sums_of(name), lambda: bench.layout_of(name, version=99), lambda: bench.bridge_of(name, 99), lambda: bench.about(name),
-                lambda: bench.document(name), lambda: bench.print_of(name), lambda: bench.worths_of(name), lambda: bench.hangs_of(name), lambda: bench.papers_of(name)]
+        return [lambda: bench.versions(name), lambda: bench.grammar_of(name), lambda: bench.sums_of(name),
+                lambda: bench.layout_of(name, version=99), lambda: bench.bridge_of(name, 99), lambda: bench.about(name),
+                lambda: bench.document(name), lambda: bench.print_of(name), lambda: bench.worths_of(name),
+                lambda: bench.hangs_of(name), lambda: bench.papers_of(name)]
 
     def test_names(self):
         bench = bench_with(d="1")
@@ -313,7 +325,8 @@ class Refusals(unittest.TestCase):
             for _, call in self.deeds(bench, name, name) + [("", call) for call in self.asks(bench, name)]:
                 self.assertEqual(fields(call), ("NoName", name))
         for word, call in self.deeds(bench, "z", "y"):
-            self.assertEqual(fields(call) if word != "founded" else ("NoSuch", "z"), ("NoSuch", "y" if word == "opened" else "z"), word)
+            self.assertEqual(fields(call) if word != "founded" else ("NoSuch", "z"),
+                             ("NoSuch", "y" if word == "opened" else "z"), word)
         for call in self.asks(bench, "z"):
             self.assertEqual(fields(call), ("NoSuch", "z"))
         self.assertEqual(everything(bench), ahead)
@@ -321,10 +334,14 @@ class Refusals(unittest.TestCase):
     def test_taken_and_in_this_order(self):
         bench = bench_with(d="1")
         ringed = grammar_of("a: p a | q x")
-        for name, grammar, told in (("Z", ringed, ("NoName", "Z")), ("g", ringed, ("Taken", "g")), ("z", ringed, ("Ringed", "a")), ("z", grammar_of("a: p b\n b: q x", bars=(("p", 1, "q"),)), ("AllBarred",))):
+        for name, grammar, told in (("Z", ringed, ("NoName", "Z")), ("g", ringed, ("Taken", "g")),
+                                    ("z", ringed, ("Ringed", "a")), ("z",
+                                        grammar_of("a: p b\n b: q x", bars=(("p", 1, "q"),)), ("AllBarred",))):
             self.assertEqual(fields(lambda: bench.founded(name, grammar)), told)
         long = "1" * 201
-        for name, home, told in (("D", "G", ("NoName", "D")), ("d", "G", ("NoName", "G")), ("e", "G", ("NoName", "G")), ("d", "z", ("Taken", "d")), ("d", "g", ("Taken", "d")), ("e", "z", ("NoSuch", "z")), ("e", "g", ("NoRoom", 201))):
+        for name, home, told in (("D", "G", ("NoName", "D")), ("d", "G", ("NoName", "G")), ("e", "G", ("NoName", "G")),
+                                 ("d", "z", ("Taken", "d")), ("d", "g", ("Taken", "d")), ("e", "z", ("NoSuch", "z")),
+                                 ("e", "g", ("NoRoom", 201))):
             self.assertEqual(fields(lambda: bench.opened(name, home, long)), told)
             self.assertEqual(fields(lambda: bench.opened(name, home, long, still=True)), told)
         # A grammar and a document may have one name.
@@ -347,19 +364,29 @@ class Refusals(unittest.TestCase):
         bench.summed("g", UP, LEAF)
         ahead, entries = everything(bench), bench.entries()
         calls = [
-            (lambda: bench.summed("g", [("n", "up", "number", ("z",))], []), ("NoTally", "mark", 0)), (lambda: bench.summed("g", UP, LEAF + LEAF), ("NoTally", "sum", 1)),
-            (lambda: bench.summed("g", [("d", "down", "number", ("term",))], []), ("NoTally", "lacks", ("one", 1, "d"))), (lambda: bench.summed("g", UP + [("k", "down", "number", ("sum",)), ("j", "down", "text", ("sum",))], LEAF), ("NoGiven", "k")),
-            (lambda: bench.laid_out("g", {"both": ("near",)}), ("NoLayout", "both")), (lambda: bench.laid_out("g", {"leaf": (), "z": ()}), ("NoLayout", "z")),
-            (lambda: bench.turn("g", [("drop", "z")]), ("NotDone", 0)), (lambda: bench.turn("g", [("drop", "none"), ("call", "sum", "term")]), ("NotDone", 1)), (lambda: bench.turn("g", [("add", "sum", 0, "self", ("sum",))]), ("Ringed", "sum")),
-            (lambda: bench.turn("g", [("drop", "both"), ("bar", "one", 1, "leaf"), ("bar", "one", 1, "none")]), ("AllBarred",)), (lambda: bench.edit("d", 2, gone=2), ("NoSpan", (2, 2))), (lambda: bench.edit("d", 0, put="1" * 198), ("NoRoom", 201)),
-            (lambda: bench.edits("d", [(0, 1, ""), (3, 0, "")]), ("Stopped", 1)), (lambda: bench.lead("d"), ("NotStill", "d")), (bench.redo, ("NoStep", "redo"))]
+            (lambda: bench.summed("g", [("n", "up", "number", ("z",))], []), ("NoTally", "mark", 0)),
+                 (lambda: bench.summed("g", UP, LEAF + LEAF), ("NoTally", "sum", 1)),
+            (lambda: bench.summed("g", [("d", "down", "number", ("term",))], []),
+             ("NoTally", "lacks", ("one", 1, "d"))), (lambda: bench.summed("g",
+                 UP + [("k", "down", "number", ("sum",)), ("j", "down", "text", ("sum",))], LEAF), ("NoGiven", "k")),
+            (lambda: bench.laid_out("g", {"both": ("near",)}), ("NoLayout", "both")),
+                 (lambda: bench.laid_out("g", {"leaf": (), "z": ()}), ("NoLayout", "z")),
+            (lambda: bench.turn("g", [("drop", "z")]), ("NotDone", 0)),
+                 (lambda: bench.turn("g", [("drop", "none"), ("call", "sum", "term")]), ("NotDone", 1)),
+                 (lambda: bench.turn("g", [("add", "sum", 0, "self", ("sum",))]), ("Ringed", "sum")),
+            (lambda: bench.turn("g", [("drop", "both"), ("bar", "one", 1, "leaf"), ("bar", "one", 1, "none")]),
+             ("AllBarred",)), (lambda: bench.edit("d", 2, gone=2), ("NoSpan", (2, 2))),
+                 (lambda: bench.edit("d", 0, put="1" * 198), ("NoRoom", 201)),
+            (lambda: bench.edits("d", [(0, 1, ""), (3, 0, "")]), ("Stopped", 1)),
+                 (lambda: bench.lead("d"), ("NotStill", "d")), (bench.redo, ("NoStep", "redo"))]
         for call, told in calls:
             found = fields(call)
             self.assertEqual(found, told)
         self.assertEqual(everything(bench), ahead)
         self.assertEqual(bench.entries()[:len(entries)], entries)
         self.assertEqual([one for one in bench.entries()[len(entries):]], [(way, word) for word in (
-            "summed", "summed", "summed", "summed", "laid_out", "laid_out", "turn", "turn", "turn", "turn", "edit", "edit", "edits", "lead", "redo") for way in ("in", "out")])
+            "summed", "summed", "summed", "summed", "laid_out", "laid_out", "turn", "turn", "turn", "turn", "edit",
+                "edit", "edits", "lead", "redo") for way in ("in", "out")])
         # What is refused takes no numbers: the next word and node are those that come behind.
         bench.opened("f", "g", "3")
         self.assertEqual(bench.document("f").words_now()[0][0], 7)
@@ -380,13 +407,16 @@ class Refusals(unittest.TestCase):
     def test_tallies_over_turns(self):
         bench = bench_with()
         marks = [("n", "up", "number", ("sum",)), ("d", "down", "number", ("term",))]
-        sums = [("one", 0, "n", ("number", 1)), ("both", 0, "n", ("at", 1, "n")), ("one", 1, "d", ("number", 2)), ("both", 3, "d", ("number", 3))]
+        sums = [("one", 0, "n", ("number", 1)), ("both", 0, "n", ("at", 1, "n")), ("one", 1, "d", ("number", 2)),
+                ("both", 3, "d", ("number", 3))]
         bench.summed("g", marks, sums)
         # What is led and completed lacks a sum for a new place; or the beginning bears a down.
-        self.assertEqual(fields(lambda: bench.turn("g", [("add", "sum", 0, "new", ("plus", "term"))])), ("NoTally", "lacks", ("new", 2, "d")))
+        self.assertEqual(fields(lambda: bench.turn("g", [("add", "sum", 0, "new", ("plus", "term"))])),
+                         ("NoTally", "lacks", ("new", 2, "d")))
         self.assertEqual(fields(lambda: bench.turn("g", [("begin", "term")])), ("NoGiven", "d"))
         self.assertEqual(bench.turn("g", [("add", "sum", 0, "new", ("plus", "sum"))]), 1)
-        self.assertEqual(bench.sums_of("g"), completed(bench.grammar_of("g"), marks, sums + [("new", 0, "n", ("at", 2, "n"))]))
+        self.assertEqual(bench.sums_of("g"), completed(bench.grammar_of("g"), marks,
+                                                       sums + [("new", 0, "n", ("at", 2, "n"))]))
         self.assertEqual(bench.sums_of("g", version=0), completed(SIMPLE, marks, sums))
 
 
@@ -397,7 +427,9 @@ class Steps(unittest.TestCase):
         bench.edit("d", 0, put="7")
         bench.undo()
         ahead = everything(bench), bench.changed(), bench.spared()
-        for call in (lambda: bench.unsummed("g"), lambda: bench.edit("d", 0), lambda: bench.edit("d", 0, gone=3, put="1+2"), lambda: bench.edits("d", []), lambda: bench.edits("d", [(0, 1, "1")]), lambda: bench.lead("s")):
+        for call in (lambda: bench.unsummed("g"), lambda: bench.edit("d", 0),
+                     lambda: bench.edit("d", 0, gone=3, put="1+2"), lambda: bench.edits("d", []),
+                     lambda: bench.edits("d", [(0, 1, "1")]), lambda: bench.lead("s")):
             self.assertIsNone(call())
             self.assertEqual((everything(bench), bench.changed(), bench.spared()), ahead)
         self.assertEqual(bench.mend("d"), 0)
@@ -417,9 +449,14 @@ class Steps(unittest.TestCase):
     def test_undo_and_redo_of_each_sort(self):
         bench = Bench()
         self.assertEqual(fields(bench.undo), ("NoStep", "undo"))
-        deeds = [lambda: bench.founded("g", SIMPLE), lambda: bench.opened("d", "g", "1+ 2"), lambda: bench.opened("s", "g", "3", still=True), lambda: bench.summed("g", UP, LEAF), lambda: bench.laid_out("g", {"both": ("blank", "soft")}),
-                 lambda: bench.turn("g", [("label", "both", "more"), ("add", "term", 0, "neg", ("plus", "term"))]), lambda: bench.edit("d", 0, put="+"), lambda: bench.edits("d", [(0, 1, ""), (0, 0, "9")]), lambda: bench.lead("s"),
-                 lambda: bench.edit("d", 0, put="? "), lambda: bench.mend("d"), lambda: bench.unsummed("g"), lambda: bench.closed("d"), lambda: bench.founded("h", LISTS)]
+        deeds = [lambda: bench.founded("g", SIMPLE), lambda: bench.opened("d", "g", "1+ 2"),
+                 lambda: bench.opened("s", "g", "3", still=True), lambda: bench.summed("g", UP, LEAF),
+                 lambda: bench.laid_out("g", {"both": ("blank", "soft")}),
+                 lambda: bench.turn("g", [("label", "both", "more"), ("add", "term", 0, "neg", ("plus", "term"))]),
+                 lambda: bench.edit("d", 0, put="+"), lambda: bench.edits("d", [(0, 1, ""), (0, 0, "9")]),
+                 lambda: bench.lead("s"),
+                 lambda: bench.edit("d", 0, put="? "), lambda: bench.mend("d"), lambda: bench.unsummed("g"),
+                 lambda: bench.closed("d"), lambda: bench.founded("h", LISTS)]
         seen = [everything(bench)]
         for deed in deeds:
             deed()
@@ -449,7 +486,8 @@ class Steps(unittest.TestCase):
         bench.edit("a", 0, put="8")
         self.assertEqual([word[0] for word in bench.document("a").words_now()], [8])
         # At a turn what is new gets its numbers document by document, by their names.
-        bench.turn("g", [("word", 0, "two", signs("28"), False), ("add", "term", 0, "twin", ("two",)), ("kind", "num", more(signs("0123456789")), False)])
+        bench.turn("g", [("word", 0, "two", signs("28"), False), ("add", "term", 0, "twin", ("two",)),
+                         ("kind", "num", more(signs("0123456789")), False)])
         words = {name: [word[0] for word in bench.document(name).words_now()] for name in "ab"}
         self.assertEqual(words, {"a": [8], "b": [1, 2, 9]})
         self.assertEqual(bench.document("a").stop_now(), None)
@@ -457,12 +495,15 @@ class Steps(unittest.TestCase):
     def test_what_stays_over_a_turn(self):
         bench = bench_with(d="1 +2", e="1 ? 2")
         nodes, words = bench.document("d").nodes_now(), bench.document("d").words_now()
-        bench.turn("g", [("call", "num", "fig"), ("call", "sum", "all"), ("label", "both", "more"), ("label", "leaf", "fig")])
+        bench.turn("g", [("call", "num", "fig"), ("call", "sum", "all"), ("label", "both", "more"),
+                         ("label", "leaf", "fig")])
         self.assertEqual([word[0] for word in bench.document("d").words_now()], [word[0] for word in words])
         self.assertEqual([word[1] for word in bench.document("d").words_now()], ["fig", "gap", "plus", "fig"])
         self.assertEqual(list(bench.document("d").nodes_now()[1]), list(nodes[1]))
-        self.assertEqual([word[:2] for word in bench.document("e").words_now()], [(5, "fig"), (6, "gap"), (7, ""), (8, "gap"), (9, "fig")])
-        self.assertEqual((bench.spared(), bench.changed()), (["d"], []) if bench.document("e").stop_now() == (7, [END, "plus"]) else (["d"], ["e"]))
+        self.assertEqual([word[:2] for word in bench.document("e").words_now()],
+                         [(5, "fig"), (6, "gap"), (7, ""), (8, "gap"), (9, "fig")])
+        self.assertEqual((bench.spared(), bench.changed()), (["d"], []) if bench.document("e").stop_now() == (7,
+            [END, "plus"]) else (["d"], ["e"]))
         # Labels of a last tree lead on while the text does not read.
         bench.edit("d", 0, put="?")
         bench.turn("g", [("label", "more", "most")])
@@ -486,20 +527,39 @@ class Steps(unittest.TestCase):
         self.assertEqual(bench.spared(), ["e"])
         old = {label: number for number, (label, _) in nodes[1].items()}
         new = {label: number for number, (label, _) in bench.document("d").nodes_now()[1].items()}
-        self.assertEqual(sorted(label for label in new if new[label] != old.get({"vv": "v", "ww": "w"}.get(label, label))), ["t", "vv", "ww"])
+        self.assertEqual(sorted(label for label in new if new[label] != old.get({"vv": "v", "ww": "w"}.get(label,
+            label))), ["t", "vv", "ww"])
         bench.turn("g", [("label", "q", "z"), ("begin", "a")])
         self.assertEqual(bench.document("e").nodes_now()[0], 7)
+        # Where a word stood at that place no node did.
+        bench = bench_with(grammar_of("a: p x y b\n b: r", kinds=SAMPLES["even"].kinds()), d="xy")
+        bench.turn("g", [("turn", "p", (1, 3, 2))])
+        self.assertEqual(list(bench.document("d").nodes_now()[1]), [1, 3])
+        bench.turn("g", [("take", "p", 1)])
+        bench.edit("d", 0, gone=1)
+        self.assertEqual(list(bench.document("d").nodes_now()[1]), [4, 5])
 
 
 class Spared(unittest.TestCase):
     def test_each_reason(self):
-        grammar = grammar_of("a: p b a | q\n b: r x | s y | t gap", kinds=[("x", signs("x"), False), ("y", more(signs("y")), False), ("gap", signs(" "), False)])
+        grammar = grammar_of("a: p b a | q\n b: r x | s y | t gap", kinds=[("x", signs("x"), False),
+            ("y", more(signs("y")), False), ("gap", signs(" "), False)])
         self.assertIs(Reader(grammar).has_table(), True)
         for deeds, spared in (
-                ([], True), ([("call", "x", "z")], True), ([("label", "p", "z")], True), ([("add", "b", 0, "new", ("x", "x"))], False), ([("add", "b", 0, "new", ("y", "x"))], False), ([("add", "a", 0, "new", ("gap", "x"))], False),
-                ([("drop", "s")], True), ([("drop", "r")], False), ([("drop", "t")], False), ([("rule", 0, "c", [("new", ("x",))])], True), ([("word", 3, "z", signs("z"), False)], True), ([("word", 0, "z", signs("x"), False)], False),
-                ([("kind", "y", signs("y"), False)], True), ([("kind", "x", word("xx"), False)], False), ([("turn", "p", (1, 2))], True), ([("turn", "p", (2, 1)), ("turn", "p", (2, 1))], False), ([("put", "r", 1, "y", "y")], False),
-                ([("fold", "p", 1, 2, "c", "new")], False), ([("bar", "p", 1, "s")], True), ([("bar", "p", 1, "r")], False), ([("begin", "b")], False), ([("drop", "t"), ("kind", "gap", signs(" "), True)], False),
+                ([], True), ([("call", "x", "z")], True), ([("label", "p", "z")], True),
+                              ([("add", "b", 0, "new", ("x", "x"))], False),
+                              ([("add", "b", 0, "new", ("y", "x"))], False),
+                              ([("add", "a", 0, "new", ("gap", "x"))], False),
+                ([("drop", "s")], True), ([("drop", "r")], False), ([("drop", "t")], False),
+                              ([("rule", 0, "c", [("new", ("x",))])], True),
+                              ([("word", 3, "z", signs("z"), False)], True),
+                              ([("word", 0, "z", signs("x"), False)], False),
+                ([("kind", "y", signs("y"), False)], True), ([("kind", "x", word("xx"), False)], False),
+                              ([("turn", "p", (1, 2))], True), ([("turn", "p", (2, 1)), ("turn", "p", (2, 1))], False),
+                              ([("put", "r", 1, "y", "y")], False),
+                ([("fold", "p", 1, 2, "c", "new")], False), ([("bar", "p", 1, "s")], True),
+                              ([("bar", "p", 1, "r")], False), ([("begin", "b")], False),
+                              ([("drop", "t"), ("kind", "gap", signs(" "), True)], False),
                 ([("add", "b", 0, "new", ("x",))], False)):
             bench = bench_with(grammar, d="x x", e="x?", f="")
             bench.opened("s", "g", "x x", still=True)
@@ -510,7 +570,8 @@ class Spared(unittest.TestCase):
             self.assertNotIn("e", told)
             self.assertNotIn("s", told)
             if spared:
-                self.assertEqual([word[0] for word in bench.document("d").words_now()], [word[0] for word in numbers[0]])
+                self.assertEqual([word[0] for word in bench.document("d").words_now()],
+                                 [word[0] for word in numbers[0]])
                 self.assertEqual(list(bench.document("d").nodes_now()[1]), list(numbers[1][1]))
                 self.assertNotIn("d", bench.changed())
                 self.assertIs(Reader(bench.grammar_of("g")).has_table(), True)
@@ -518,6 +579,17 @@ class Spared(unittest.TestCase):
             self.assertEqual(bench.spared(), [])
             bench.redo()
             self.assertEqual(bench.spared(), [])
+
+    def test_words_that_are_cut_otherwise_and_rows_that_change(self):
+        bench = bench_with(d="1  +2", e="1+2")
+        # Two blanks are two words now: the row is as it was, but not all words stay.
+        bench.turn("g", [("kind", "gap", signs("\n "), True)])
+        self.assertEqual((bench.spared(), bench.changed()), (["e"], ["d"]))
+        self.assertEqual(list(bench.document("d").nodes_now()[1]), [1, 2, 3, 4])
+        # All words stay, but the blanks are in the row.
+        bench.turn("g", [("kind", "gap", signs("\n "), False)])
+        self.assertEqual((bench.spared(), bench.changed()), (["e"], ["d"]))
+        self.assertEqual(bench.document("d").stop_now()[0], bench.document("d").words_now()[1][0])
 
     def test_no_table_spares_none(self):
         bench = bench_with(SAMPLES["two"], d="y")
@@ -527,7 +599,8 @@ class Spared(unittest.TestCase):
 
     def test_what_it_has_not(self):
         bench = bench_with(d="1+2", e="1+")
-        self.assertEqual((bench.hangs_of("d"), bench.hangs_of("e")), (["one", "both", "leaf"], ["one", "both", "leaf", "none"]))
+        self.assertEqual((bench.hangs_of("d"), bench.hangs_of("e")), (["one", "both", "leaf"],
+            ["one", "both", "leaf", "none"]))
         # An alternative goes that a document has not, and one comes.
         bench.turn("g", [("drop", "none"), ("add", "term", 1, "neg", ("plus", "plus", "term"))])
         self.assertEqual((bench.spared(), bench.changed()), (["d"], ["e"]))
@@ -552,7 +625,8 @@ class Spared(unittest.TestCase):
         bench.undo()
         self.assertEqual(bench.changed(), ["d"])
         # A mark whose sum is lost is completed otherwise: the document is spared, its worths change.
-        bench.turn("g", [("turn", "both", (3, 2, 1)), ("turn", "both", (3, 2, 1)), ("drop", "neu"), ("add", "term", 0, "neu", ("num",))])
+        bench.turn("g", [("turn", "both", (3, 2, 1)), ("turn", "both", (3, 2, 1)), ("drop", "neu"),
+                         ("add", "term", 0, "neu", ("num",))])
         self.assertEqual((bench.changed(), bench.spared()), (["d"], []))
 
     def test_rings(self):
@@ -561,7 +635,8 @@ class Spared(unittest.TestCase):
         bench.founded("g", grammar)
         bench.opened("d", "g", "x")
         marks = [("n", "down", "number", ("b",)), ("m", "up", "number", ("b",))]
-        bench.summed("g", marks, [("p", 1, "n", ("at", 1, "m")), ("q", 1, "n", ("number", 1)), ("r", 0, "m", ("at", 0, "n"))])
+        bench.summed("g", marks, [("p", 1, "n", ("at", 1, "m")), ("q", 1, "n", ("number", 1)),
+                                  ("r", 0, "m", ("at", 0, "n"))])
         self.assertEqual(bench.changed(), ["d"])
         number = [number for number, (label, _) in bench.document("d").nodes_now()[1].items() if label == "r"][0]
         with self.assertRaises(RoundWorths) as caught:
@@ -569,14 +644,17 @@ class Spared(unittest.TestCase):
         self.assertEqual(sorted(caught.exception.circle), [(number, "m"), (number, "n")])
         bench.edit("d", 0, gone=1, put="y")
         self.assertEqual([row[1:] for row in bench.worths_of("d")], [("n", 1), ("m", 1)])
-        bench.summed("g", marks, [("p", 1, "n", ("number", 5)), ("q", 1, "n", ("number", 1)), ("r", 0, "m", ("at", 0, "n"))])
+        bench.summed("g", marks, [("p", 1, "n", ("number", 5)), ("q", 1, "n", ("number", 1)),
+                                  ("r", 0, "m", ("at", 0, "n"))])
         self.assertEqual(bench.changed(), [])
         # From one ring to another one nothing is changed.
         ring = Bench()
         ring.founded("g", grammar)
         ring.opened("d", "g", "x")
-        ring.summed("g", marks, [("p", 1, "n", ("at", 1, "m")), ("q", 1, "n", ("number", 1)), ("r", 0, "m", ("at", 0, "n"))])
-        ring.summed("g", marks, [("p", 1, "n", ("plus", ("at", 1, "m"), ("number", 1))), ("q", 1, "n", ("number", 1)), ("r", 0, "m", ("at", 0, "n"))])
+        ring.summed("g", marks, [("p", 1, "n", ("at", 1, "m")), ("q", 1, "n", ("number", 1)),
+                                 ("r", 0, "m", ("at", 0, "n"))])
+        ring.summed("g", marks, [("p", 1, "n", ("plus", ("at", 1, "m"), ("number", 1))), ("q", 1, "n", ("number", 1)),
+                                 ("r", 0, "m", ("at", 0, "n"))])
         self.assertEqual(ring.changed(), [])
 
 
@@ -592,14 +670,16 @@ class Leads(unittest.TestCase):
         return bench
 
     def test_by_hand(self):
-        bench = self.still("1 + 2", [("turn", "both", (3, 2, 1))], [("call", "num", "fig"), ("put", "leaf", 1, "plus", "+")])
+        bench = self.still("1 + 2", [("turn", "both", (3, 2, 1))], [("call", "num", "fig"),
+            ("put", "leaf", 1, "plus", "+")])
         words, nodes = bench.document("s").words_now(), bench.document("s").nodes_now()
         self.assertEqual(bench.about("s"), ("g", 0, True))
         bench.lead("s")
         self.assertEqual((bench.about("s"), bench.document("s").text_now()), (("g", 2, True), "+2++1"))
         self.assertEqual(bench.changed(), ["s"])
         told = bench.document("s")
-        self.assertEqual([word[:3] for word in told.words_now()], [(6, "plus", "+"), (5, "fig", "2"), (3, "plus", "+"), (7, "plus", "+"), (1, "fig", "1")])
+        self.assertEqual([word[:3] for word in told.words_now()], [(6, "plus", "+"), (5, "fig", "2"), (3, "plus", "+"),
+            (7, "plus", "+"), (1, "fig", "1")])
         old = {number: label for number, (label, _) in nodes[1].items()}
         self.assertEqual({number: label for number, (label, _) in told.nodes_now()[1].items()}, old)
         self.assertEqual(told.nodes_now()[1][nodes[0]][0], "both")
@@ -622,11 +702,13 @@ class Leads(unittest.TestCase):
         self.assertIsNone(bench.lead("s"))
 
     def test_no_lead_with_its_step(self):
-        bench = self.still("1+2", [("call", "num", "fig")], [("turn", "both", (3, 2, 1)), ("kind", "fig", signs("01"), False)])
+        bench = self.still("1+2", [("call", "num", "fig")], [("turn", "both", (3, 2, 1)),
+            ("kind", "fig", signs("01"), False)])
         self.assertEqual(fields(lambda: bench.lead("s")), ("NoLead", 2, 0, "word"))
         bench = self.still("1+2", [("begin", "term")])
         self.assertEqual(fields(lambda: bench.lead("s")), ("NoLead", 0, 0, "begin"))
-        bench = self.still("1+2", [], [("bar", "both", 1, "both"), ("nobar", "both", 1, "both"), ("bar", "both", 3, "leaf")])
+        bench = self.still("1+2", [], [("bar", "both", 1, "both"), ("nobar", "both", 1, "both"),
+                                       ("bar", "both", 3, "leaf")])
         self.assertEqual(fields(lambda: bench.lead("s")), ("NoLead", 2, 0, "bar"))
 
     def test_not_good_no_print_no_room(self):
@@ -652,15 +734,14 @@ class Leads(unittest.TestCase):
         self.assertIsNone(bench.lead("s"))
         self.assertEqual(bench.document("s").many_now(), 2)
 
-    def test_words_and_nodes_twice(self):
+    def test_words_put_anew(self):
         grammar = grammar_of("a: p x b | q\n b: r y", kinds=SAMPLES["even"].kinds())
         bench = self.still("xy", grammar=grammar)
-        # No row of deeds makes a part stand twice, so what comes of two is the first: one that went and came is new.
+        # No row of deeds makes a part stand twice; a word that went and was put in again is new.
         bench.turn("g", [("take", "p", 1), ("put", "p", 1, "x", "x")])
         bench.lead("s")
         self.assertEqual([word[0] for word in bench.document("s").words_now()], [3, 2])
         self.assertEqual(list(bench.document("s").nodes_now()[1]), [1, 2])
-        bench.turn("g", [("drop", "r"), ("add", "b", 0, "r", ("y",))]) if False else None
         self.assertEqual(bench.document("s").change_now()[1], [2, 3])
 
     def test_nodes_made_by_the_way(self):
@@ -696,7 +777,8 @@ class Mends(unittest.TestCase):
     def test_refused(self):
         bench = bench_with(grammar_of("a: p a x", kinds=SAMPLES["even"].kinds()), d="x")
         self.assertEqual(fields(lambda: bench.mend("d")), ("NoMend",))
-        kinds = [("x", signs("x"), False), ("y", word("xx"), False), ("z", signs("x"), False), ("gap", signs(" "), True)]
+        kinds = [("x", signs("x"), False), ("y", word("xx"), False), ("z", signs("x"), False),
+                 ("gap", signs(" "), True)]
         bench = bench_with(grammar_of("a: p x z", kinds=kinds), d="x x")
         self.assertEqual(fields(lambda: bench.mend("d")), ("NotGood", 1))
         bare = [("num", more(signs("01")), False), ("big", more(signs("2")), False)]
@@ -718,7 +800,8 @@ class Mends(unittest.TestCase):
         self.assertGreater(anew.many_now(), 1)
         bench = bench_with(SAMPLES["bars"], d="yyx?")
         self.assertEqual(bench.mend("d"), 1)
-        self.assertEqual(bench.document("d").tree_now()[0], ("p", "r", "r" if bench.print_of("d").endswith("y") else "s"))
+        self.assertEqual(bench.document("d").tree_now()[0],
+                         ("p", "r", "r" if bench.print_of("d").endswith("y") else "s"))
 
     def test_least_texts(self):
         # The kind has no word of its own, so the least that its pattern spells is put; others get the least word.
@@ -741,7 +824,8 @@ class Told(unittest.TestCase):
         self.assertEqual(bench.layout_of("g").marks_of("both"), ("soft", "soft"))
         # A label that leads straight takes its marks along, another one has none.
         bench.turn("g", [("label", "both", "more"), ("add", "sum", 0, "new", ("num", "num"))])
-        self.assertEqual((bench.layout_of("g").marks_of("more"), bench.layout_of("g").marks_of("new")), (("soft", "soft"), ("near",)))
+        self.assertEqual((bench.layout_of("g").marks_of("more"), bench.layout_of("g").marks_of("new")),
+                         (("soft", "soft"), ("near",)))
         bench.turn("g", [("turn", "more", (2, 1, 3))])
         self.assertEqual(bench.layout_of("g").marks_of("more"), ("near", "near"))
         self.assertEqual(bench.layout_of("g", version=1).marks_of("more"), ("soft", "soft"))
@@ -759,9 +843,15 @@ class Told(unittest.TestCase):
         self.assertIsNone(bench.sums_of("g"))
 
     def test_papers(self):
-        for grammar, text, words in ((SIMPLE, "1+2", ["tree", "table"]), (SIMPLE, "1 2", ["dead"]), (SAMPLES["two"], "yxy", ["tree"]), (SAMPLES["two"], "yxyxy", ["tree", "two"]), (SAMPLES["two"], "y y", ["dead"]),
-                                     (SAMPLES["even"], "xx", ["tree"]), (SAMPLES["even"], "x", ["none"]), (SAMPLES["bars"], "yxyx", ["tree"] if not Reader(SAMPLES["bars"]).has_table() else ["tree", "table"]),
-                                     (SAMPLES["bars"], "yxx", ["dead"]), (grammar_of("a: p a x", kinds=SAMPLES["even"].kinds()), "x", ["dead"]), (grammar_of("a: p a x", kinds=SAMPLES["even"].kinds()), "", ["none"])):
+        for grammar, text, words in ((SIMPLE, "1+2", ["tree", "table"]), (SIMPLE, "1 2", ["dead"]),
+                                     (SAMPLES["two"], "yxy", ["tree"]), (SAMPLES["two"], "yxyxy", ["tree", "two"]),
+                                     (SAMPLES["two"], "y y", ["dead"]),
+                                     (SAMPLES["even"], "xx", ["tree"]), (SAMPLES["even"], "x", ["none"]),
+                                     (SAMPLES["bars"], "yxyx",
+                                      ["tree"] if not Reader(SAMPLES["bars"]).has_table() else ["tree", "table"]),
+                                     (SAMPLES["bars"], "yxx", ["dead"]),
+                                     (grammar_of("a: p a x", kinds=SAMPLES["even"].kinds()), "x", ["dead"]),
+                                     (grammar_of("a: p a x", kinds=SAMPLES["even"].kinds()), "", ["none"])):
             bench = bench_with(grammar, d=text)
             papers = bench.papers_of("d")
             if grammar == SAMPLES["bars"] and words == ["dead"] and bench.document("d").stop_now() is None:
@@ -796,7 +886,8 @@ class Told(unittest.TestCase):
     def test_what_is_told_is_the_askers(self):
         bench = bench_with(d="1+2", e="1 1")
         bench.turn("g", [("label", "one", "uno")])
-        asks = [bench.tongues, bench.docs, bench.spared, bench.changed, bench.entries, lambda: bench.papers_of("d"), lambda: bench.hangs_of("d")]
+        asks = [bench.tongues, bench.docs, bench.spared, bench.changed, bench.entries, lambda: bench.papers_of("d"),
+                lambda: bench.hangs_of("d")]
         bench.summed("g", UP, LEAF)
         asks.append(lambda: bench.worths_of("d"))
         for ask in asks:
@@ -826,7 +917,9 @@ class Told(unittest.TestCase):
         one.edit("d", 0, put="44")
         one.edit("d", 0, gone=1)
         self.assertEqual(one, other)
-        for change in (lambda bench: bench.summed("g", UP, LEAF), lambda bench: bench.laid_out("g", {"both": ("soft", "near")}), lambda bench: bench.turn("g", []), lambda bench: bench.founded("h", SIMPLE), lambda bench: bench.closed("e"),
+        for change in (lambda bench: bench.summed("g", UP, LEAF), lambda bench: bench.laid_out("g",
+            {"both": ("soft", "near")}), lambda bench: bench.turn("g", []), lambda bench: bench.founded("h", SIMPLE),
+                       lambda bench: bench.closed("e"),
                        lambda bench: bench.opened("t", "g", "")):
             change(one)
             self.assertNotEqual(one, other)
@@ -839,26 +932,29 @@ class Told(unittest.TestCase):
         live, still = bench_with(d="1"), bench_with()
         still.opened("d", "g", "1", still=True)
         self.assertNotEqual(live, still)
-        for thing in (None, 3, "Bench(3)", [], live.house() if hasattr(live, "house") else 0):
+        for thing in (None, 3, "Bench(3)", []):
             self.assertFalse(live == thing)
         self.assertEqual(Bench(), Bench())
-        self.assertEqual((len(Bench()), repr(Bench()), Bench().entries(), Bench().changed(), Bench().spared()), (0, "Bench(0)", [], [], []))
+        self.assertEqual((len(Bench()), repr(Bench()), Bench().entries(), Bench().changed(), Bench().spared()),
+                         (0, "Bench(0)", [], [], []))
 
     def test_two_benches(self):
         one, other = bench_with(d="1"), Bench()
         self.assertEqual((other.tongues(), other.docs(), other.entries()), ([], [], []))
         other.founded("g", SIMPLE)
         other.opened("d", "g", "2")
-        self.assertEqual((one.document("d").text_now(), other.document("d").words_now()), ("1", [(1, "num", "2", 0, 2)]))
+        self.assertEqual((one.document("d").text_now(), other.document("d").words_now()),
+                         ("1", [(1, "num", "2", 0, 2)]))
 
     def test_each_document_as_made_anew(self):
         bench = bench_with(d="1+ 2", e="+")
-        bench.turn("g", [("add", "term", 0, "neg", ("plus", "term"))]) if False else None
         bench.turn("g", [("drop", "none"), ("call", "num", "fig")])
         for name in bench.docs():
-            anew = Document(Reader(bench.grammar_of("g", version=bench.about(name)[1])), bench.document(name).text_now())
+            anew = Document(Reader(bench.grammar_of("g", version=bench.about(name)[1])),
+                            bench.document(name).text_now())
             told = bench.document(name)
             self.assertEqual(told, anew)
             self.assertEqual([word[1:] for word in told.words_now()], [word[1:] for word in anew.words_now()])
             self.assertEqual(fields(told.tree_now), fields(anew.tree_now))
-            self.assertEqual(flat(*told.nodes_now()) if told.stop_now() is None else None, anew.tree_now() if anew.stop_now() is None else None)
+            self.assertEqual(flat(*told.nodes_now()) if told.stop_now() is None else None,
+                             anew.tree_now() if anew.stop_now() is None else None)

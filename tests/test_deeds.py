@@ -14,7 +14,8 @@ from tongueyard.grammars import Grammar
 from tongueyard.patterns import least_spelled
 
 KINDS = [("x", signs("x"), False), ("y", more(signs("xy")), False), ("gap", signs(" "), True)]
-RULES = [("a", [("p", ("b", "x", "a")), ("q", ("x",)), ("r", ())]), ("b", [("s", ("y", "a"))]), ("c", [("t", ("c", "x")), ("u", ("b", "a"))])]
+RULES = [("a", [("p", ("b", "x", "a")), ("q", ("x",)), ("r", ())]), ("b", [("s", ("y", "a"))]),
+         ("c", [("t", ("c", "x")), ("u", ("b", "a"))])]
 BARS = (("p", 3, "p"), ("s", 2, "r"), ("u", 2, "q"), ("t", 1, "t"))
 BASE = Grammar(KINDS, RULES, bars=BARS)
 
@@ -53,9 +54,12 @@ class Done(unittest.TestCase):
         self.assertIsNone(step_fault(told[1]))
 
     def test_call(self):
-        rules = [("a", [("p", ("b", "z", "a")), ("q", ("z",)), ("r", ())]), RULES[1], ("c", [("t", ("c", "z")), ("u", ("b", "a"))])]
-        self.check(("call", "x", "z"), Grammar([("z",) + KINDS[0][1:]] + KINDS[1:], rules, bars=BARS), names_of(BASE, x="z"), plain_templates(BASE))
-        rules = [("z", [("p", ("b", "x", "z")), ("q", ("x",)), ("r", ())]), ("b", [("s", ("y", "z"))]), ("c", [("t", ("c", "x")), ("u", ("b", "z"))])]
+        rules = [("a", [("p", ("b", "z", "a")), ("q", ("z",)), ("r", ())]), RULES[1],
+                 ("c", [("t", ("c", "z")), ("u", ("b", "a"))])]
+        self.check(("call", "x", "z"), Grammar([("z",) + KINDS[0][1:]] + KINDS[1:], rules, bars=BARS),
+                   names_of(BASE, x="z"), plain_templates(BASE))
+        rules = [("z", [("p", ("b", "x", "z")), ("q", ("x",)), ("r", ())]), ("b", [("s", ("y", "z"))]),
+                 ("c", [("t", ("c", "x")), ("u", ("b", "z"))])]
         self.check(("call", "a", "z"), Grammar(KINDS, rules, bars=BARS), names_of(BASE, a="z"), plain_templates(BASE))
         self.check(("call", "a", "a"), BASE, names_of(BASE), plain_templates(BASE))
         begun = Grammar(KINDS, RULES, begin="c", bars=BARS)
@@ -65,7 +69,8 @@ class Done(unittest.TestCase):
     def test_label(self):
         rules = [("a", [("p", ("b", "x", "a")), ("q", ("x",)), ("rr", ())])] + RULES[1:]
         bars = (("p", 3, "p"), ("s", 2, "rr"), ("u", 2, "q"), ("t", 1, "t"))
-        self.check(("label", "r", "rr"), Grammar(KINDS, rules, bars=bars), names_of(BASE), plain_templates(BASE, r=(("node", "rr"),)))
+        self.check(("label", "r", "rr"), Grammar(KINDS, rules, bars=bars), names_of(BASE),
+                   plain_templates(BASE, r=(("node", "rr"),)))
         told = done(BASE, ("label", "t", "tt"))[0]
         self.assertEqual(told.bars(), BARS[:3] + (("tt", 1, "tt"),))
         self.check(("label", "t", "t"), BASE, names_of(BASE), plain_templates(BASE))
@@ -73,19 +78,24 @@ class Done(unittest.TestCase):
     def test_add_and_drop(self):
         for at in range(4):
             alternatives = RULES[0][1][:at] + [("new", ("y", "c"))] + RULES[0][1][at:]
-            self.check(("add", "a", at, "new", ("y", "c")), Grammar(KINDS, [("a", alternatives)] + RULES[1:], bars=BARS), names_of(BASE), plain_templates(BASE))
-        self.check(("add", "b", 1, "new", ()), Grammar(KINDS, [RULES[0], ("b", [("s", ("y", "a")), ("new", ())]), RULES[2]], bars=BARS), names_of(BASE),
+            self.check(("add", "a", at, "new", ("y", "c")), Grammar(KINDS, [("a", alternatives)] + RULES[1:],
+                bars=BARS), names_of(BASE), plain_templates(BASE))
+        self.check(("add", "b", 1, "new", ()), Grammar(KINDS, [RULES[0], ("b", [("s", ("y", "a")), ("new", ())]),
+            RULES[2]], bars=BARS), names_of(BASE),
                    plain_templates(BASE))
         for label, bars in (("p", BARS[1:]), ("q", BARS[:2] + BARS[3:]), ("r", BARS[:1] + BARS[2:])):
             rules = [("a", [one for one in RULES[0][1] if one[0] != label])] + RULES[1:]
-            self.check(("drop", label), Grammar(KINDS, rules, bars=bars), names_of(BASE), plain_templates(BASE, **{label: None}))
+            self.check(("drop", label), Grammar(KINDS, rules, bars=bars), names_of(BASE),
+                       plain_templates(BASE, **{label: None}))
         self.assertEqual(done(BASE, ("drop", "t"))[0].bars(), BARS[:3])
 
     def test_rule_and_norule(self):
         for at in range(4):
             rules = RULES[:at] + [("d", [("v", ("a", "d")), ("w", ())])] + RULES[at:]
-            self.check(("rule", at, "d", [("v", ("a", "d")), ("w", ())]), Grammar(KINDS, rules, begin="a", bars=BARS), names_of(BASE), plain_templates(BASE))
-        self.check(("norule", "c"), Grammar(KINDS, RULES[:2], bars=BARS[:2]), names_of(BASE, c=None), plain_templates(BASE, t=None, u=None))
+            self.check(("rule", at, "d", [("v", ("a", "d")), ("w", ())]), Grammar(KINDS, rules, begin="a", bars=BARS),
+                       names_of(BASE), plain_templates(BASE))
+        self.check(("norule", "c"), Grammar(KINDS, RULES[:2], bars=BARS[:2]), names_of(BASE, c=None),
+                   plain_templates(BASE, t=None, u=None))
         alternatives = [("v", ())]
         new = done(BASE, ("rule", 0, "d", alternatives))[0]
         alternatives.append(("w", ()))
@@ -94,11 +104,15 @@ class Done(unittest.TestCase):
     def test_word_noword_and_kind(self):
         for at in range(4):
             kinds = KINDS[:at] + [("z", word("zz"), at == 2)] + KINDS[at:]
-            self.check(("word", at, "z", word("zz"), at == 2), Grammar(kinds, RULES, bars=BARS), names_of(BASE), plain_templates(BASE))
-        self.check(("noword", "gap"), Grammar(KINDS[:2], RULES, bars=BARS), names_of(BASE, gap=None), plain_templates(BASE))
+            self.check(("word", at, "z", word("zz"), at == 2), Grammar(kinds, RULES, bars=BARS), names_of(BASE),
+                       plain_templates(BASE))
+        self.check(("noword", "gap"), Grammar(KINDS[:2], RULES, bars=BARS), names_of(BASE, gap=None),
+                   plain_templates(BASE))
         kinds = [KINDS[0], ("y", word("yy"), False), KINDS[2]]
-        self.check(("kind", "y", word("yy"), False), Grammar(kinds, RULES, bars=BARS), names_of(BASE), plain_templates(BASE))
-        self.check(("kind", "gap", signs("\n"), False), Grammar(KINDS[:2] + [("gap", signs("\n"), False)], RULES, bars=BARS), names_of(BASE),
+        self.check(("kind", "y", word("yy"), False), Grammar(kinds, RULES, bars=BARS), names_of(BASE),
+                   plain_templates(BASE))
+        self.check(("kind", "gap", signs("\n"), False), Grammar(KINDS[:2] + [("gap", signs("\n"), False)], RULES,
+            bars=BARS), names_of(BASE),
                    plain_templates(BASE))
 
     def test_begin(self):
@@ -108,7 +122,8 @@ class Done(unittest.TestCase):
     def test_turn(self):
         rules = [("a", [("p", ("a", "b", "x")), ("q", ("x",)), ("r", ())])] + RULES[1:]
         bars = (("p", 1, "p"),) + BARS[1:]
-        self.check(("turn", "p", (3, 1, 2)), Grammar(KINDS, rules, bars=bars), names_of(BASE), plain_templates(BASE, p=(("node", "p"),) + parts(3, 1, 2)))
+        self.check(("turn", "p", (3, 1, 2)), Grammar(KINDS, rules, bars=bars), names_of(BASE),
+                   plain_templates(BASE, p=(("node", "p"),) + parts(3, 1, 2)))
         self.check(("turn", "p", (1, 2, 3)), BASE, names_of(BASE), plain_templates(BASE))
         self.check(("turn", "r", ()), BASE, names_of(BASE), plain_templates(BASE))
         rules = RULES[:2] + [("c", [("t", ("x", "c")), ("u", ("b", "a"))])]
@@ -116,40 +131,54 @@ class Done(unittest.TestCase):
                    plain_templates(BASE, t=(("node", "t"),) + parts(2, 1)))
 
     def test_put(self):
-        for at, row, place in ((1, ("y", "b", "x", "a"), 4), (2, ("b", "y", "x", "a"), 4), (3, ("b", "x", "y", "a"), 4), (4, ("b", "x", "a", "y"), 3)):
+        for at, row, place in ((1, ("y", "b", "x", "a"), 4), (2, ("b", "y", "x", "a"), 4), (3, ("b", "x", "y", "a"), 4),
+                               (4, ("b", "x", "a", "y"), 3)):
             rules = [("a", [("p", row), ("q", ("x",)), ("r", ())])] + RULES[1:]
             pieces = [("node", "p")] + list(parts(1, 2, 3))
             pieces.insert(at, ("word", "y", "xyx"))
-            self.check(("put", "p", at, "y", "xyx"), Grammar(KINDS, rules, bars=(("p", place, "p"),) + BARS[1:]), names_of(BASE),
+            self.check(("put", "p", at, "y", "xyx"), Grammar(KINDS, rules, bars=(("p", place, "p"),) + BARS[1:]),
+                       names_of(BASE),
                        plain_templates(BASE, p=tuple(pieces)))
         rules = [("a", [("p", ("b", "x", "a")), ("q", ("x",)), ("r", ("a",))])] + RULES[1:]
         stuff = (("p", "s", "q", "q"), (("y", "xy"), ("x", "x"), ("x", "x"), ("x", "x")))
-        self.check(("put", "r", 1, "a", stuff), Grammar(KINDS, rules, bars=BARS), names_of(BASE), plain_templates(BASE, r=(
-            ("node", "r"), ("node", "p"), ("node", "s"), ("word", "y", "xy"), ("node", "q"), ("word", "x", "x"), ("word", "x", "x"), ("node", "q"), ("word", "x", "x"))))
+        self.check(("put", "r", 1, "a", stuff), Grammar(KINDS, rules, bars=BARS), names_of(BASE),
+                   plain_templates(BASE, r=(
+            ("node", "r"), ("node", "p"), ("node", "s"), ("word", "y", "xy"), ("node", "q"), ("word", "x", "x"),
+                                            ("word", "x", "x"), ("node", "q"), ("word", "x", "x"))))
 
     def test_take(self):
-        for at, row, bars in ((1, ("x", "a"), (("p", 2, "p"),)), (2, ("b", "a"), (("p", 2, "p"),)), (3, ("b", "x"), ())):
+        for at, row, bars in ((1, ("x", "a"), (("p", 2, "p"),)), (2, ("b", "a"), (("p", 2, "p"),)),
+                              (3, ("b", "x"), ())):
             rules = [("a", [("p", row), ("q", ("x",)), ("r", ())])] + RULES[1:]
             places = [place for place in (1, 2, 3) if place != at]
-            self.check(("take", "p", at), Grammar(KINDS, rules, bars=bars + BARS[1:]), names_of(BASE), plain_templates(BASE, p=(("node", "p"),) + parts(*places)))
+            self.check(("take", "p", at), Grammar(KINDS, rules, bars=bars + BARS[1:]), names_of(BASE),
+                       plain_templates(BASE, p=(("node", "p"),) + parts(*places)))
         rules = [("a", [("p", ("b", "x", "a")), ("q", ()), ("r", ())])] + RULES[1:]
-        self.check(("take", "q", 1), Grammar(KINDS, rules, bars=BARS), names_of(BASE), plain_templates(BASE, q=(("node", "q"),)))
+        self.check(("take", "q", 1), Grammar(KINDS, rules, bars=BARS), names_of(BASE),
+                   plain_templates(BASE, q=(("node", "q"),)))
 
     def test_fold(self):
-        cases = [(1, 3, ("d", "a"), ("b", "x"), (("p", 2, "p"),), (("node", "p"), ("node", "i"), ("part", 1), ("part", 2), ("part", 3))),
-                 (2, 4, ("b", "d"), ("x", "a"), (("i", 2, "p"),), (("node", "p"), ("part", 1), ("node", "i"), ("part", 2), ("part", 3))),
-                 (3, 4, ("b", "x", "d"), ("a",), (("i", 1, "p"),), (("node", "p"), ("part", 1), ("part", 2), ("node", "i"), ("part", 3))),
-                 (1, 4, ("d",), ("b", "x", "a"), (("i", 3, "p"),), (("node", "p"), ("node", "i"), ("part", 1), ("part", 2), ("part", 3))),
-                 (1, 2, ("d", "x", "a"), ("b",), (("p", 3, "p"),), (("node", "p"), ("node", "i"), ("part", 1), ("part", 2), ("part", 3)))]
+        cases = [(1, 3, ("d", "a"), ("b", "x"), (("p", 2, "p"),), (("node", "p"), ("node", "i"), ("part", 1),
+            ("part", 2), ("part", 3))),
+                 (2, 4, ("b", "d"), ("x", "a"), (("i", 2, "p"),), (("node", "p"), ("part", 1), ("node", "i"),
+                     ("part", 2), ("part", 3))),
+                 (3, 4, ("b", "x", "d"), ("a",), (("i", 1, "p"),), (("node", "p"), ("part", 1), ("part", 2),
+                     ("node", "i"), ("part", 3))),
+                 (1, 4, ("d",), ("b", "x", "a"), (("i", 3, "p"),), (("node", "p"), ("node", "i"), ("part", 1),
+                     ("part", 2), ("part", 3))),
+                 (1, 2, ("d", "x", "a"), ("b",), (("p", 3, "p"),), (("node", "p"), ("node", "i"), ("part", 1),
+                     ("part", 2), ("part", 3)))]
         for at, behind, row, run, bars, pieces in cases:
             rules = [("a", [("p", row), ("q", ("x",)), ("r", ())])] + RULES[1:] + [("d", [("i", run)])]
-            self.check(("fold", "p", at, behind, "d", "i"), Grammar(KINDS, rules, bars=bars + BARS[1:]), names_of(BASE), plain_templates(BASE, p=pieces))
+            self.check(("fold", "p", at, behind, "d", "i"), Grammar(KINDS, rules, bars=bars + BARS[1:]), names_of(BASE),
+                       plain_templates(BASE, p=pieces))
 
     def test_unfold(self):
         rules = [("a", [("p", ("y", "a", "x", "a")), ("q", ("x",)), ("r", ())])] + RULES[1:]
         bars = (("p", 4, "p"),) + BARS[1:] + (("p", 2, "r"),)
         self.check(("unfold", "p", 1), Grammar(KINDS, rules, bars=bars), names_of(BASE),
-                   plain_templates(BASE, p=(("node", "p"), ("within", 1, "s", 1), ("within", 1, "s", 2), ("part", 2), ("part", 3))))
+                   plain_templates(BASE, p=(("node", "p"), ("within", 1, "s", 1), ("within", 1, "s", 2), ("part", 2),
+                                            ("part", 3))))
         rules = RULES[:2] + [("c", [("t", ("c", "x")), ("u", ("y", "a", "a"))])]
         bars = BARS[:2] + (("u", 3, "q"), ("t", 1, "t"), ("u", 2, "r"))
         self.check(("unfold", "u", 1), Grammar(KINDS, rules, bars=bars), names_of(BASE),
@@ -157,15 +186,33 @@ class Done(unittest.TestCase):
         # Of an alternative without symbols nothing stands there.
         empty = Grammar(KINDS, [("a", [("p", ("x", "b", "a")), ("q", ())]), ("b", [("s", ())])], bars=(("p", 3, "p"),))
         new = Grammar(KINDS, [("a", [("p", ("x", "a")), ("q", ())]), ("b", [("s", ())])], bars=(("p", 2, "p"),))
-        self.check(("unfold", "p", 2), new, names_of(empty), plain_templates(empty, p=(("node", "p"), ("part", 1), ("part", 3))), empty)
+        self.check(("unfold", "p", 2), new, names_of(empty), plain_templates(empty,
+            p=(("node", "p"), ("part", 1), ("part", 3))), empty)
         # The bars of the alternative stand behind all others, in their order.
         some = Grammar(KINDS, [("a", [("p", ("b", "a")), ("q", ())]), ("b", [("s", ("a", "a"))])],
                        bars=(("s", 2, "q"), ("p", 2, "p"), ("s", 1, "p"), ("p", 2, "q"), ("s", 1, "q")))
-        self.assertEqual(done(some, ("unfold", "p", 1))[0].bars(), (("s", 2, "q"), ("p", 3, "p"), ("s", 1, "p"), ("p", 3, "q"), ("s", 1, "q"),
+        self.assertEqual(done(some, ("unfold", "p", 1))[0].bars(), (("s", 2, "q"), ("p", 3, "p"), ("s", 1, "p"),
+            ("p", 3, "q"), ("s", 1, "q"),
                                                                     ("p", 2, "q"), ("p", 1, "p"), ("p", 1, "q")))
 
+    def test_bars_at_all_places_go_along(self):
+        some = Grammar(KINDS, [("a", [("p", ("a", "b", "a", "b", "a")), ("q", ())]), ("b", [("s", ("a", "x"))])],
+                       bars=(("p", 5, "p"), ("p", 1, "q"), ("s", 1, "p"), ("p", 3, "p"), ("p", 4, "s"), ("p", 1, "p")))
+        for deed, bars in (
+                (("put", "p", 3, "x", "x"), (("p", 6, "p"), ("p", 1, "q"), ("s", 1, "p"), ("p", 4, "p"), ("p", 5, "s"), ("p", 1, "p"))),
+                (("put", "p", 1, "x", "x"), (("p", 6, "p"), ("p", 2, "q"), ("s", 1, "p"), ("p", 4, "p"), ("p", 5, "s"), ("p", 2, "p"))),
+                (("take", "p", 2), (("p", 4, "p"), ("p", 1, "q"), ("s", 1, "p"), ("p", 2, "p"), ("p", 3, "s"), ("p", 1, "p"))),
+                (("take", "p", 1), (("p", 4, "p"), ("s", 1, "p"), ("p", 2, "p"), ("p", 3, "s"))),
+                (("turn", "p", (5, 4, 1, 2, 3)), (("p", 1, "p"), ("p", 3, "q"), ("s", 1, "p"), ("p", 5, "p"), ("p", 2, "s"), ("p", 3, "p"))),
+                (("fold", "p", 2, 4, "new", "n"), (("p", 4, "p"), ("p", 1, "q"), ("s", 1, "p"), ("n", 2, "p"), ("p", 3, "s"), ("p", 1, "p"))),
+                (("unfold", "p", 2), (("p", 6, "p"), ("p", 1, "q"), ("s", 1, "p"), ("p", 4, "p"), ("p", 5, "s"), ("p", 1, "p"), ("p", 2, "p")))):
+            new, step = done(some, deed)
+            self.assertEqual(new.bars(), bars, deed)
+            self.assertIsNone(step_fault(step))
+
     def test_bar_and_nobar(self):
-        self.check(("bar", "p", 1, "s"), Grammar(KINDS, RULES, bars=BARS + (("p", 1, "s"),)), names_of(BASE), plain_templates(BASE))
+        self.check(("bar", "p", 1, "s"), Grammar(KINDS, RULES, bars=BARS + (("p", 1, "s"),)), names_of(BASE),
+                   plain_templates(BASE))
         for bar in BARS:
             left = tuple(one for one in BARS if one != bar)
             self.check(("nobar",) + bar, Grammar(KINDS, RULES, bars=left), names_of(BASE), plain_templates(BASE))
@@ -176,29 +223,45 @@ class Done(unittest.TestCase):
                 row = grammar.row_of(label)
                 for at in range(1, len(row) + 1):
                     for behind in range(at + 1, len(row) + 2):
-                        folded, bridge = turn(grammar, [("fold", label, at, behind, "zz", "zy"), ("unfold", label, at), ("norule", "zz")])
+                        folded, bridge = turn(grammar, [("fold", label, at, behind, "zz", "zy"), ("unfold", label, at),
+                                                        ("norule", "zz")])
                         self.assertEqual(folded.rules(), grammar.rules())
                         self.assertEqual(sorted(folded.bars()), sorted(grammar.bars()))
                         for shape in sorted(shapes_up_to(grammar, 4))[:5]:
                             tree = (shape, some_words(grammar, shape, Random(1)))
-                            self.assertEqual(led(bridge, tree, keep=True), (tree, {at: at for at in range(len(shape))}, {at: at for at in range(len(tree[1]))}))
+                            self.assertEqual(led(bridge, tree, keep=True),
+                                             (tree, {at: at for at in range(len(shape))},
+                                              {at: at for at in range(len(tree[1]))}))
 
 
 class Refused(unittest.TestCase):
     def test_no_deed(self):
         for deed in (
-                ("call", "z", "d"), ("call", "p", "d"), ("call", "", "d"), ("label", "z", "d"), ("label", "a", "d"), ("label", "x", "d"),
-                ("add", "z", 0, "new", ()), ("add", "x", 0, "new", ()), ("add", "p", 0, "new", ()), ("add", "a", 4, "new", ()), ("add", "a", -1, "new", ()), ("add", "b", 2, "new", ()),
-                ("drop", "z"), ("drop", "a"), ("rule", 4, "d", [("v", ())]), ("rule", -1, "d", [("v", ())]), ("norule", "z"), ("norule", "x"), ("norule", "p"),
-                ("word", 4, "z", signs("z"), False), ("word", -1, "z", signs("z"), False), ("noword", "z"), ("noword", "a"), ("kind", "z", signs("z"), False), ("kind", "a", signs("z"), False),
-                ("turn", "z", ()), ("turn", "p", (1, 2)), ("turn", "p", (1, 2, 2)), ("turn", "p", (0, 1, 2)), ("turn", "p", (1, 2, 3, 4)), ("turn", "p", ()), ("turn", "r", (1,)), ("turn", "p", (1, 2, 4)),
-                ("put", "z", 1, "x", "x"), ("put", "p", 0, "x", "x"), ("put", "p", 5, "x", "x"), ("put", "r", 2, "x", "x"), ("put", "p", -1, "x", "x"),
-                ("put", "p", 1, "x", "y"), ("put", "p", 1, "x", ""), ("put", "p", 1, "x", (("q",), (("x", "x"),))), ("put", "p", 1, "x", None), ("put", "p", 1, "a", "x"),
-                ("put", "p", 1, "a", (("s",), ())), ("put", "p", 1, "a", (("q",), ())), ("put", "p", 1, "a", None), ("put", "p", 1, "a", ()), ("put", "p", 1, "b", (("q",), (("x", "x"),))),
-                ("put", "p", 1, "a", (("p", "s", "q", "p"), (("y", "xy"), ("x", "x"), ("x", "x")))), ("put", "p", 1, "y", "xyz"), ("put", "p", 1, "a", (("p", "s", "r", "q"), (("y", "y"), ("x", "x"), ("x", "x")))),
+                ("call", "z", "d"), ("call", "p", "d"), ("call", "", "d"), ("label", "z", "d"), ("label", "a", "d"),
+                     ("label", "x", "d"),
+                ("add", "z", 0, "new", ()), ("add", "x", 0, "new", ()), ("add", "p", 0, "new", ()),
+                     ("add", "a", 4, "new", ()), ("add", "a", -1, "new", ()), ("add", "b", 2, "new", ()),
+                ("drop", "z"), ("drop", "a"), ("rule", 4, "d", [("v", ())]), ("rule", -1, "d", [("v", ())]),
+                     ("norule", "z"), ("norule", "x"), ("norule", "p"),
+                ("word", 4, "z", signs("z"), False), ("word", -1, "z", signs("z"), False), ("noword", "z"),
+                     ("noword", "a"), ("kind", "z", signs("z"), False), ("kind", "a", signs("z"), False),
+                ("turn", "z", ()), ("turn", "p", (1, 2)), ("turn", "p", (1, 2, 2)), ("turn", "p", (0, 1, 2)),
+                     ("turn", "p", (1, 2, 3, 4)), ("turn", "p", ()), ("turn", "r", (1,)), ("turn", "p", (1, 2, 4)),
+                ("put", "z", 1, "x", "x"), ("put", "p", 0, "x", "x"), ("put", "p", 5, "x", "x"),
+                     ("put", "r", 2, "x", "x"), ("put", "p", -1, "x", "x"),
+                ("put", "p", 1, "x", "y"), ("put", "p", 1, "x", ""), ("put", "p", 1, "x", (("q",), (("x", "x"),))),
+                     ("put", "p", 1, "x", None), ("put", "p", 1, "a", "x"),
+                ("put", "p", 1, "a", (("s",), ())), ("put", "p", 1, "a", (("q",), ())), ("put", "p", 1, "a", None),
+                     ("put", "p", 1, "a", ()), ("put", "p", 1, "b", (("q",), (("x", "x"),))),
+                ("put", "p", 1, "a", (("p", "s", "q", "p"), (("y", "xy"), ("x", "x"), ("x", "x")))),
+                     ("put", "p", 1, "y", "xyz"), ("put", "p", 1, "a", (("p", "s", "r", "q"),
+                         (("y", "y"), ("x", "x"), ("x", "x")))),
                 ("take", "z", 1), ("take", "p", 0), ("take", "p", 4), ("take", "r", 1), ("take", "p", -1),
-                ("fold", "z", 1, 2, "d", "i"), ("fold", "p", 0, 2, "d", "i"), ("fold", "p", 1, 5, "d", "i"), ("fold", "p", 2, 2, "d", "i"), ("fold", "p", 3, 1, "d", "i"), ("fold", "r", 1, 1, "d", "i"), ("fold", "p", 4, 5, "d", "i"),
-                ("unfold", "z", 1), ("unfold", "p", 0), ("unfold", "p", 4), ("unfold", "p", 2), ("unfold", "p", 3), ("unfold", "r", 1), ("unfold", "t", 1),
+                ("fold", "z", 1, 2, "d", "i"), ("fold", "p", 0, 2, "d", "i"), ("fold", "p", 1, 5, "d", "i"),
+                     ("fold", "p", 2, 2, "d", "i"), ("fold", "p", 3, 1, "d", "i"), ("fold", "r", 1, 1, "d", "i"),
+                     ("fold", "p", 4, 5, "d", "i"),
+                ("unfold", "z", 1), ("unfold", "p", 0), ("unfold", "p", 4), ("unfold", "p", 2), ("unfold", "p", 3),
+                     ("unfold", "r", 1), ("unfold", "t", 1),
                 ("nobar", "p", 3, "q"), ("nobar", "p", 1, "p"), ("nobar", "z", 3, "p"), ("other", "p"), ("", "p")):
             ahead = copy.deepcopy(deed)
             self.assertEqual(refusal(lambda: done(BASE, deed)), (NoDeed, deed[0]), deed)
@@ -214,20 +277,40 @@ class Refused(unittest.TestCase):
 
     def test_no_grammar(self):
         for deed, what, name in (
-                (("call", "x", "Z"), "name", "Z"), (("call", "x", "word"), "name", "word"), (("call", "x", "y"), "twice", "y"), (("call", "x", "a"), "twice", "a"),
-                (("call", "a", "c"), "twice", "c"), (("call", "a", "gap"), "twice", "gap"), (("call", "a", ""), "name", ""), (("label", "p", "q"), "again", "q"), (("label", "p", "rule"), "label", "rule"),
+                (("call", "x", "Z"), "name", "Z"), (("call", "x", "word"), "name", "word"),
+                                 (("call", "x", "y"), "twice", "y"), (("call", "x", "a"), "twice", "a"),
+                (("call", "a", "c"), "twice", "c"), (("call", "a", "gap"), "twice", "gap"),
+                                 (("call", "a", ""), "name", ""), (("label", "p", "q"), "again", "q"),
+                                 (("label", "p", "rule"), "label", "rule"),
                 (("label", "u", "q"), "again", "q"), (("label", "p", "toolonger"), "label", "toolonger"),
-                (("add", "a", 0, "q", ()), "again", "q"), (("add", "a", 3, "q", ()), "again", "q"), (("add", "a", 0, "W", ()), "label", "W"), (("add", "a", 0, "w", ("x",) * 7), "long", "w"),
-                (("add", "a", 0, "w", ("x", "z")), "symbol", "z"), (("add", "a", 0, "w", ("x", "gap")), "skipped", "gap"), (("drop", "s"), "bare", "b"),
-                (("rule", 0, "a", [("v", ())]), "twice", "a"), (("rule", 0, "x", [("v", ())]), "twice", "x"), (("rule", 1, "d", []), "bare", "d"), (("rule", 1, "d", [("v", ()), ("v", ())]), "again", "v"),
-                (("rule", 1, "d", [("q", ())]), "again", "q"), (("rule", 1, "d", [("v", ("e",))]), "symbol", "e"), (("rule", 1, "dd9", [("v", ())]), "name", "dd9"),
-                (("norule", "a"), "symbol", "a"), (("norule", "b"), "symbol", "b"), (("word", 0, "x", signs("z"), False), "twice", "x"), (("word", 0, "a", signs("z"), False), "twice", "a"),
-                (("word", 0, "Z", signs("z"), False), "name", "Z"), (("word", 0, "z", ("again", signs("z")), False), "empty", "z"), (("noword", "x"), "symbol", "x"), (("noword", "y"), "symbol", "y"),
-                (("kind", "x", ("empty",), False), "empty", "x"), (("kind", "x", signs("x"), True), "skipped", "x"), (("begin", "z"), "begin", "z"), (("begin", "x"), "begin", "x"), (("begin", "p"), "begin", "p"),
-                (("put", "p", 1, "z", "x"), "symbol", "z"), (("put", "p", 1, "gap", " "), "skipped", "gap"), (("put", "p", 1, "p", None), "symbol", "p"), (("put", "p", 1, "z", None), "symbol", "z"),
-                (("fold", "p", 1, 2, "a", "i"), "twice", "a"), (("fold", "p", 1, 2, "x", "i"), "twice", "x"), (("fold", "p", 1, 2, "d", "q"), "again", "q"), (("fold", "p", 1, 2, "d", "p"), "again", "p"),
+                (("add", "a", 0, "q", ()), "again", "q"), (("add", "a", 3, "q", ()), "again", "q"),
+                                 (("add", "a", 0, "W", ()), "label", "W"),
+                                 (("add", "a", 0, "w", ("x",) * 7), "long", "w"),
+                (("add", "a", 0, "w", ("x", "z")), "symbol", "z"), (("add", "a", 0, "w", ("x", "gap")), "skipped",
+                    "gap"), (("drop", "s"), "bare", "b"),
+                (("rule", 0, "a", [("v", ())]), "twice", "a"), (("rule", 0, "x", [("v", ())]), "twice", "x"),
+                                 (("rule", 1, "d", []), "bare", "d"), (("rule", 1, "d", [("v", ()), ("v", ())]),
+                                     "again", "v"),
+                (("rule", 1, "d", [("q", ())]), "again", "q"), (("rule", 1, "d", [("v", ("e",))]), "symbol", "e"),
+                                 (("rule", 1, "dd9", [("v", ())]), "name", "dd9"),
+                (("norule", "a"), "symbol", "a"), (("norule", "b"), "symbol", "b"),
+                                 (("word", 0, "x", signs("z"), False), "twice", "x"),
+                                 (("word", 0, "a", signs("z"), False), "twice", "a"),
+                (("word", 0, "Z", signs("z"), False), "name", "Z"), (("word", 0, "z", ("again", signs("z")), False),
+                    "empty", "z"), (("noword", "x"), "symbol", "x"), (("noword", "y"), "symbol", "y"),
+                (("kind", "x", ("empty",), False), "empty", "x"), (("kind", "x", signs("x"), True), "skipped", "x"),
+                                 (("begin", "z"), "begin", "z"), (("begin", "x"), "begin", "x"),
+                                 (("begin", "p"), "begin", "p"),
+                (("put", "p", 1, "z", "x"), "symbol", "z"), (("put", "p", 1, "gap", " "), "skipped", "gap"),
+                                 (("put", "p", 1, "p", None), "symbol", "p"),
+                                 (("put", "p", 1, "z", None), "symbol", "z"),
+                (("fold", "p", 1, 2, "a", "i"), "twice", "a"), (("fold", "p", 1, 2, "x", "i"), "twice", "x"),
+                                 (("fold", "p", 1, 2, "d", "q"), "again", "q"),
+                                 (("fold", "p", 1, 2, "d", "p"), "again", "p"),
                 (("fold", "p", 1, 2, "D", "i"), "name", "D"), (("fold", "p", 1, 2, "d", "skip"), "label", "skip"),
-                (("bar", "p", 3, "p"), "bar", "p"), (("bar", "z", 3, "p"), "bar", "z"), (("bar", "p", 2, "p"), "bar", "p"), (("bar", "p", 1, "q"), "bar", "p"), (("bar", "p", 0, "q"), "bar", "p"),
+                (("bar", "p", 3, "p"), "bar", "p"), (("bar", "z", 3, "p"), "bar", "z"),
+                                 (("bar", "p", 2, "p"), "bar", "p"), (("bar", "p", 1, "q"), "bar", "p"),
+                                 (("bar", "p", 0, "q"), "bar", "p"),
                 (("bar", "p", 4, "q"), "bar", "p"), (("bar", "q", 1, "z"), "bar", "q")):
             self.assertEqual(refusal(lambda: done(BASE, deed)), (NoGrammar, what, name), deed)
 
@@ -235,7 +318,8 @@ class Refused(unittest.TestCase):
         one = grammar_of("a: p x", kinds=KINDS[:1])
         self.assertEqual(refusal(lambda: done(one, ("norule", "a"))), (NoGrammar, "many", None))
         self.assertEqual(refusal(lambda: done(one, ("noword", "x"))), (NoGrammar, "many", None))
-        full = grammar_of("a: p x x x x x x | q b\n b: r x x", kinds=[("k" + letter, signs(letter), False) for letter in "abcdefghijklm"] + KINDS[:1])
+        full = grammar_of("a: p x x x x x x | q b\n b: r x x", kinds=[("k" + letter, signs(letter),
+            False) for letter in "abcdefghijklm"] + KINDS[:1])
         self.assertEqual(refusal(lambda: done(full, ("word", 0, "z", signs("z"), False))), (NoGrammar, "many", None))
         self.assertEqual(refusal(lambda: done(full, ("put", "p", 1, "x", "x"))), (NoGrammar, "long", "p"))
         # What does not fit goes ahead of what makes no grammar; the stuff is looked at last of all.
@@ -265,11 +349,16 @@ def some_deed(grammar, chance):
         shape = chance.choice(shapes) if shapes else ()
         stuff = (shape, some_words(grammar, shape, chance, symbol) if shape else ())
     return chance.choice([
-        ("call", chance.choice(rules + kinds), fresh), ("label", label, fresh), ("add", name, chance.randint(0, 2), fresh, (symbol,)), ("drop", label),
-        ("rule", chance.randint(0, len(rules)), fresh, [(fresh, (symbol,))]), ("norule", name), ("word", 0, fresh, word("zz"), False), ("noword", kind),
-        ("kind", kind, chance.choice([signs("x"), more(signs("xy"))]), False), ("begin", name), ("turn", label, tuple(order)), ("put", label, at, symbol, stuff),
-        ("take", label, at), ("fold", label, at, chance.randint(at + 1, max(at + 1, len(row) + 1)), fresh, fresh), ("unfold", label, at),
-        ("bar", label, at, chance.choice(labels)), ("nobar",) + (grammar.bars()[0] if grammar.bars() else ("z", 1, "z"))])
+        ("call", chance.choice(rules + kinds), fresh), ("label", label, fresh),
+                          ("add", name, chance.randint(0, 2), fresh, (symbol,)), ("drop", label),
+        ("rule", chance.randint(0, len(rules)), fresh, [(fresh, (symbol,))]), ("norule", name),
+                          ("word", 0, fresh, word("zz"), False), ("noword", kind),
+        ("kind", kind, chance.choice([signs("x"), more(signs("xy"))]), False), ("begin", name),
+                          ("turn", label, tuple(order)), ("put", label, at, symbol, stuff),
+        ("take", label, at), ("fold", label, at, chance.randint(at + 1, max(at + 1, len(row) + 1)), fresh, fresh),
+                          ("unfold", label, at),
+        ("bar", label, at, chance.choice(labels)), ("nobar",) + (grammar.bars()[0] if grammar.bars() else ("z", 1,
+            "z"))])
 
 
 class Steps(unittest.TestCase):
@@ -290,7 +379,8 @@ class Steps(unittest.TestCase):
     def test_each_tree_is_led_but_those(self):
         chance = Random(4)
         words, trees, lost = {}, 0, 0
-        grammars = [BASE, SUMS, NAMED["half"], NAMED["nullable"], NAMED["begun"], BARRED["sums"], BARRED["still"], BARRED["twice"]]
+        grammars = [BASE, SUMS, NAMED["half"], NAMED["nullable"], NAMED["begun"], BARRED["sums"], BARRED["still"],
+                    BARRED["twice"]]
         for number in range(1400):
             grammar = grammars[number % len(grammars)]
             deed = some_deed(grammar, chance)
@@ -336,7 +426,8 @@ class Steps(unittest.TestCase):
 
 class Turns(unittest.TestCase):
     def test_rows_of_deeds(self):
-        deeds = [("call", "a", "top"[::-1]), ("label", "q", "leaf"), ("add", "pot", 0, "more", ("x", "pot")), ("turn", "more", (2, 1)), ("drop", "r")]
+        deeds = [("call", "a", "top"[::-1]), ("label", "q", "leaf"), ("add", "pot", 0, "more", ("x", "pot")),
+                 ("turn", "more", (2, 1)), ("drop", "r")]
         grammar, bridge = turn(BASE, deeds)
         self.assertEqual(len(bridge), 5)
         step = BASE
@@ -345,7 +436,8 @@ class Turns(unittest.TestCase):
             self.assertEqual(one, wanted)
             step = made
         self.assertEqual(grammar, step)
-        self.assertEqual(grammar.rules()[0], ("pot", [("more", ("pot", "x")), ("p", ("b", "x", "pot")), ("leaf", ("x",))]))
+        self.assertEqual(grammar.rules()[0], ("pot", [("more", ("pot", "x")), ("p", ("b", "x", "pot")),
+                                                      ("leaf", ("x",))]))
         self.assertEqual([bridge.leads(label) for label in "pqrs"], ["p", "leaf", None, "s"])
         self.assertEqual([bridge.straight(label) for label in "pqrs"], [True, True, False, True])
         self.assertEqual([bridge.leads_name(name) for name in ("a", "b", "x")], ["pot", "b", "x"])
@@ -356,8 +448,10 @@ class Turns(unittest.TestCase):
 
     def test_not_done(self):
         for deeds, number, cause in (
-                ([("drop", "z")], 0, (NoDeed, "drop")), ([("drop", "q"), ("drop", "q")], 1, (NoDeed, "drop")), ([("drop", "s")], 0, (NoGrammar, "bare", "b")),
-                ([("label", "q", "z"), ("add", "a", 0, "q", ()), ("call", "x", "y"), ("drop", "zz")], 2, (NoGrammar, "twice", "y")),
+                ([("drop", "z")], 0, (NoDeed, "drop")), ([("drop", "q"), ("drop", "q")], 1, (NoDeed, "drop")),
+                                     ([("drop", "s")], 0, (NoGrammar, "bare", "b")),
+                ([("label", "q", "z"), ("add", "a", 0, "q", ()), ("call", "x", "y"), ("drop", "zz")], 2,
+                 (NoGrammar, "twice", "y")),
                 ([("drop", "q"), ("drop", "p"), ("drop", "r")], 2, (NoGrammar, "bare", "a"))):
             held = copy.deepcopy(deeds)
             with self.assertRaises(NotDone) as caught:

@@ -42,7 +42,8 @@ def asked(desk):
     for name in desk.say("tongues").split(" "):
         found += [fields(lambda: desk.say(f"{word} {name}")) for word in ("show", "tally")]
     for name in desk.say("docs").split(" "):
-        found += [fields(lambda: desk.say(f"{word} {name}")) for word in ("text", "tree", "words", "nodes", "many", "stop", "print", "about", "hangs")]
+        found += [fields(lambda: desk.say(f"{word} {name}")) for word in ("text", "tree", "words", "nodes", "many",
+            "stop", "print", "about", "hangs")]
         found += [fields(lambda: desk.say(f"worth {name} {node} n")) for node in range(12)] + [fields(lambda: desk.say(f"print {name} 3"))]
     return found
 
@@ -51,12 +52,24 @@ class Deeds(unittest.TestCase):
     def test_each_one_and_each_question(self):
         desk = Desk()
         for row, told in (
-                ("tongues", "none"), ("docs", "none"), ("spared", "none"), ("changed", "none"), ("grammar g " + SUMS, "ok"), ("tongues", "g"), ("tally g", "none"), ("open d g 12 +3", "ok"), ("still s g +", "ok"),
-                ("docs", "d s"), ("changed", "s"), ("text d", "12 +3"), ("tree d", "both(one(leaf(num\"12\")) plus\"+\" leaf(num\"3\"))"), ("words d", "1 2 3 4"), ("nodes d", "1 2 3 4"), ("many d", "1"), ("stop d", "reads"),
-                ("print d", "12+3"), ("print d 0", "12+3"), ("about d", "g 0 live"), ("about s", "g 0 still"), ("hangs d", "one both leaf"), ("layout g both blank soft\nleaf", "ok"), ("print d", "12 + 3"), ("print d 5", "12 +\n3"),
-                ("sums g " + TALLY, "ok"), ("changed", "d s"), ("worth d 1 n", "3"), ("worth d 3 t", "\"12\""), ("worth d 1 s", "\"12\" \"3\""), ("worth s 5 s", "\"\""), ("edit d 0 1 ", "ok"), ("text d", "2 +3"), ("edit d 3 0 9 8", "ok"),
-                ("text d", "2 +9 83"), ("stop d", "9 . plus"), ("mend d", "1"), ("stop d", "reads"), ("turn g label both more\nadd term 0 pair num num", "1"), ("spared", "d"), ("changed", "none"), ("about d", "g 1 live"), ("about s", "g 0 still"),
-                ("lead s", "ok"), ("about s", "g 1 still"), ("tree s", "more(one(none()) plus\"+\" none())"), ("nosums g", "ok"), ("undo", "ok"), ("redo", "ok"), ("tally g", "none"), ("turn g ", "2"), ("close d", "ok"), ("docs", "s"), ("undo", "ok"), ("docs", "d s"),
+                ("tongues", "none"), ("docs", "none"), ("spared", "none"), ("changed", "none"),
+                          ("grammar g " + SUMS, "ok"), ("tongues", "g"), ("tally g", "none"), ("open d g 12 +3", "ok"),
+                          ("still s g +", "ok"),
+                ("docs", "d s"), ("changed", "s"), ("text d", "12 +3"),
+                          ("tree d", "both(one(leaf(num\"12\")) plus\"+\" leaf(num\"3\"))"), ("words d", "1 2 3 4"),
+                          ("nodes d", "1 2 3 4"), ("many d", "1"), ("stop d", "reads"),
+                ("print d", "12+3"), ("print d 0", "12+3"), ("about d", "g 0 live"), ("about s", "g 0 still"),
+                          ("hangs d", "one both leaf"), ("layout g both blank soft\nleaf", "ok"), ("print d", "12 + 3"),
+                          ("print d 5", "12 +\n3"),
+                ("sums g " + TALLY, "ok"), ("changed", "d s"), ("worth d 1 n", "3"), ("worth d 3 t", "\"12\""),
+                          ("worth d 1 s", "\"12\" \"3\""), ("worth s 5 s", "\"\""), ("edit d 0 1 ", "ok"),
+                          ("text d", "2 +3"), ("edit d 3 0 9 8", "ok"),
+                ("text d", "2 +9 83"), ("stop d", "9 . plus"), ("mend d", "1"), ("stop d", "reads"),
+                          ("turn g label both more\nadd term 0 pair num num", "1"), ("spared", "d"),
+                          ("changed", "none"), ("about d", "g 1 live"), ("about s", "g 0 still"),
+                ("lead s", "ok"), ("about s", "g 1 still"), ("tree s", "more(one(none()) plus\"+\" none())"),
+                          ("nosums g", "ok"), ("undo", "ok"), ("redo", "ok"), ("tally g", "none"), ("turn g ", "2"),
+                          ("close d", "ok"), ("docs", "s"), ("undo", "ok"), ("docs", "d s"),
                 ("mend d", "0"), ("edit s 0 1 ?", "ok"), ("stop s", "12 . num plus")):
             self.assertEqual(desk.say(row), told, row)
         bench = Bench()
@@ -65,22 +78,27 @@ class Deeds(unittest.TestCase):
         self.assertEqual(desk.say("show g"), show_grammar(bench.grammar_of("g")))
 
     def test_stops(self):
-        desk = desk_with("open d g 1 1", "open e g ?", "grammar h word x [x]; word y [y]; rule a: p: x a x | q: y a y | r:;", "open f h xy", "open k h xyx", "grammar n word x [x]; rule a: p: a x;", "open l n ", "open m n x")
-        self.assertEqual([desk.say("stop " + name) for name in "defklm"], ["3 . plus", "4 . num plus", "end x y", "end x y", "end none", "10 none"])
+        desk = desk_with("open d g 1 1", "open e g ?",
+                         "grammar h word x [x]; word y [y]; rule a: p: x a x | q: y a y | r:;", "open f h xy",
+                         "open k h xyx", "grammar n word x [x]; rule a: p: a x;", "open l n ", "open m n x")
+        self.assertEqual([desk.say("stop " + name) for name in "defklm"],
+                         ["3 . plus", "4 . num plus", "end x y", "end x y", "end none", "10 none"])
         for word in ("tree", "nodes", "many", "print", "hangs"):
             self.assertEqual(fields(lambda: desk.say(f"{word} d")), ("NoReading", 1, [".", "plus"]))
 
     def test_worths(self):
         desk = desk_with("open d g 1+", "open e g 1 1")
         # No reading goes ahead of rings, and these ahead of no worth.
-        for row, told in (("worth e 1 n", ("NoReading", 1, [".", "plus"])), ("worth d 1 n", ("NoWorth", 1, "n")), ("worth d 99 z", ("NoWorth", 99, "z"))):
+        for row, told in (("worth e 1 n", ("NoReading", 1, [".", "plus"])), ("worth d 1 n", ("NoWorth", 1, "n")),
+                          ("worth d 99 z", ("NoWorth", 99, "z"))):
             self.assertEqual(fields(lambda: desk.say(row)), told)
         desk.say("sums g up n number: term; up s names: sum; up t text: term; down d text: term; one.1.d = t.1; leaf.0.t = d.0; none.0.t = \"a\\\\\\n\\\"\"; both.3.d = \"x\";")
         self.assertEqual(fields(lambda: desk.say("worth d 1 z"))[0], "RoundWorths")
         desk.say("edit d 0 1 ")
         nodes = desk.say("nodes d").split(" ")
         found = [fields(lambda: desk.say(f"worth d {node} {name}")) for node in nodes for name in ("n", "s", "t", "d")]
-        self.assertEqual(found[:4], [("NoWorth", int(nodes[0]), "n"), "none", ("NoWorth", int(nodes[0]), "t"), ("NoWorth", int(nodes[0]), "d")])
+        self.assertEqual(found[:4], [("NoWorth", int(nodes[0]), "n"), "none", ("NoWorth", int(nodes[0]), "t"),
+                                     ("NoWorth", int(nodes[0]), "d")])
         self.assertEqual(found[-4:], ["0", ("NoWorth", int(nodes[-1]), "s"), "\"a\\\\\\n\\\"\"", "\"x\""])
 
     def test_questions_change_nothing(self):
@@ -93,7 +111,8 @@ class Deeds(unittest.TestCase):
 
     def test_texts_of_all_sorts(self):
         desk = desk_with()
-        for name, text in (("a", ""), ("b", " "), ("c", "  1  +  "), ("d", "1\n+\n"), ("e", "open f g 1"), ("f", "\\n\"")):
+        for name, text in (("a", ""), ("b", " "), ("c", "  1  +  "), ("d", "1\n+\n"), ("e", "open f g 1"),
+                           ("f", "\\n\"")):
             self.assertEqual(desk.say(f"open {name} g {text}"), "ok")
             self.assertEqual(desk.say(f"text {name}"), text)
         desk.say("edit a 0 0  1 ")
@@ -122,10 +141,21 @@ class Refused(unittest.TestCase):
 
     def test_no_row(self):
         desk = desk_with("open d g 1")
-        for row in ["", " ", "grammar", "grammar g", "grammar G x", "Grammar g x", "grammar word x", " undo", "undo ", "undo x", "redo ", "UNDO", "tongues ", "docs d", "turn g", "turn G ", "turn g \n", "turn g drop none\n", "turn g \ndrop none", "turn g drop none\n\ndrop leaf",
-                    "turn g drop  none", "turn g drop", "turn g other x", "turn g call a B", "sums g", "sums", "nosums", "nosums g ", "nosums g x", "layout g", "layout", "layout g both near  near", "layout g both near near ", "layout g  both", "layout g both\n", "layout g \nboth", "layout g Both near",
-                    "layout g both near\n\nleaf", "layout g both Near", "open d g", "open d", "open d  g x", "open D g x", "still s g", "close", "close d ", "close  d", "close d e", "edit d 0 0", "edit d 0", "edit d 00 0 x", "edit d 0 01 x", "edit d 10000 0 x", "edit d -1 0 x", "edit d a 0 x", "edit d  0 0 x",
-                    "lead", "lead d ", "mend d 1", "mend", "text", "text d ", "text d e", "tree", "words D", "print d ", "print d x", "print d 01", "print d 1 2", "print d  1", "worth d 1", "worth d n 1", "worth d 1 N", "worth d 1 n ", "worth d 10000 n", "about", "hangs d\n", "show g ", "tally", "spared x", "changed\n",
+        for row in ["", " ", "grammar", "grammar g", "grammar G x", "Grammar g x", "grammar word x", " undo", "undo ",
+                    "undo x", "redo ", "UNDO", "tongues ", "docs d", "turn g", "turn G ", "turn g \n",
+                    "turn g drop none\n", "turn g \ndrop none", "turn g drop none\n\ndrop leaf",
+                    "turn g drop  none", "turn g drop", "turn g other x", "turn g call a B", "sums g", "sums", "nosums",
+                    "nosums g ", "nosums g x", "layout g", "layout", "layout g both near  near",
+                    "layout g both near near ", "layout g  both", "layout g both\n", "layout g \nboth",
+                    "layout g Both near",
+                    "layout g both near\n\nleaf", "layout g both Near", "open d g", "open d", "open d  g x",
+                    "open D g x", "still s g", "close", "close d ", "close  d", "close d e", "edit d 0 0", "edit d 0",
+                    "edit d 00 0 x", "edit d 0 01 x", "edit d 10000 0 x", "edit d -1 0 x", "edit d a 0 x",
+                    "edit d  0 0 x",
+                    "lead", "lead d ", "mend d 1", "mend", "text", "text d ", "text d e", "tree", "words D", "print d ",
+                    "print d x", "print d 01", "print d 1 2", "print d  1", "worth d 1", "worth d n 1", "worth d 1 N",
+                    "worth d 1 n ", "worth d 10000 n", "about", "hangs d\n", "show g ", "tally", "spared x",
+                    "changed\n",
                     "stop d d", "many", "nodes\td", "word 0 x [a]", "open d\ng x", "openx d g x", "lead\nd"] + ANYTHING:
             self.check(desk, row, ("NoRow", row))
 
@@ -163,7 +193,9 @@ class Refused(unittest.TestCase):
 
     def test_entries(self):
         desk = Desk()
-        rows = [("grammar g " + SUMS, "grammar"), ("open d g 1", "open"), ("text d", "text"), ("text z", "text"), ("other", ""), (None, ""), ("", ""), ("undo ", ""), ("edit d 9 9 ", "edit"), ("undo", "undo"), ("turn g drop", ""), ("grammar g x", "grammar")]
+        rows = [("grammar g " + SUMS, "grammar"), ("open d g 1", "open"), ("text d", "text"), ("text z", "text"),
+                ("other", ""), (None, ""), ("", ""), ("undo ", ""), ("edit d 9 9 ", "edit"), ("undo", "undo"),
+                ("turn g drop", ""), ("grammar g x", "grammar")]
         for row, _ in rows:
             fields(lambda: desk.say(row))
             self.assertIs(desk.is_busy(), False)
@@ -182,7 +214,8 @@ class Logs(unittest.TestCase):
         alphabet = ALPHABETS.get(base, "xy ") + "\\\n"
         for _ in range(30):
             name = chance.choice("abcd")
-            word = chance.choice(["open", "still", "edit", "edit", "edit", "turn", "turn", "lead", "mend", "undo", "redo", "close", "layout", "sums", "nosums", "text", "stop"])
+            word = chance.choice(["open", "still", "edit", "edit", "edit", "turn", "turn", "lead", "mend", "undo",
+                                  "redo", "close", "layout", "sums", "nosums", "text", "stop"])
             text = some_text(chance, chance.randint(0, 4), alphabet)
             if word == "turn":
                 row = self.turn_row(desk, chance)
@@ -233,7 +266,8 @@ class Logs(unittest.TestCase):
     def answers(self, desk):
         """The answers to all questions, and to some deeds, which are taken back."""
         found = asked(desk)
-        found += [fields(lambda: desk.say(row)) for row in ("open z g xy", "words z", "undo", "redo", "undo", "undo", "redo")]
+        found += [fields(lambda: desk.say(row)) for row in ("open z g xy", "words z", "undo", "redo", "undo", "undo",
+                                                            "redo")]
         return found + asked(desk)
 
     def test_strokes_and_line_feeds(self):
@@ -248,18 +282,23 @@ class Logs(unittest.TestCase):
 
     def test_no_text_of_the_first_sign(self):
         good = "grammar g word a [a]; rule b: c: a;\nopen d g a\n"
-        for text, at in (("a", 1), ("undo", 4), (good + "x", len(good) + 1), (good[:-1], len(good) - 1), ("\\", 1), ("\\x\n", 1), ("\\\n", 1), ("ab\\", 3), ("\\\\", 2), ("\\n", 2), (good + "\\t\n", len(good) + 1), ("\\N", 1), ("undo\n\\\\\\\"\n", 8)):
+        for text, at in (("a", 1), ("undo", 4), (good + "x", len(good) + 1), (good[:-1], len(good) - 1), ("\\", 1),
+                         ("\\x\n", 1), ("\\\n", 1), ("ab\\", 3), ("\\\\", 2), ("\\n", 2),
+                         (good + "\\t\n", len(good) + 1), ("\\N", 1), ("undo\n\\\\\\\"\n", 8)):
             self.assertEqual(fields(lambda: desk_from(text)), ("NoText", at), text)
 
     def test_stopped(self):
         rows = ["grammar g word a [a]; rule b: c: a;", "open d g a"]
-        for more, number, cause in (([None], 2, NoRow), (["undo", "undo", "undo"], 4, None), ([""], 2, NoRow), (["text d", "text z"], 3, None), (["grammar h word"], 2, NoText), (["grammar h word a [a]; rule b: c: z;", "x"], 2, NoGrammar)):
+        for more, number, cause in (([None], 2, NoRow), (["undo", "undo", "undo"], 4, None), ([""], 2, NoRow),
+                                    (["text d", "text z"], 3, None), (["grammar h word"], 2, NoText),
+                                    (["grammar h word a [a]; rule b: c: z;", "x"], 2, NoGrammar)):
             with self.assertRaises(Stopped) as caught:
                 desk_of(rows + more)
             self.assertEqual(caught.exception.number, number)
             self.assertIsInstance(caught.exception.__cause__, YardError if cause is None else cause)
             if all(isinstance(row, str) for row in more):
-                self.assertEqual(fields(lambda: desk_from("".join(row + "\n" for row in rows + more))), ("Stopped", number))
+                self.assertEqual(fields(lambda: desk_from("".join(row + "\n" for row in rows + more))),
+                                 ("Stopped", number))
         # Signs go ahead of what the rows say.
         self.assertEqual(fields(lambda: desk_from("x\ny")), ("NoText", 3))
         self.assertEqual(fields(lambda: desk_from("\n")), ("Stopped", 0))
@@ -301,7 +340,8 @@ class Shown(unittest.TestCase):
         tree = bench.document("d").tree_now()
         self.assertEqual(desk.say("tree d"), show_tree(tree, parts_of(grammar, tree[0])))
         small = Desk()
-        small.say("grammar s " + show_grammar(Grammar([("x", ("signs", "x"), False), ("y", ("signs", "y"), False)], [("a", [("p", ("b", "x")), ("q", ())]), ("b", [("r", ("y",))])])))
+        small.say("grammar s " + show_grammar(Grammar([("x", ("signs", "x"), False), ("y", ("signs", "y"), False)],
+                                                      [("a", [("p", ("b", "x")), ("q", ())]), ("b", [("r", ("y",))])])))
         small.say("sums s " + SMALL_TEXT)
         self.assertEqual(small.say("tally s"), SMALL_TEXT)
 

@@ -31,7 +31,8 @@ def snapshot(document):
 
 
 def differences(old, new):
-    return tuple(sorted(set(one) - set(other)) for one, other in ((old[0], new[0]), (new[0], old[0]), (old[1], new[1]), (new[1], old[1])))
+    return tuple(sorted(set(one) - set(other)) for one, other in ((old[0], new[0]), (new[0], old[0]), (old[1], new[1]),
+        (new[1], old[1])))
 
 
 def numbers_of(plain):
@@ -188,20 +189,24 @@ class DrivenOnes(unittest.TestCase):
 class Words(unittest.TestCase):
     def test_by_hand(self):
         document = Document(READERS["sums"], "12 +?3")
-        self.assertEqual(document.words_now(), [(1, "num", "12", 0, 3), (2, "gap", " ", 2, 2), (3, "plus", "+", 3, 2), (4, "", "?", 4, 1), (5, "num", "3", 5, 2)])
+        self.assertEqual(document.words_now(), [(1, "num", "12", 0, 3), (2, "gap", " ", 2, 2), (3, "plus", "+", 3, 2),
+                                                (4, "", "?", 4, 1), (5, "num", "3", 5, 2)])
         self.assertEqual(document.stop_now(), (4, [END, "num", "plus"]))
         self.assertEqual(document.change_now(), ([], [1, 2, 3, 4, 5], [], []))
         document.edit(4, gone=1)
         self.assertEqual(document.stop_now(), None)
         self.assertEqual(document.change_now(), ([4], [], [], [1, 2, 3, 4]))
-        self.assertEqual(document.nodes_now(), (1, {1: ("both", (2, ("plus", "+"), 4)), 2: ("one", (3,)), 3: ("leaf", (("num", "12"),)), 4: ("leaf", (("num", "3"),))}))
-        self.assertEqual(document.tree_now(), (("both", "one", "leaf", "leaf"), (("num", "12"), ("plus", "+"), ("num", "3"))))
+        self.assertEqual(document.nodes_now(), (1, {1: ("both", (2, ("plus", "+"), 4)), 2: ("one", (3,)),
+                                                    3: ("leaf", (("num", "12"),)), 4: ("leaf", (("num", "3"),))}))
+        self.assertEqual(document.tree_now(), (("both", "one", "leaf", "leaf"),
+                                               (("num", "12"), ("plus", "+"), ("num", "3"))))
         document.edit(1, put="0")
         self.assertEqual(document.words_now()[0], (6, "num", "102", 0, 4))
         self.assertEqual(document.change_now(), ([1], [6], [1, 2, 3], [5, 6, 7]))
 
     def test_stops_and_what_may_stand(self):
-        for text, stop in (("", None), ("+", None), ("1 1", (3, [END, "plus"])), ("1+1", None), ("1+ ?+", (4, [END, "num", "plus"]))):
+        for text, stop in (("", None), ("+", None), ("1 1", (3, [END, "plus"])), ("1+1", None),
+                           ("1+ ?+", (4, [END, "num", "plus"]))):
             self.assertEqual(Document(READERS["sums"], text).stop_now(), stop)
         even = READERS["even"]
         self.assertEqual(Document(even, "xx y").stop_now(), (None, ["x", "y"]))
@@ -224,9 +229,11 @@ class Words(unittest.TestCase):
         self.assertEqual(Document(READERS["two"], "yxyxyxy").many_now(), 5)
 
     def test_no_reading(self):
-        for text, at, kinds in (("1 1", 1, [END, "plus"]), ("?", 0, [END, "num", "plus"]), ("1+2+3 4", 5, [END, "plus"])):
+        for text, at, kinds in (("1 1", 1, [END, "plus"]), ("?", 0, [END, "num", "plus"]),
+                                ("1+2+3 4", 5, [END, "plus"])):
             document = Document(READERS["sums"], text)
-            for call in (document.tree_now, document.many_now, document.nodes_now, lambda: document.span_of(1), lambda: document.home_of(99),
+            for call in (document.tree_now, document.many_now, document.nodes_now, lambda: document.span_of(1),
+                         lambda: document.home_of(99),
                          lambda: document.over(0), lambda: document.over(-5)):
                 self.assertEqual(fields(call), (NoReading, at, kinds))
         self.assertEqual(fields(Document(READERS["even"], "xx x").tree_now), (NoReading, 3, ["x", "y"]))
@@ -296,7 +303,8 @@ class Edits(unittest.TestCase):
 
     def test_a_word_that_looks_further(self):
         # What stands ahead of the span may be cut otherwise though it lies wholly ahead of it.
-        kinds = [("ab", ("or", ("signs", "a"), ("then", ("signs", "a"), ("then", ("signs", "b"), ("signs", "c")))), False), ("b", ("signs", "b"), False)]
+        kinds = [("ab", ("or", ("signs", "a"), ("then", ("signs", "a"), ("then", ("signs", "b"), ("signs", "c")))),
+                  False), ("b", ("signs", "b"), False)]
         reader = Reader(Grammar(kinds, [("a", [("p", ("ab", "b")), ("q", ("ab",))])]))
         document = Document(reader, "ab")
         self.assertEqual(document.words_now(), [(1, "ab", "a", 0, 3), (2, "b", "b", 1, 2)])
@@ -348,7 +356,8 @@ class Edits(unittest.TestCase):
         self.assertEqual(document.nodes_now(), (1, {1: ("q", ())}))
         document.edit(0, gone=1, put="y")
         first = document.nodes_now()
-        self.assertEqual(first, (2, {2: ("p", (3, 7)), 3: ("s", (("y", "y"), 4, 6)), 4: ("v", (5,)), 5: ("w", ()), 6: ("t", ()), 7: ("q", ())}))
+        self.assertEqual(first, (2, {2: ("p", (3, 7)), 3: ("s", (("y", "y"), 4, 6)), 4: ("v", (5,)), 5: ("w", ()),
+                                     6: ("t", ()), 7: ("q", ())}))
         document.edit(1, put=" x")
         # The top is new, and so is what has no words in it; that of the node that is over other words now, too.
         self.assertTrue(all(number > 7 for number in document.nodes_now()[1]))
@@ -383,7 +392,8 @@ class Edits(unittest.TestCase):
         self.assertEqual((document.text_now(), document.words_now()[0][0]), ("1+2", 7))
         self.assertEqual(document.change_now()[:2], ([1], [7]))
         for rows, number, cause in (([(0, 0, "1"), (9, 0, "")], 1, (NoSpan, (9, 0))), ([(0, 0, "123")], 0, (NoRoom, 6)),
-                                    ([(0, 0, "12"), (0, 0, "3"), (0, 1, "")], 1, (NoRoom, 6)), ([(0, 1, ""), (0, 0, ""), (2, 1, "")], 2, (NoSpan, (2, 1)))):
+                                    ([(0, 0, "12"), (0, 0, "3"), (0, 1, "")], 1, (NoRoom, 6)),
+                                    ([(0, 1, ""), (0, 0, ""), (2, 1, "")], 2, (NoSpan, (2, 1)))):
             ahead = snapshot(document), document.change_now()
             with self.assertRaises(Stopped) as caught:
                 document.edits(rows)
@@ -418,7 +428,8 @@ class Edits(unittest.TestCase):
 
 class Places(unittest.TestCase):
     def test_spans_and_homes(self):
-        for name, text in (("sums", " 1 + 22+ 3 "), ("sums", "  "), ("sums", " + "), ("lists", "y xx y\n"), ("lists", " "), ("two", "yx xy"), ("barred", "y xy")):
+        for name, text in (("sums", " 1 + 22+ 3 "), ("sums", "  "), ("sums", " + "), ("lists", "y xx y\n"),
+                           ("lists", " "), ("two", "yx xy"), ("barred", "y xy")):
             document, plain = Document(READERS[name], text), PlainDocument(READ[name], text)
             places = {word[0]: (word[3], word[3] + len(word[2])) for word in plain.words}
             row = [plain.words[at][0] for at in plain.row]
@@ -475,7 +486,8 @@ class Whole(unittest.TestCase):
         self.assertEqual(one, other)
         self.assertNotEqual(one.words_now(), Document(READERS["sums"], "11+2").words_now())
         self.assertEqual(one, Document(READERS["sums"], "11+2"))
-        for thing in (None, "11+2", READERS["sums"], 4, Document(Reader(SUMS), "11+2"), Document(READERS["two"], "11+2")):
+        for thing in (None, "11+2", READERS["sums"], 4, Document(Reader(SUMS), "11+2"),
+                      Document(READERS["two"], "11+2")):
             self.assertFalse(one == thing)
 
     def test_two_of_one_reader(self):

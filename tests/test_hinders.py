@@ -27,7 +27,8 @@ def least_hindered(step, most):
         kinds = words_of(nested(step.old(), shape)[0])
         # One word at a time is otherwise than the first text of its kind.
         rows = [tuple((kind, texts[kind][0]) for kind in kinds)]
-        rows += [rows[0][:at] + ((kind, text),) + rows[0][at + 1:] for at, kind in enumerate(kinds) for text in texts[kind]]
+        rows += [rows[0][:at] + ((kind, text),) + rows[0][at + 1:] for at,
+                 kind in enumerate(kinds) for text in texts[kind]]
         if any(isinstance(plain_led(step, (shape, words))[1], str) for words in rows):
             found.append(len(kinds))
     return min(found) if found else None
@@ -56,7 +57,8 @@ class Hindered(unittest.TestCase):
         whole = straight_step(old, new).templates()
 
         def told(names, **others):
-            return hindered(Step(old, new, names, {label: pieces for label, pieces in {**whole, **others}.items() if pieces}))
+            return hindered(Step(old, new, names, {label: pieces for label,
+                                                   pieces in {**whole, **others}.items() if pieces}))
         self.assertEqual(told(names, s=None), (("p", "s"), (("x", "x"),)))
         self.assertEqual(told(names, r=None), (("p", "r", "s"), (("x", "x"), ("x", "x"))))
         self.assertEqual(told(names, q=None), (("q",), (("y", "y"),)))
@@ -76,7 +78,8 @@ class Hindered(unittest.TestCase):
 
     def test_the_beginning(self):
         old = grammar_of("a: p x | q b\n b: r | s y b")
-        for new, names in ((grammar_of("c: p x"), {}), (grammar_of("a: p x\n c: q y"), {"a": "c"}), (Grammar(old.kinds(), old.rules(), begin="b"), {"a": "a", "b": "b"})):
+        for new, names in ((grammar_of("c: p x"), {}), (grammar_of("a: p x\n c: q y"), {"a": "c"}),
+                           (Grammar(old.kinds(), old.rules(), begin="b"), {"a": "a", "b": "b"})):
             self.assertEqual(hindered(Step(old, new, names, {})), (("q", "r"), ()))
         barren = NAMED["barren"]
         self.assertIsNone(hindered(Step(barren, old, {}, {})))
@@ -90,7 +93,8 @@ class Hindered(unittest.TestCase):
                 else:
                     free += 1
         chance = Random(6)
-        grammars = [Grammar(BASE.kinds(), BASE.rules()), SUMS, NAMED["half"], NAMED["nullable"], NAMED["begun"], NAMED["ring"], NAMED["apart"]] + some_grammars(5, 30)
+        grammars = [Grammar(BASE.kinds(), BASE.rules()), SUMS, NAMED["half"], NAMED["nullable"], NAMED["begun"],
+                    NAMED["ring"], NAMED["apart"]] + some_grammars(5, 30)
         for number in range(400):
             try:
                 step = done(grammars[number % len(grammars)], some_deed(grammars[number % len(grammars)], chance))[1]
@@ -110,8 +114,10 @@ class Hindered(unittest.TestCase):
         for grammar in list(NAMED.values()) + some_grammars(15, 40):
             templates = straight_step(grammar, grammar).templates()
             left = {label: pieces for label, pieces in templates.items() if chance.random() < 0.75}
-            names = {name: name for name in [one[0] for one in grammar.rules()] + ["x", "y", "num", "plus"] if grammar.is_kind(name) or name in "abcd" or len(name) > 2}
-            step = Step(grammar, grammar, {name: name for name in names if name not in ("num", "plus") or grammar.is_kind(name)}, left)
+            names = {name: name for name in [one[0] for one in grammar.rules()] + ["x", "y", "num",
+                "plus"] if grammar.is_kind(name) or name in "abcd" or len(name) > 2}
+            step = Step(grammar, grammar, {name: name for name in names if name not in ("num",
+                "plus") or grammar.is_kind(name)}, left)
             if step_fault(step) is None:
                 hinders += self.check(step, 6)
         self.assertGreater(hinders, 15)
@@ -123,7 +129,8 @@ class Hindered(unittest.TestCase):
                 with self.assertRaises(Barred) as caught:
                     hindered(step)
                 self.assertEqual(caught.exception.label, grammar.bars()[0][0])
-        one, other = grammar_of("a: p a | q x", bars=(("p", 1, "q"),)), grammar_of("b: l b | m x", bars=(("l", 1, "m"),))
+        one, other = grammar_of("a: p a | q x", bars=(("p", 1, "q"),)), grammar_of("b: l b | m x",
+            bars=(("l", 1, "m"),))
         with self.assertRaises(Barred) as caught:
             hindered(Step(one, other, {}, {}))
         self.assertEqual(caught.exception.label, "p")
@@ -132,9 +139,11 @@ class Hindered(unittest.TestCase):
 class Found(unittest.TestCase):
     def test_symbol_by_symbol(self):
         old = grammar_of("a: p x a y | q b b | r x | s x x | t y | u x | v\n b: w | z x\n c: k x\n d: l y", kinds=[
-            ("x", signs("x"), False), ("y", more(signs("y")), False), ("end", word("end"), False), ("gap", signs(" "), True), ("off", signs("o"), False)])
+            ("x", signs("x"), False), ("y", more(signs("y")), False), ("end", word("end"), False),
+                ("gap", signs(" "), True), ("off", signs("o"), False)])
         new = grammar_of("a: p y a x | q b | r x x | s x end x | t y y | u e x e | l y\n b: w b | z y x | k x\n e: i f f | j x\n f: h\n d: v", kinds=[
-            ("x", signs("x"), False), ("y", more(signs("yz")), False), ("end", word("fin"), False), ("gap", signs("_"), True), ("on", signs("o"), False)])
+            ("x", signs("x"), False), ("y", more(signs("yz")), False), ("end", word("fin"), False),
+                ("gap", signs("_"), True), ("on", signs("o"), False)])
         step = found_step(old, new)
         self.assertIsNone(step_fault(step))
         self.assertEqual((step.old(), step.new()), (old, new))
@@ -142,17 +151,21 @@ class Found(unittest.TestCase):
         self.assertEqual(step.templates(), {
             "p": (("node", "p"), ("part", 3), ("part", 2), ("part", 1)), "q": (("node", "q"), ("part", 1)),
             # A second x is put in, being the only text; a second y is not.
-            "r": (("node", "r"), ("part", 1), ("word", "x", "x")), "s": (("node", "s"), ("part", 1), ("word", "end", "fin"), ("part", 2)),
-            "u": (("node", "u"), ("node", "i"), ("node", "h"), ("node", "h"), ("part", 1), ("node", "i"), ("node", "h"), ("node", "h"))})
+            "r": (("node", "r"), ("part", 1), ("word", "x", "x")), "s": (("node", "s"), ("part", 1),
+                ("word", "end", "fin"), ("part", 2)),
+            "u": (("node", "u"), ("node", "i"), ("node", "h"), ("node", "h"), ("part", 1), ("node", "i"), ("node", "h"),
+                  ("node", "h"))})
         # Of w the rule in it is not empty; z lacks a y; k, l and v are of other rules.
 
     def test_bars_put_no_shapes_in(self):
         old = grammar_of("a: p x | q x")
         new = grammar_of("a: p b x | q x x\n b: r | s b")
-        self.assertEqual(found_step(old, new).templates(), {"p": (("node", "p"), ("node", "r"), ("part", 1)), "q": (("node", "q"), ("part", 1), ("word", "x", "x"))})
+        self.assertEqual(found_step(old, new).templates(), {"p": (("node", "p"), ("node", "r"), ("part", 1)),
+                                                            "q": (("node", "q"), ("part", 1), ("word", "x", "x"))})
         barred = Grammar(new.kinds(), new.rules(), bars=(("s", 1, "s"),))
         self.assertEqual(found_step(old, barred).templates(), {"q": (("node", "q"), ("part", 1), ("word", "x", "x"))})
-        self.assertEqual(found_step(barred, old).templates(), {"p": (("node", "p"), ("part", 2)), "q": (("node", "q"), ("part", 1))})
+        self.assertEqual(found_step(barred, old).templates(), {"p": (("node", "p"), ("part", 2)),
+            "q": (("node", "q"), ("part", 1))})
 
     def test_names_of_one_sort(self):
         old = grammar_of("a: p x b\n b: q", kinds=[("x", signs("x"), False), ("c", signs("y"), False)])
@@ -160,7 +173,8 @@ class Found(unittest.TestCase):
         step = found_step(old, new)
         self.assertEqual((step.names(), step.templates()), ({"x": "x", "a": "a"}, {}))
         single = Grammar([("x", signs("x"), False), ("b", signs("b"), False)], new.rules())
-        self.assertEqual(found_step(old, single).templates(), {"p": (("node", "p"), ("part", 1), ("word", "b", "b"), ("node", "r"))})
+        self.assertEqual(found_step(old, single).templates(), {"p": (("node", "p"), ("part", 1), ("word", "b", "b"),
+            ("node", "r"))})
 
     def test_of_all_pairs(self):
         grammars = [one for pair in PAIRS for one in pair[:2]] + list(NAMED.values()) + list(BARRED.values()) + some_grammars(3, 10)

@@ -15,11 +15,13 @@ FUNCTIONS = {
     "cutting": {"first_piece": "table text at", "pieces_of": "table text", "cut_words": "kinds text",
                 "is_good": "table kind text"},
     "gaps": {"gap_holds": "kinds one gap other", "gap_breaks": "kinds one gap other"},
-    "trees": {"is_shape": "grammar shape row *name", "is_tree": "grammar thing *name", "need_tree": "grammar thing *name",
+    "trees": {"is_shape": "grammar shape row *name", "is_tree": "grammar thing *name",
+              "need_tree": "grammar thing *name",
               "spelled_by": "grammar shape *name", "nodes_of": "grammar shape *name", "parts_of": "grammar shape *name",
               "part_at": "grammar tree node", "put_at": "grammar tree node other", "flat": "top nodes",
               "numbered": "grammar tree"},
-    "known": {name: "grammar" for name in ("least", "stands", "begins", "follows", "can_be_empty", "ring", "known_paper")},
+    "known": {name: "grammar" for name in ("least", "stands", "begins", "follows", "can_be_empty", "ring",
+                                           "known_paper")},
     "bars": {"parted": "grammar"},
     "gtexts": {"show_grammar": "grammar", "show_pattern": "pattern", "read_grammar": "text", "read_pattern": "text"},
     "sorts": {"is_worth": "sort thing"},
@@ -47,7 +49,8 @@ NAMED_ONES = [("twice", "twice", ["grammar"], "most", 4), ("states", "split_stat
               ("tables", "why_ahead", ["grammar", "state", "label", "kind"], "limit", 120)]
 CLASSES = {("charts", "Chart", "grammar row"): {"facts": "", "reads": "", "bad": "", "next_kinds": "at", "how_many": "",
                                                 "__eq__": "other", "__len__": "", "__repr__": ""},
-           ("machine", "Machine", "table"): {"feed": "kind", "may": "", "stand": "", "log": "", "taken": "", "whole": "", "back": "many",
+           ("machine", "Machine", "table"): {"feed": "kind", "may": "", "stand": "", "log": "", "taken": "",
+                                             "whole": "", "back": "many",
                                              "twin": "", "__eq__": "other", "__len__": "", "__repr__": ""}}
 METHODS = {"kinds": "", "rules": "", "begin": "", "bars": "", "labels": "", "labels_of": "name", "row_of": "label",
            "rule_of": "label", "is_kind": "name", "__len__": "", "__eq__": "other", "__repr__": ""}
@@ -76,16 +79,21 @@ SIGNED = {
 }
 SIGNED_METHODS = {
     ("layouts", "Layout"): "marks_of(label) __eq__(other)",
-    ("ledger", "Ledger"): "laid(numbered) relaid(grammar, tally, numbered, *, given=()) worths_now() worth_of(node, attribute)"
+    ("ledger",
+     "Ledger"): "laid(numbered) relaid(grammar, tally, numbered, *, given=()) worths_now() worth_of(node, attribute)"
                           " __eq__(other) __len__() __repr__()",
     ("readers", "Reader"): "grammar_read() has_table()",
-    ("documents", "Document"): "text_now() words_now() tree_now() many_now() nodes_now() stop_now() edit(at, *, gone=0, put='')"
+    ("documents",
+     "Document"): "text_now() words_now() tree_now() many_now() nodes_now() stop_now() edit(at, *, gone=0, put='')"
                                " edits(rows) undo() redo() cut_again(at, *, gone=0, put='') change_now() span_of(number)"
                                " home_of(number) over(place) is_busy() entries() __eq__(other) __len__() __repr__()",
-    ("bridges", "Step"): "old() new() names() templates() steps() leads(label) straight(label) leads_name(name) __eq__(other)"
+    ("bridges",
+     "Step"): "old() new() names() templates() steps() leads(label) straight(label) leads_name(name) __eq__(other)"
                          " __repr__()",
-    ("bridges", "Bridge"): "steps() joined_to(other) leads(label) straight(label) leads_name(name) __eq__(other) __len__()",
-    ("bench", "Bench"): "founded(name, grammar) turn(name, deeds) summed(name, marks, sums) unsummed(name) laid_out(name, marks)"
+    ("bridges",
+     "Bridge"): "steps() joined_to(other) leads(label) straight(label) leads_name(name) __eq__(other) __len__()",
+    ("bench",
+     "Bench"): "founded(name, grammar) turn(name, deeds) summed(name, marks, sums) unsummed(name) laid_out(name, marks)"
                         " opened(name, grammar, text, *, still=False) closed(name) edit(name, at, *, gone=0, put='')"
                         " edits(name, rows) lead(name) undo() redo() mend(name) tongues() docs() versions(name)"
                         " grammar_of(name, *, version=None) sums_of(name, *, version=None) layout_of(name, *, version=None)"

@@ -47,7 +47,8 @@ def bound_in(tree):
 def local_names(function):
     names = [argument.arg for argument in ast.walk(function) if isinstance(argument, ast.arg)]
     names += [node.id for node in ast.walk(function) if isinstance(node, ast.Name) and isinstance(node.ctx, ast.Store)]
-    return names + [node.name for node in ast.walk(function) if isinstance(node, ast.FunctionDef) and node is not function]
+    return names + [node.name for node in ast.walk(function) if isinstance(node,
+        ast.FunctionDef) and node is not function]
 
 
 class Files(unittest.TestCase):
@@ -114,7 +115,8 @@ class Names(unittest.TestCase):
                 self.assertIsNone(alias.asname)
 
     def test_no_attribute_is_a_method(self):
-        methods = [node.name for _, one in nodes(ast.ClassDef) for node in one.body if isinstance(node, ast.FunctionDef)]
+        methods = [node.name for _, one in nodes(ast.ClassDef) for node in one.body if isinstance(node,
+            ast.FunctionDef)]
         stored = [node.attr for _, node in nodes(ast.Attribute) if isinstance(node.ctx, ast.Store)]
         self.assertEqual([name for name in stored if name in methods or name in METHODS], [])
         self.assertEqual([name for name in methods if name in METHODS], [])
@@ -136,7 +138,8 @@ class Forms(unittest.TestCase):
 
     def test_stars_stand_in_zip_alone(self):
         in_zip = [one for _, node in nodes(ast.Call) for one in node.args
-                  if isinstance(one, ast.Starred) and isinstance(one.value, ast.Name) and ast.unparse(node.func) == "zip"]
+                  if isinstance(one, ast.Starred) and isinstance(one.value,
+                      ast.Name) and ast.unparse(node.func) == "zip"]
         self.assertEqual(len(nodes(ast.Starred)), len(in_zip))
 
     def test_calls(self):

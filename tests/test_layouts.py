@@ -31,7 +31,8 @@ class Layouts(unittest.TestCase):
             self.assertEqual(caught.exception.label, label)
 
     def test_in_and_out(self):
-        for marks in (("in", "out", "in", "out"), ("in", "in", "out", "out"), ("in", "soft", "row", "out"), ("near", "in", "out", "blank")):
+        for marks in (("in", "out", "in", "out"), ("in", "in", "out", "out"), ("in", "soft", "row", "out"),
+                      ("near", "in", "out", "blank")):
             self.assertEqual(Layout(ROWS, {"p": marks}).marks_of("p"), marks)
         for marks in (("out", "in", "near", "near"), ("in", "out", "out", "in"), ("in", "near", "near", "near"),
                       ("in", "in", "out", "near"), ("near", "near", "near", "out"), ("in", "out", "near", "out")):
@@ -44,7 +45,8 @@ class Layouts(unittest.TestCase):
                 self.refused({"p": good[:at] + (wrong,) + good[at + 1:]}, "p")
         for wrong in (good[:3], good + ("near",), list(good), None, "near", {}, 4, "nnnn", dict.fromkeys(good)):
             self.refused({"p": wrong}, "p")
-        for label, wrong in (("q", ("near",)), ("r", ("near",)), ("r", []), ("q", None), ("s", ()), ("s", ("in",)), ("s", ("out",))):
+        for label, wrong in (("q", ("near",)), ("r", ("near",)), ("r", []), ("q", None), ("s", ()), ("s", ("in",)),
+                             ("s", ("out",))):
             self.refused({label: wrong}, label)
 
     def test_the_first_one_in_the_dicts_order(self):
@@ -70,7 +72,8 @@ class Layouts(unittest.TestCase):
         self.assertEqual(layout, Layout(ROWS, {"q": (), "p": ("near",) * 4, "s": ("soft",), "r": ()}))
         self.assertEqual(layout, Layout(Grammar(ROWS.kinds(), ROWS.rules()), {"s": ("soft",), "t": ("near", "near")}))
         self.assertEqual(Layout(ROWS, {}), Layout(ROWS, {"p": ("near",) * 4}))
-        for other in (Layout(ROWS, {}), Layout(ROWS, {"s": ("row",)}), Layout(ROWS, {"s": ("soft",), "t": ("in", "out")}),
+        for other in (Layout(ROWS, {}), Layout(ROWS, {"s": ("row",)}), Layout(ROWS,
+            {"s": ("soft",), "t": ("in", "out")}),
                       Layout(SUMS, {}), None, {"s": ("soft",)}, ROWS, "Layout"):
             self.assertFalse(layout == other)
             self.assertTrue(layout != other)

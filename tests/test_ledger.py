@@ -35,7 +35,8 @@ def makings(grammar, tally, tree, given):
                 continue
             expression = sums[(nodes[home][0], place, attribute)]
             read = [(home if at == 0 else nodes[home][1][at - 1], name) for at, name in reads_of(expression)]
-            found[(number, attribute)] = (expression, read, [nodes[home][1][at - 1] for at in words_of(expression)]), read
+            found[(number, attribute)] = (expression, read,
+                                          [nodes[home][1][at - 1] for at in words_of(expression)]), read
     return found
 
 
@@ -148,7 +149,8 @@ class Ledgers(unittest.TestCase):
         shape = ("both", "one", "leaf", "leaf")
 
         def tree(one, other):
-            return 5, {9: ("leaf", (("num", other),)), 5: ("both", (7, ("plus", "+"), 9)), 7: ("one", (8,)), 8: ("leaf", (("num", one),))}
+            return 5, {9: ("leaf", (("num", other),)), 5: ("both", (7, ("plus", "+"), 9)), 7: ("one", (8,)),
+                       8: ("leaf", (("num", one),))}
         self.assertEqual(flat(*tree("1", "2"))[0], shape)
         self.assertEqual(ledger.laid(tree("1", "22")), [(5, "n"), (7, "n"), (8, "n"), (9, "n")])
         self.assertEqual(ledger.worths_now(), [(5, "n", 3), (7, "n", 1), (8, "n", 1), (9, "n", 2)])
@@ -170,7 +172,8 @@ class Ledgers(unittest.TestCase):
         tree = 1, {1: ("p", (2, 3)), 2: ("q", (("x", "x"),)), 3: ("r", (("y", "y"),))}
         ledger = Ledger(grammar, tally, given=(("d", 10),))
         self.assertEqual(len(ledger.laid(tree)), 6)
-        self.assertEqual(ledger.relaid(grammar, tally, tree, given=(("d", 20),)), [(1, "d"), (1, "u"), (2, "d"), (2, "u"), (3, "d")])
+        self.assertEqual(ledger.relaid(grammar, tally, tree, given=(("d", 20),)),
+                         [(1, "d"), (1, "u"), (2, "d"), (2, "u"), (3, "d")])
         self.assertEqual(ledger.laid(tree), [])
         # The node 3 is q now, node 2 went; the ones that read by other numbers are made of something else.
         other = 1, {1: ("p", (3, 4)), 3: ("q", (("x", "x"),)), 4: ("r", (("y", "y"),))}
@@ -182,8 +185,10 @@ class Ledgers(unittest.TestCase):
     def test_refused_and_as_it_was(self):
         grammar = grammar_of("a: p b\n b: r y | s b")
         marks = [("n", "down", "number", ("b",)), ("m", "up", "number", ("b",))]
-        ring = completed(grammar, marks, [("p", 1, "n", ("at", 1, "m")), ("r", 0, "m", ("at", 0, "n")), ("s", 1, "n", ("number", 0))])
-        plain = completed(grammar, marks, [("p", 1, "n", ("number", 2)), ("r", 0, "m", ("at", 0, "n")), ("s", 1, "n", ("number", 0))])
+        ring = completed(grammar, marks, [("p", 1, "n", ("at", 1, "m")), ("r", 0, "m", ("at", 0, "n")),
+                                          ("s", 1, "n", ("number", 0))])
+        plain = completed(grammar, marks, [("p", 1, "n", ("number", 2)), ("r", 0, "m", ("at", 0, "n")),
+                                           ("s", 1, "n", ("number", 0))])
         whole = 40, {40: ("p", (7,)), 7: ("r", (("y", "y"),))}
         part = 7, {7: ("r", (("y", "y"),))}
         ledger = Ledger(grammar, ring, given=(("n", 3),))
@@ -204,10 +209,12 @@ class Ledgers(unittest.TestCase):
     def test_an_up_that_a_choose_does_not_take(self):
         grammar = grammar_of("a: p b b\n b: q x | r y")
         tally = completed(grammar, [("u", "up", "number", ("a", "b"))],
-                          [("p", 0, "u", ("choose", ("number", 1), ("at", 1, "u"), ("at", 2, "u"))), ("q", 0, "u", ("number", 1)), ("r", 0, "u", ("number", 2))])
+                          [("p", 0, "u", ("choose", ("number", 1), ("at", 1, "u"), ("at", 2, "u"))),
+                           ("q", 0, "u", ("number", 1)), ("r", 0, "u", ("number", 2))])
         ledger = Ledger(grammar, tally)
         ledger.laid((0, {0: ("p", (1, 2)), 1: ("q", (("x", "x"),)), 2: ("q", (("x", "x"),))}))
-        self.assertEqual(ledger.laid((0, {0: ("p", (1, 2)), 1: ("q", (("x", "x"),)), 2: ("r", (("y", "y"),))})), [(0, "u"), (2, "u")])
+        self.assertEqual(ledger.laid((0, {0: ("p", (1, 2)), 1: ("q", (("x", "x"),)), 2: ("r", (("y", "y"),))})),
+                         [(0, "u"), (2, "u")])
         self.assertEqual(ledger.worth_of(0, "u"), 1)
 
     def test_equal_and_kept(self):
@@ -224,7 +231,8 @@ class Ledgers(unittest.TestCase):
         told = one.worths_now()
         told.clear()
         self.assertEqual(one.worths_now(), [(1, "n", 0)])
-        other.relaid(grammar, completed(grammar, [("n", "up", "number", ("term",)), ("k", "down", "number", ("term",))], [("leaf", 0, "n", ("number", 0)),
+        other.relaid(grammar, completed(grammar, [("n", "up", "number", ("term",)), ("k", "down", "number", ("term",))],
+                                        [("leaf", 0, "n", ("number", 0)),
                      ("one", 1, "k", ("number", 1)), ("both", 3, "k", ("number", 1))]), held)
         self.assertNotEqual(one, other)
         for thing in (None, [(1, "n", 0)], 1, "Ledger(1)", tally):

@@ -18,17 +18,22 @@ OLD = grammar_of("a: p b x a | q y | r b b\n b: s x y | t\n c: u b y")
 NEW = grammar_of("d: k x d e | l y | m e e y | n d | o e\n e: i x y | j | h x e\n f: g x e")
 NAMES = {"a": "d", "b": "e", "x": "x", "y": "y"}
 GOOD = {"p": (("node", "k"), ("part", 2), ("part", 3), ("part", 1)), "q": (("node", "l"), ("part", 1)),
-        "r": (("node", "m"), ("part", 2), ("part", 1), ("word", "y", "y")), "s": (("node", "i"), ("part", 1), ("part", 2)), "t": (("node", "j"),)}
+        "r": (("node", "m"), ("part", 2), ("part", 1), ("word", "y", "y")),
+        "s": (("node", "i"), ("part", 1), ("part", 2)), "t": (("node", "j"),)}
 MARKS = [("n", "up", "number", ("a", "b", "c")), ("d", "down", "text", ("b",)), ("g", "up", "names", ("c",))]
 SUMS_OF = [
-    ("p", 0, "n", ("plus", ("at", 1, "n"), ("long", ("word", 2)))), ("p", 1, "d", ("join", ("word", 2), ("text", "!"))), ("q", 0, "n", ("long", ("word", 1))),
-    ("r", 0, "n", ("most", ("at", 1, "n"), ("at", 2, "n"))), ("r", 1, "d", ("text", "one")), ("r", 2, "d", ("text", "two")),
-    ("s", 0, "n", ("plus", ("long", ("at", 0, "d")), ("number", 7))), ("t", 0, "n", ("number", 3)), ("u", 1, "d", ("word", 2))]
+    ("p", 0, "n", ("plus", ("at", 1, "n"), ("long", ("word", 2)))), ("p", 1, "d", ("join", ("word", 2), ("text", "!"))),
+           ("q", 0, "n", ("long", ("word", 1))),
+    ("r", 0, "n", ("most", ("at", 1, "n"), ("at", 2, "n"))), ("r", 1, "d", ("text", "one")),
+           ("r", 2, "d", ("text", "two")),
+    ("s", 0, "n", ("plus", ("long", ("at", 0, "d")), ("number", 7))), ("t", 0, "n", ("number", 3)),
+           ("u", 1, "d", ("word", 2))]
 TALLY = completed(OLD, MARKS, SUMS_OF)
 
 
 def led_over(templates, names=None, tally=TALLY):
-    step = Step(OLD, NEW, NAMES if names is None else names, {label: pieces for label, pieces in {**GOOD, **templates}.items() if pieces})
+    step = Step(OLD, NEW, NAMES if names is None else names, {label: pieces for label,
+        pieces in {**GOOD, **templates}.items() if pieces})
     assert step_fault(step) is None
     return led_tally(step, tally)
 
@@ -38,8 +43,11 @@ class Tallies(unittest.TestCase):
         marks, sums, lost = led_over({})
         self.assertEqual(marks, [("n", "up", "number", ("d", "e")), ("d", "down", "text", ("e",))])
         self.assertEqual(sums, [
-            ("k", 0, "n", ("plus", ("at", 3, "n"), ("long", ("word", 1)))), ("k", 3, "d", ("join", ("word", 1), ("text", "!"))), ("l", 0, "n", ("long", ("word", 1))),
-            ("m", 0, "n", ("most", ("at", 2, "n"), ("at", 1, "n"))), ("m", 2, "d", ("text", "one")), ("m", 1, "d", ("text", "two")),
+            ("k", 0, "n", ("plus", ("at", 3, "n"), ("long", ("word", 1)))),
+                                ("k", 3, "d", ("join", ("word", 1), ("text", "!"))),
+                                ("l", 0, "n", ("long", ("word", 1))),
+            ("m", 0, "n", ("most", ("at", 2, "n"), ("at", 1, "n"))), ("m", 2, "d", ("text", "one")),
+                                ("m", 1, "d", ("text", "two")),
             ("i", 0, "n", ("plus", ("long", ("at", 0, "d")), ("number", 7))), ("j", 0, "n", ("number", 3))])
         self.assertEqual(lost, [("u", 0, "n"), ("u", 0, "g"), ("u", 1, "d")])
         for told in (marks, sums, lost):
@@ -76,24 +84,33 @@ class Tallies(unittest.TestCase):
 
     def test_attributes_that_fall(self):
         grammar = grammar_of("a: p b\n b: q x\n c: r x")
-        marks = [("n", "up", "number", ("a",)), ("k", "up", "number", ("b",)), ("d", "down", "number", ("b", "c")), ("e", "up", "number", ("c", "a"))]
-        tally = completed(grammar, marks, [("p", 0, "n", ("at", 1, "k")), ("p", 1, "d", ("number", 1)), ("p", 0, "e", ("plus", ("number", 1), ("times", ("number", 2), ("at", 1, "k")))),
+        marks = [("n", "up", "number", ("a",)), ("k", "up", "number", ("b",)), ("d", "down", "number", ("b", "c")),
+                 ("e", "up", "number", ("c", "a"))]
+        tally = completed(grammar, marks, [("p", 0, "n", ("at", 1, "k")), ("p", 1, "d", ("number", 1)),
+                                           ("p", 0, "e", ("plus", ("number", 1),
+                                                          ("times", ("number", 2), ("at", 1, "k")))),
                                            ("q", 0, "k", ("at", 0, "d"))])
         new = grammar_of("a: p f\n f: s y\n c: r x")
-        step = Step(grammar, new, {"a": "a", "x": "x", "c": "c"}, {"p": (("node", "p"), ("node", "s"), ("word", "y", "y")), "r": (("node", "r"), ("part", 1))})
+        step = Step(grammar, new, {"a": "a", "x": "x", "c": "c"}, {"p": (("node", "p"), ("node", "s"),
+            ("word", "y", "y")), "r": (("node", "r"), ("part", 1))})
         self.assertIsNone(step_fault(step))
-        self.assertEqual(led_tally(step, tally), ([("n", "up", "number", ("a",)), ("d", "down", "number", ("c",)), ("e", "up", "number", ("c", "a"))],
-                                                  [("r", 0, "e", ("number", 0))], [("p", 0, "n"), ("p", 0, "e"), ("p", 1, "d"), ("q", 0, "k")]))
+        self.assertEqual(led_tally(step, tally), ([("n", "up", "number", ("a",)), ("d", "down", "number", ("c",)),
+                                                   ("e", "up", "number", ("c", "a"))],
+                                                  [("r", 0, "e", ("number", 0))],
+                                                  [("p", 0, "n"), ("p", 0, "e"), ("p", 1, "d"), ("q", 0, "k")]))
         # A template that takes its part keeps its place, but the attribute is gone.
-        taking = Step(grammar, grammar, {"a": "a", "b": "b", "x": "x"}, {"p": (("node", "p"), ("part", 1)), "q": (("node", "q"), ("part", 1))})
+        taking = Step(grammar, grammar, {"a": "a", "b": "b", "x": "x"},
+                      {"p": (("node", "p"), ("part", 1)), "q": (("node", "q"), ("part", 1))})
         alone = completed(grammar, [("c", "up", "number", ("c",)), ("u", "up", "number", ("b",))], [])
-        self.assertEqual(led_tally(taking, alone), ([("u", "up", "number", ("b",))], [("q", 0, "u", ("number", 0))], [("r", 0, "c")]))
+        self.assertEqual(led_tally(taking, alone), ([("u", "up", "number", ("b",))], [("q", 0, "u", ("number", 0))],
+                                                    [("r", 0, "c")]))
 
     def test_names_twice_stand_once(self):
         # Only a step that is not right has such names.
         old, new = grammar_of("a: p\n b: q"), grammar_of("a: p")
         step = Step(old, new, {"a": "a", "b": "a"}, {})
-        self.assertEqual(led_tally(step, completed(old, [("n", "up", "number", ("a", "b"))], []))[0], [("n", "up", "number", ("a",))])
+        self.assertEqual(led_tally(step, completed(old, [("n", "up", "number", ("a", "b"))], []))[0],
+                         [("n", "up", "number", ("a",))])
 
     def test_over_a_bridge(self):
         for bridge in (Bridge(), Bridge([straight_step(OLD, OLD)])):
@@ -103,9 +120,11 @@ class Tallies(unittest.TestCase):
         told = led_tally(Bridge([one, two]), TALLY)
         self.assertEqual(told, led_tally(two, TALLY))
         # What is lost is told as it was at first, in the old order, at whichever step.
-        grammar, bridge = turn(OLD, [("label", "r", "z"), ("turn", "p", (3, 2, 1)), ("drop", "t"), ("take", "z", 1), ("call", "b", "bb")])
+        grammar, bridge = turn(OLD, [("label", "r", "z"), ("turn", "p", (3, 2, 1)), ("drop", "t"), ("take", "z", 1),
+                                     ("call", "b", "bb")])
         marks, sums, lost = led_tally(bridge, TALLY)
-        self.assertEqual(marks, [("n", "up", "number", ("a", "bb", "c")), ("d", "down", "text", ("bb",)), ("g", "up", "names", ("c",))])
+        self.assertEqual(marks, [("n", "up", "number", ("a", "bb", "c")), ("d", "down", "text", ("bb",)),
+                                 ("g", "up", "names", ("c",))])
         self.assertEqual(lost, [("r", 0, "n"), ("r", 1, "d"), ("t", 0, "n")])
         self.assertIn(("p", 0, "n", ("plus", ("at", 3, "n"), ("long", ("word", 2)))), sums)
         self.assertIn(("z", 1, "d", ("text", "two")), sums)

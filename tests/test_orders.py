@@ -15,14 +15,22 @@ from tongueyard.trees import parts_of
 TREE = (("p", "s", "r", "q"), (("y", "x y\""), ("x", "x"), ("x", "x")))
 PARTS = [[("node", 1), ("word", 1), ("node", 3)], [("word", 0), ("node", 2)], [], [("word", 2)]]
 TOLD = [
-    (("call", "a", "b"), "call a b"), (("label", "one", "two"), "label one two"), (("add", "sum", 1, "minus", ("sum", "dash", "item")), "add sum 1 minus sum dash item"),
-    (("add", "sum", 0, "minus", ()), "add sum 0 minus"), (("drop", "p"), "drop p"), (("rule", 2, "new", [("a", ("x", "y")), ("b", ())]), "rule 2 new a: x y | b:"),
-    (("rule", 0, "new", [("a", ())]), "rule 0 new a:"), (("norule", "a"), "norule a"), (("word", 3, "num", more(signs("01")), False), "word 3 num [01]+"),
-    (("word", 3, "num", more(signs("01")), True), "skip 3 num [01]+"), (("noword", "num"), "noword num"), (("kind", "num", then(signs("a"), again(signs(" bc"))), False), "kind num [a] [ bc]*"),
-    (("kind", "num", word("a b\n\""), True), "skipkind num \"a b\\n\\\"\""), (("begin", "a"), "begin a"), (("turn", "p", (3, 1, 2)), "turn p 3 1 2"), (("turn", "p", ()), "turn p"),
-    (("turn", "p", (10, 9999, 0)), "turn p 10 9999 0"), (("put", "add", 2, "dash", "-"), "put add 2 dash \"-\""), (("put", "add", 2, "dash", " a\\\n\""), "put add 2 dash \" a\\\\\\n\\\"\""),
-    (("put", "add", 2, "dash", ""), "put add 2 dash \"\""), (("put", "p", 1, "a", TREE), "put p 1 a p(s(y\"x y\\\"\" r()) x\"x\" q(x\"x\"))"), (("take", "p", 4), "take p 4"),
-    (("fold", "p", 1, 3, "new", "in"), "fold p 1 3 new in"), (("unfold", "p", 0), "unfold p 0"), (("bar", "p", 1, "q"), "bar p 1 q"), (("nobar", "p", 9999, "q"), "nobar p 9999 q"),
+    (("call", "a", "b"), "call a b"), (("label", "one", "two"), "label one two"),
+        (("add", "sum", 1, "minus", ("sum", "dash", "item")), "add sum 1 minus sum dash item"),
+    (("add", "sum", 0, "minus", ()), "add sum 0 minus"), (("drop", "p"), "drop p"),
+        (("rule", 2, "new", [("a", ("x", "y")), ("b", ())]), "rule 2 new a: x y | b:"),
+    (("rule", 0, "new", [("a", ())]), "rule 0 new a:"), (("norule", "a"), "norule a"),
+        (("word", 3, "num", more(signs("01")), False), "word 3 num [01]+"),
+    (("word", 3, "num", more(signs("01")), True), "skip 3 num [01]+"), (("noword", "num"), "noword num"),
+        (("kind", "num", then(signs("a"), again(signs(" bc"))), False), "kind num [a] [ bc]*"),
+    (("kind", "num", word("a b\n\""), True), "skipkind num \"a b\\n\\\"\""), (("begin", "a"), "begin a"),
+        (("turn", "p", (3, 1, 2)), "turn p 3 1 2"), (("turn", "p", ()), "turn p"),
+    (("turn", "p", (10, 9999, 0)), "turn p 10 9999 0"), (("put", "add", 2, "dash", "-"), "put add 2 dash \"-\""),
+        (("put", "add", 2, "dash", " a\\\n\""), "put add 2 dash \" a\\\\\\n\\\"\""),
+    (("put", "add", 2, "dash", ""), "put add 2 dash \"\""), (("put", "p", 1, "a", TREE),
+        "put p 1 a p(s(y\"x y\\\"\" r()) x\"x\" q(x\"x\"))"), (("take", "p", 4), "take p 4"),
+    (("fold", "p", 1, 3, "new", "in"), "fold p 1 3 new in"), (("unfold", "p", 0), "unfold p 0"),
+        (("bar", "p", 1, "q"), "bar p 1 q"), (("nobar", "p", 9999, "q"), "nobar p 9999 q"),
 ]
 
 
@@ -44,7 +52,8 @@ class There(unittest.TestCase):
             if "parts" not in text and deed[0] != "put":
                 self.assertEqual(show_deed(deed), text)
         self.assertEqual({deed[0] for deed, _ in TOLD}, {
-            "call", "label", "add", "drop", "rule", "norule", "word", "noword", "kind", "begin", "turn", "put", "take", "fold", "unfold", "bar", "nobar"})
+            "call", "label", "add", "drop", "rule", "norule", "word", "noword", "kind", "begin", "turn", "put", "take",
+                                                         "fold", "unfold", "bar", "nobar"})
         told = read_deed("rule 2 new a: x y | b:")
         self.assertEqual((type(told[3]), type(told[3][0]), type(told[3][0][1])), (list, tuple, tuple))
 
@@ -59,7 +68,8 @@ class There(unittest.TestCase):
         self.assertEqual(read_deed("kind num " + show_pattern(PATTERNS[8])), ("kind", "num", PATTERNS[8], False))
 
     def test_by_form_alone(self):
-        for deed in (("drop", "nowhere"), ("put", "z", 0, "z", (("z", "y"), (("k", ""),))), ("turn", "p", (7, 7)), ("add", "a", 99, "p", ("p",) * 9), ("rule", 9, "a", [("a", ()), ("a", ())]),
+        for deed in (("drop", "nowhere"), ("put", "z", 0, "z", (("z", "y"), (("k", ""),))), ("turn", "p", (7, 7)),
+                     ("add", "a", 99, "p", ("p",) * 9), ("rule", 9, "a", [("a", ()), ("a", ())]),
                      ("word", 0, "k", ("empty",), False)):
             parts = [[("word", 0), ("node", 1)], []] if deed[0] == "put" else None
             self.assertEqual(read_deed(show_deed(deed, parts=parts)), deed)
@@ -80,36 +90,35 @@ class There(unittest.TestCase):
 
 class NoRows(unittest.TestCase):
     def test_anything(self):
-        for thing in ANYTHING + ["", " ", "call", "call a", "call a b c", "other a", "Call a b", " call a b", "call  a b", "call a  b", "call a b ", "call a b\n", "call a word", "call A b", "call abcdefghi b",
+        for thing in ANYTHING + ["", " ", "call", "call a", "call a b c", "other a", "Call a b", " call a b",
+                                 "call  a b", "call a  b", "call a b ", "call a b\n", "call a word", "call A b",
+                                 "call abcdefghi b",
                                  "call a ", "drop", "drop ", "drop a b", "drop a\n", "call a b\n#"]:
             with self.assertRaises(NoRow) as caught:
                 read_deed(thing)
             self.assertIs(caught.exception.row, thing)
 
     def test_numbers(self):
-        for number, holds in (("0", True), ("7", True), ("10", True), ("9999", True), ("10000", False), ("00", False), ("01", False), ("-1", False), ("+1", False), ("", False), ("a", False), ("1.0", False), ("1a", False), ("one", False), (" 1", False)):
-            for text in ("take p N", "bar p N q", "nobar p N q", "add a N p x", "add a N p", "rule N a p:", "word N k [a]", "skip N k [a]", "put p N k \"a\"", "put p N k q()", "fold p N 1 a q", "fold p 1 N a q", "unfold p N", "turn p N", "turn p 1 N", "turn p N 1"):
+        for number, holds in (("0", True), ("7", True), ("10", True), ("9999", True), ("10000", False), ("00", False),
+                              ("01", False), ("-1", False), ("+1", False), ("", False), ("a", False), ("1.0", False),
+                              ("1a", False), ("one", False), (" 1", False)):
+            for text in ("take p N", "bar p N q", "nobar p N q", "add a N p x", "add a N p", "rule N a p:",
+                         "word N k [a]", "skip N k [a]", "put p N k \"a\"", "put p N k q()", "fold p N 1 a q",
+                         "fold p 1 N a q", "unfold p N", "turn p N", "turn p 1 N", "turn p N 1"):
                 self.assertIs(is_row(text.replace("N", number)), holds, (text, number))
 
     def test_an_empty_word_at_any_place(self):
+        # How many words stand ahead of a pattern, a text or a tree, in which blanks are signs like others.
+        heads = {"word": 3, "skip": 3, "kind": 2, "skipkind": 2, "put": 4}
         for _, text in TOLD:
-            is_put = text.startswith("put")
-            head = text if not is_put else text[:text.index("\"") if text.count("(") == 0 else text.index("p(")]
-            for at, sign in enumerate(head):
-                if sign == " ":
-                    other = text[:at] + " " + text[at:]
-                    # Ahead of a pattern or a tree a blank more may stand.
-                    spread = (text.split(" ")[0] in ("word", "skip", "kind", "skipkind") and at >= head.rindex(text.split(" ")[-1]) - 1) or (is_put and at == len(head) - 1 and "(" in text)
-                    if not spread and not (text.split(" ")[0] in ("word", "skip", "kind", "skipkind") and at > self.place_of_pattern(text) - 2):
-                        self.assertIs(is_row(other), False, other)
-            self.assertIs(is_row(" " + text), False)
-            if text.split(" ")[0] not in ("word", "skip", "kind", "skipkind") and "(" not in text:
-                self.assertIs(is_row(text + " "), False, text)
-                self.assertIs(is_row(text + "\n"), False, text)
-
-    def place_of_pattern(self, text):
-        words = text.split(" ")
-        return len(" ".join(words[:3 if words[0] in ("word", "skip") else 2])) + 1
+            words = text.split(" ")
+            many = heads.get(words[0], len(words))
+            for at in range(many):
+                self.assertIs(is_row(" ".join(words[:at] + [""] + words[at:])), False, (text, at))
+            # Ahead of and behind a pattern or a tree a blank more may stand, but not beside a quoted text.
+            is_free = words[0] in heads and (words[0] != "put" or "(" in text)
+            self.assertIs(is_row(" ".join(words[:many] + [""] + words[many:])), is_free, text)
+            self.assertIs(is_row(text + " "), is_free, text)
 
     def test_a_sign_otherwise(self):
         for _, text in TOLD:
@@ -121,9 +130,18 @@ class NoRows(unittest.TestCase):
                         self.assertIs(is_row(other), False, other)
 
     def test_rows_orders_and_alternatives(self):
-        for text in ("add a 0 p x  y", "add a 0 p x ", "add a 0 p ", "add a 0 p x Y", "add a 0 p x.y", "add a 0", "turn p 1  2", "turn p 1 ", "turn p ", "turn", "turn p a", "turn p 1 a", "rule 0 a", "rule 0 a ", "rule 0 a p", "rule 0 a p x",
-                     "rule 0 a p : x", "rule 0 a p:x", "rule 0 a p:  x", "rule 0 a p: x ", "rule 0 a p: x |", "rule 0 a p: x | ", "rule 0 a p: x| q:", "rule 0 a p: x |q:", "rule 0 a | q:", "rule 0 a p: x |  q:", "rule 0 a p: x  | q:", "rule 0 a p: x || q:", "rule 0 a : x", "rule 0 a p:;",
-                     "rule 0 a word:", "rule 0 a p: bar", "rule 0 a p: x | | q:", "add a 0 rule", "fold p 1 2 a", "fold p 1 2 a q r", "begin", "begin a b", "kind k", "kind k ", "kind k a", "kind k [", "kind k [a] ;", "kind 0 k [a]", "word k [a]", "skip 0 k", "kind k [aa]", "kind k \"\"",
-                     "put p 1 k", "put p 1 k ", "put p 1 k a", "put p 1 k \"a", "put p 1 k \"a\" ", "put p 1 k  \"a\"", "put p 1 k \"a\"\"b\"", "put p 1 k \"\\t\"", "put p 1 k q", "put p 1 k q(", "put p 1 k q()r()", "put p 1 k 'a'", "put p 1 k \"a\\\"", "put p 1 k \"\n\"", "put p 1 k q(x)", "put p 1 k word()",
+        for text in ("add a 0 p x  y", "add a 0 p x ", "add a 0 p ", "add a 0 p x Y", "add a 0 p x.y", "add a 0",
+                     "turn p 1  2", "turn p 1 ", "turn p ", "turn", "turn p a", "turn p 1 a", "rule 0 a", "rule 0 a ",
+                     "rule 0 a p", "rule 0 a p x",
+                     "rule 0 a p : x", "rule 0 a p:x", "rule 0 a p:  x", "rule 0 a p: x ", "rule 0 a p: x |",
+                     "rule 0 a p: x | ", "rule 0 a p: x| q:", "rule 0 a p: x |q:", "rule 0 a | q:",
+                     "rule 0 a p: x |  q:", "rule 0 a p: x  | q:", "rule 0 a p: x || q:", "rule 0 a : x",
+                     "rule 0 a p:;",
+                     "rule 0 a word:", "rule 0 a p: bar", "rule 0 a p: x | | q:", "add a 0 rule", "fold p 1 2 a",
+                     "fold p 1 2 a q r", "begin", "begin a b", "kind k", "kind k ", "kind k a", "kind k [",
+                     "kind k [a] ;", "kind 0 k [a]", "word k [a]", "skip 0 k", "kind k [aa]", "kind k \"\"",
+                     "put p 1 k", "put p 1 k ", "put p 1 k a", "put p 1 k \"a", "put p 1 k \"a\" ", "put p 1 k  \"a\"",
+                     "put p 1 k \"a\"\"b\"", "put p 1 k \"\\t\"", "put p 1 k q", "put p 1 k q(", "put p 1 k q()r()",
+                     "put p 1 k 'a'", "put p 1 k \"a\\\"", "put p 1 k \"\n\"", "put p 1 k q(x)", "put p 1 k word()",
                      "put p 1 k \"a\"#"):
             self.assertIs(is_row(text), False, text)

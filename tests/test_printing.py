@@ -16,10 +16,13 @@ from tongueyard.reading import only_shape
 from tongueyard.trees import nodes_of, part_at
 
 LETTERS = "abcdefghijklmnopqrstuvwxyz"
-KINDS = [("name", more(signs(LETTERS)), False), ("num", more(DIGITS), False), ("op", either(signs("+"), word("++")), False),
-         ("left", signs("("), False), ("right", signs(")"), False), ("text", then(signs("\""), ("again", signs("\na")), signs("\"")), False),
+KINDS = [("name", more(signs(LETTERS)), False), ("num", more(DIGITS), False),
+         ("op", either(signs("+"), word("++")), False),
+         ("left", signs("("), False), ("right", signs(")"), False), ("text",
+             then(signs("\""), ("again", signs("\na")), signs("\"")), False),
          ("gap", more(either(signs("\n "), then(signs("#"), ("again", signs("ab ")), signs("\n")))), True)]
-TEXTS = {"name": ["a", "bcd", "zz"], "num": ["7", "123"], "op": ["+", "++"], "left": ["("], "right": [")"], "text": ["\"a\"", "\"\n\n\""]}
+TEXTS = {"name": ["a", "bcd", "zz"], "num": ["7", "123"], "op": ["+", "++"], "left": ["("], "right": [")"],
+         "text": ["\"a\"", "\"\n\n\""]}
 CALLS = grammar_of("""
     all: none | some all name args
     args: plain | list left parts right | op op
@@ -53,14 +56,18 @@ class Plain(unittest.TestCase):
         self.assertEqual(printed(Layout(CALLS, BLOCK), tree), "f(\n  a +\n  12\n)")
         self.assertEqual(printed_spans(Layout(CALLS, BLOCK), tree),
                          ("f(\n  a +\n  12\n)", [(0, 1), (1, 2), (5, 6), (7, 8), (11, 13), (14, 15)]))
-        self.assertEqual(printed(Layout(CALLS, {"two": ("blank", "soft"), "list": ("soft", "soft")}), tree), "f( a + 12 )")
-        self.assertEqual(printed(Layout(CALLS, {"two": ("blank", "soft"), "list": ("soft", "soft")}), tree, width=9), "f(\na + 12\n)")
-        self.assertEqual(printed(Layout(CALLS, {"two": ("blank", "soft"), "list": ("soft", "soft")}), tree, width=10), "f( a + 12 )")
+        self.assertEqual(printed(Layout(CALLS, {"two": ("blank", "soft"), "list": ("soft", "soft")}), tree),
+                         "f( a + 12 )")
+        self.assertEqual(printed(Layout(CALLS, {"two": ("blank", "soft"), "list": ("soft", "soft")}), tree, width=9),
+                         "f(\na + 12\n)")
+        self.assertEqual(printed(Layout(CALLS, {"two": ("blank", "soft"), "list": ("soft", "soft")}), tree, width=10),
+                         "f( a + 12 )")
 
     def test_depths_of_nested_ones(self):
         layout = Layout(CALLS, {"list": ("in", "out")})
         inner = ("call", "list", "one", "call", "list", "one", "leaf")
-        tree = (("some", "none", "list", "one") + inner, tuple(("name" if sign == "n" else "left" if sign == "(" else "right", sign)
+        tree = (("some", "none", "list", "one") + inner,
+                tuple(("name" if sign == "n" else "left" if sign == "(" else "right", sign)
                                                               for sign in "n(n(n(n)))"))
         text = "n(\n  n(\n    n(\n      n\n    )\n  )\n)"
         self.assertEqual(printed(layout, tree), text)
@@ -69,9 +76,12 @@ class Plain(unittest.TestCase):
     def test_marks_of_what_has_no_words(self):
         grammar = grammar_of("a: p x b x\n b: q c c | r x c | s\n c: t")
         for marks, shape, width, text in (
-                ({"q": ("row",)}, "pqtt", None, "x\nx"), ({"q": ("soft",)}, "pqtt", None, "x x"), ({"q": ("soft",)}, "pqtt", 0, "x x"),
-                ({"p": ("blank", "near")}, "ps", None, "x x"), ({"p": ("near", "row")}, "ps", None, "x\nx"), ({"p": ("soft", "near")}, "ps", 2, "x\nx"),
-                ({"p": ("soft", "near")}, "ps", 3, "x x"), ({"r": ("soft",)}, "prt", 0, "xx\nx"), ({"r": ("soft",)}, "prt", 1, "xx x"),
+                ({"q": ("row",)}, "pqtt", None, "x\nx"), ({"q": ("soft",)}, "pqtt", None, "x x"),
+                                          ({"q": ("soft",)}, "pqtt", 0, "x x"),
+                ({"p": ("blank", "near")}, "ps", None, "x x"), ({"p": ("near", "row")}, "ps", None, "x\nx"),
+                                          ({"p": ("soft", "near")}, "ps", 2, "x\nx"),
+                ({"p": ("soft", "near")}, "ps", 3, "x x"), ({"r": ("soft",)}, "prt", 0, "xx\nx"),
+                                          ({"r": ("soft",)}, "prt", 1, "xx x"),
                 ({"p": ("in", "out")}, "ps", None, "x\nx"), ({"p": ("in", "out")}, "prt", None, "x\n  x\nx"),
                 ({"p": ("soft", "soft"), "r": ("row",)}, "prt", None, "x\nx\nx")):
             # Without a skipped kind nothing holds but what is near, so there is one here.
@@ -79,13 +89,15 @@ class Plain(unittest.TestCase):
             whole = Grammar(kinds, grammar.rules())
             tree = (tuple(shape), (("x", "x"),) * (3 if "r" in shape else 2))
             self.assertEqual(printed(Layout(whole, marks), tree, width=width), text, (marks, shape))
-            self.assertEqual(printed(Layout(whole, marks), tree, width=width), PlainPrint(whole, marks, tree, width).told()[0])
+            self.assertEqual(printed(Layout(whole, marks), tree, width=width),
+                             PlainPrint(whole, marks, tree, width).told()[0])
 
     def test_no_words_and_one(self):
         for shape, words in ((("none",), ()), (("some", "none", "plain"), (("name", "q"),))):
             text = "".join(told for _, told in words)
             for width in (None, 0, 1, 9):
-                self.assertEqual(printed_spans(Layout(CALLS, BLOCK), (shape, words), width=width), (text, [(0, 1)][:len(words)]))
+                self.assertEqual(printed_spans(Layout(CALLS, BLOCK), (shape, words), width=width),
+                                 (text, [(0, 1)][:len(words)]))
 
     def test_against_a_slow_one(self):
         chance = Random(8)
@@ -112,17 +124,20 @@ class Plain(unittest.TestCase):
         self.assertGreater(rows, firsts)
 
     def test_a_flat_node_stands_as_reckoned(self):
-        layout = Layout(CALLS, {"some": ("row", "soft"), "list": ("soft", "soft"), "two": ("soft", "soft"), "call": ("soft",)})
+        layout = Layout(CALLS, {"some": ("row", "soft"), "list": ("soft", "soft"), "two": ("soft", "soft"),
+                                "call": ("soft",)})
         for tree in some_trees(CALLS, 9, 9, 30):
             for width in (8, 12, 20):
                 text, spans = printed_spans(layout, tree, width=width)
                 for node, (_, _, first, behind, _) in enumerate(nodes_of(CALLS, tree[0])):
                     if behind > first:
-                        part = PlainPrint(CALLS, {label: layout.marks_of(label) for label in CALLS.labels()}, tree, width)
+                        part = PlainPrint(CALLS, {label: layout.marks_of(label) for label in CALLS.labels()}, tree,
+                                          width)
                         if part.is_flat(node):
                             told = text[spans[first][0]:spans[behind - 1][1]]
                             self.assertLessEqual(len(told), width)
-                            self.assertEqual(told.count("\n"), sum(word.count("\n") for _, word in part_at(CALLS, tree, node)[1]))
+                            self.assertEqual(told.count("\n"), sum(word.count("\n") for _,
+                                word in part_at(CALLS, tree, node)[1]))
 
 
 class Refused(unittest.TestCase):
@@ -130,18 +145,24 @@ class Refused(unittest.TestCase):
         layout = Layout(SUMS, {})
         good = (("one", "leaf"), (("num", "12"),))
         self.assertEqual(printed(layout, good), "12")
-        for thing, node in ((None, None), ((), None), (("one",), None), ((("one", "leaf"), (("num", "1x"),)), None), ((("one", "leaf"), ()), None),
-                            ((("one",), ()), 1), ((("leaf",), (("num", "1"),)), 0), ((("one", "leaf", "leaf"), ()), 2), ([("one",), ()], None)):
-            for call in (lambda: printed(layout, thing), lambda: printed_spans(layout, thing), lambda: packed(SUMS, thing),
+        for thing, node in ((None, None), ((), None), (("one",), None), ((("one", "leaf"), (("num", "1x"),)), None),
+                            ((("one", "leaf"), ()), None),
+                            ((("one",), ()), 1), ((("leaf",), (("num", "1"),)), 0), ((("one", "leaf", "leaf"), ()), 2),
+                            ([("one",), ()], None)):
+            for call in (lambda: printed(layout, thing), lambda: printed_spans(layout, thing),
+                         lambda: packed(SUMS, thing),
                          lambda: printed(layout, thing, width=3)):
                 self.assertEqual(refusal(call), (NoTree, node), thing)
 
     def test_not_good(self):
         # A word of the second kind is one of the first; and one is more pieces than one.
-        kinds = [("x", word("ab"), False), ("y", more(signs("ab")), False), ("z", then(signs("c"), maybe(signs("d"))), False)]
+        kinds = [("x", word("ab"), False), ("y", more(signs("ab")), False),
+                 ("z", then(signs("c"), maybe(signs("d"))), False)]
         grammar = grammar_of("a: p | q y a | r x a | s z a", kinds=kinds)
-        for shape, words, number in (("qp", "ab", 0), ("qqp", "b ab", 1), ("qrqp", "b ab ab", 2), ("qqqp", "ab b ab", 0)):
-            tree = (tuple(shape), tuple(("x" if label == "r" else "y", text) for label, text in zip(shape, words.split())))
+        for shape, words, number in (("qp", "ab", 0), ("qqp", "b ab", 1), ("qrqp", "b ab ab", 2),
+                                     ("qqqp", "ab b ab", 0)):
+            tree = (tuple(shape), tuple(("x" if label == "r" else "y", text) for label,
+                                        text in zip(shape, words.split())))
             self.assertEqual(refusal(lambda: printed(Layout(grammar, {}), tree)), (NotGood, number))
             self.assertEqual(refusal(lambda: packed(grammar, tree)), (NotGood, number))
         # Not good goes ahead of what has no gap, wherever that is.
@@ -160,12 +181,14 @@ class Refused(unittest.TestCase):
         self.assertEqual(refusal(lambda: printed(Layout(grammar, {"both": ("row", "near")}), tree)), (NoPrint, 0))
         self.assertEqual(refusal(lambda: printed(Layout(grammar, {"both": ("near", "row")}), tree)), (NoPrint, 1))
         self.assertEqual(refusal(lambda: printed(Layout(grammar, {"both": ("row", "row")}), tree)), (NoPrint, 0))
-        self.assertEqual(refusal(lambda: printed(Layout(grammar, {"both": ("soft", "soft")}), tree, width=4)), (NoPrint, 0))
+        self.assertEqual(refusal(lambda: printed(Layout(grammar, {"both": ("soft", "soft")}), tree, width=4)),
+                         (NoPrint, 0))
         self.assertEqual(printed(Layout(grammar, {"both": ("soft", "soft")}), tree, width=5), "1 + 2")
         bare = Grammar(kinds[:2], [("a", [("p", ("num", "num", "plus", "num", "num"))])])
         tree = (("p",), (("num", "1"), ("num", "2"), ("plus", "+"), ("num", "3"), ("num", "4")))
         self.assertEqual(refusal(lambda: packed(bare, tree)), (NoPrint, 0))
-        self.assertEqual(refusal(lambda: printed(Layout(bare, {"p": ("near", "blank", "near", "near")}), tree)), (NoPrint, 0))
+        self.assertEqual(refusal(lambda: printed(Layout(bare, {"p": ("near", "blank", "near", "near")}), tree)),
+                         (NoPrint, 0))
 
     def test_bars(self):
         grammar = BARRED["sums"]
@@ -193,7 +216,8 @@ class Packed(unittest.TestCase):
         grammar = grammar_of("a: p rem name | q name name", kinds=kinds)
         self.assertEqual(packed(grammar, (("p",), (("rem", "#ab"), ("name", "a")))), "#ab\na")
         self.assertEqual(packed(grammar, (("q",), (("name", "b"), ("name", "a")))), "b a")
-        self.assertEqual(printed(Layout(grammar, {"p": ("blank",)}), (("p",), (("rem", "#ab"), ("name", "a")))), "#ab\na")
+        self.assertEqual(printed(Layout(grammar, {"p": ("blank",)}), (("p",), (("rem", "#ab"), ("name", "a")))),
+                         "#ab\na")
 
 
 class Again(unittest.TestCase):

@@ -56,7 +56,8 @@ class Readers(unittest.TestCase):
         rules = [("s", [("l" + name, (name,)) for name in ("ra", "rb", "rc", "rd")])]
         for at, name in enumerate(("ra", "rb", "rc", "rd")):
             letters = "abcdefghijklmn"
-            rules.append((name, [(f"{name}{chr(97 + k)}", (letters[at], letters[k], letters[k], letters[k - 1], letters[k - 2], letters[k - 3]))
+            rules.append((name, [(f"{name}{chr(97 + k)}", (letters[at], letters[k], letters[k], letters[k - 1],
+                                                           letters[k - 2], letters[k - 3]))
                                  for k in range(4, 13)]))
         grammar = Grammar(kinds, rules)
         self.assertIs(Reader(grammar).has_table(), False)
@@ -64,7 +65,8 @@ class Readers(unittest.TestCase):
 
     def test_ringed(self):
         rings = 0
-        for grammar in list(NAMED.values()) + list(ROWS_READ.values()) + some_grammars(3, 60) + list(BARRED.values()) + some_grammars(4, 60, True):
+        for grammar in list(NAMED.values()) + list(ROWS_READ.values()) + some_grammars(3,
+            60) + list(BARRED.values()) + some_grammars(4, 60, True):
             try:
                 plain = parted(grammar).plain()
             except AllBarred:
@@ -79,7 +81,8 @@ class Readers(unittest.TestCase):
             name = caught.exception.name
             self.assertIn(name, [rule for rule, _ in grammar.rules()])
             if len(grammar.rules()) < 4:
-                self.assertTrue(nests(grammar, name, 8) or nests(grammar, name, 10), (grammar.rules(), grammar.bars(), name))
+                self.assertTrue(nests(grammar, name, 8) or nests(grammar, name, 10),
+                                (grammar.rules(), grammar.bars(), name))
                 rings += 1
         self.assertGreater(rings, 15)
 
@@ -106,7 +109,8 @@ class Readers(unittest.TestCase):
         with self.assertRaises(AllBarred):
             Reader(both)
         labels = ["b" + letter for letter in "abcdefghijklmnop"]
-        rules = [("a", [("l" + label, ("b",) * 6) for label in labels[:7]]), ("b", [(label, ("x",)) for label in labels])]
+        rules = [("a", [("l" + label, ("b",) * 6) for label in labels[:7]]),
+                 ("b", [(label, ("x",)) for label in labels])]
         bars = tuple((f"l{labels[at // 6]}", at % 6 + 1, labels[at % 15]) for at in range(28))
         wide = Grammar([("x", signs("x"), False)], rules, bars=bars)
         with self.assertRaises(TooMany) as caught:

@@ -14,7 +14,8 @@ from tongueyard.tallies import completed, due_sums, tally_of
 from tongueyard.trees import is_shape, spelled_by
 from tongueyard.worths import worths
 
-SAMPLES = [NAMED["half"], NAMED["ring"], NAMED["begun"], NAMED["barren"], READ["amb"], READ["apart"], READ["round"], READ["void"]]
+SAMPLES = [NAMED["half"], NAMED["ring"], NAMED["begun"], NAMED["barren"], READ["amb"], READ["apart"], READ["round"],
+           READ["void"]]
 
 
 def cases(seed, many):
@@ -39,7 +40,8 @@ def relation_of(grammar, tally, shape, name):
                 if one not in met:
                     met.add(one)
                     due.append(one)
-        found += [(down, up) for down in [mark[0] for mark in tally[0] if mark[1] == "down" and name in mark[3]] if (0, down) in met]
+        found += [(down, up) for down in [mark[0] for mark in tally[0] if mark[1] == "down" and name in mark[3]] if (0,
+            down) in met]
     return tuple(sorted(found))
 
 
@@ -55,7 +57,8 @@ class Relations(unittest.TestCase):
                 self.assertTrue(all(part < at for part in parts))
                 names = [name for name in grammar.row_of(label) if not grammar.is_kind(name)]
                 self.assertEqual([grammar.rule_of(rows[part][0]) for part in parts], names)
-                self.assertEqual(relation, PlainOrders(grammar, tally).comes_of(label, [rows[part][2] for part in parts]))
+                self.assertEqual(relation, PlainOrders(grammar, tally).comes_of(label,
+                    [rows[part][2] for part in parts]))
                 self.assertEqual((type(parts), type(relation)), (tuple, tuple))
 
     def test_against_walks_over_small_trees(self):
@@ -133,7 +136,8 @@ class Papers(unittest.TestCase):
             self.assertLessEqual(len(paper[2]), len(relations(grammar, tally)) + 1)
             shape = shape_of_rows(paper[2])
             with self.assertRaises(RoundWorths):
-                worths(grammar, tally, tree_of(grammar, shape, grammar.rule_of(shape[0])), given=given_none(grammar, tally, shape))
+                worths(grammar, tally, tree_of(grammar, shape, grammar.rule_of(shape[0])),
+                       given=given_none(grammar, tally, shape))
         self.assertGreater(words.count("orders"), 80)
         self.assertGreater(words.count("round"), 30)
 
@@ -200,7 +204,8 @@ class Walks(unittest.TestCase):
         nones = 0
         for grammar, tally in cases(6, 8):
             found = one_walk(grammar, tally)
-            reading = [one[:3] for one in tally[1] if one[1] > 0 and any(at >= one[1] for at, _ in PlainOrders(grammar, tally).sums[one[:3]])]
+            reading = [one[:3] for one in tally[1] if one[1] > 0 and any(at >= one[1] for at,
+                _ in PlainOrders(grammar, tally).sums[one[:3]])]
             self.assertEqual(found, reading[0] if reading else None)
             if found is None:
                 nones += 1

@@ -15,9 +15,12 @@ TALLY = tally_of(SUMS, MARKS, SUMS_OF)
 SMALL = grammar_of("a: p b x | q\n b: r y")
 SMALL_MARKS = [("n", "up", "number", ("a", "b")), ("t", "down", "text", ("b",)), ("s", "up", "names", ("a",))]
 SMALL_SUMS = [
-    ("p", 0, "n", ("choose", ("same", ("at", 1, "n"), ("number", 0)), ("less", ("number", 1000000000), ("many", ("nobody",))), ("most", ("number", 7), ("digits", ("text", "08"))))),
-    ("p", 1, "t", ("join", ("word", 2), ("text", "\"\\\n"))), ("r", 0, "n", ("plus", ("times", ("long", ("at", 0, "t")), ("number", 2)), ("has", ("nobody",), ("text", "")))),
-    ("p", 0, "s", ("off", ("either", ("just", ("shown", ("at", 1, "n"))), ("nobody",)), ("just", ("text", "x")))), ("q", 0, "n", ("number", 0)), ("q", 0, "s", ("nobody",))]
+    ("p", 0, "n", ("choose", ("same", ("at", 1, "n"), ("number", 0)), ("less", ("number", 1000000000),
+        ("many", ("nobody",))), ("most", ("number", 7), ("digits", ("text", "08"))))),
+    ("p", 1, "t", ("join", ("word", 2), ("text", "\"\\\n"))), ("r", 0, "n",
+        ("plus", ("times", ("long", ("at", 0, "t")), ("number", 2)), ("has", ("nobody",), ("text", "")))),
+    ("p", 0, "s", ("off", ("either", ("just", ("shown", ("at", 1, "n"))), ("nobody",)), ("just", ("text", "x")))),
+              ("q", 0, "n", ("number", 0)), ("q", 0, "s", ("nobody",))]
 SMALL_TALLY = tally_of(SMALL, SMALL_MARKS, SMALL_SUMS)
 SMALL_TEXT = """up n number: a b;
 down t text: b;
@@ -89,9 +92,12 @@ class Shown(unittest.TestCase):
 
     def test_names_that_are_words_of_the_form(self):
         grammar = grammar_of("number: up x text | down x\n text: names y")
-        marks = [("plus", "up", "number", ("number", "text")), ("text", "down", "names", ("text",)), ("nobody", "up", "text", ("number",)), ("up", "up", "number", ("text",))]
-        sums = [("up", 0, "plus", ("plus", ("at", 2, "plus"), ("at", 2, "up"))), ("up", 2, "text", ("nobody",)), ("up", 0, "nobody", ("word", 1)), ("down", 0, "plus", ("number", 1)),
-                ("down", 0, "nobody", ("text", "up")), ("names", 0, "plus", ("many", ("at", 0, "text"))), ("names", 0, "up", ("number", 3))]
+        marks = [("plus", "up", "number", ("number", "text")), ("text", "down", "names", ("text",)),
+                 ("nobody", "up", "text", ("number",)), ("up", "up", "number", ("text",))]
+        sums = [("up", 0, "plus", ("plus", ("at", 2, "plus"), ("at", 2, "up"))), ("up", 2, "text", ("nobody",)),
+                ("up", 0, "nobody", ("word", 1)), ("down", 0, "plus", ("number", 1)),
+                ("down", 0, "nobody", ("text", "up")), ("names", 0, "plus", ("many", ("at", 0, "text"))),
+                ("names", 0, "up", ("number", 3))]
         tally = tally_of(grammar, marks, sums)
         text = show_tally(tally)
         self.assertIn("up.0.plus = plus(plus.2, up.2);\n", text)
@@ -104,20 +110,31 @@ class Shown(unittest.TestCase):
 class Read(unittest.TestCase):
     def test_no_tally(self):
         for text, wanted in (
-                ("up n number: z;", ("mark", 0)), ("up n number: a; up n text: b;", ("mark", 1)), ("up n number: a a;", ("mark", 0)), ("up n number: a;", ("lacks", ("p", 0, "n"))),
-                ("p.0.n = 1;", ("sum", 0)), ("up n number: b; r.0.n = 1; r.0.n = 1;", ("sum", 1)), ("up n number: b; r.0.n = \"a\";", ("sum", 0)), ("up n number: b; r.0.n = word(2);", ("sum", 0)),
-                ("up n number: b; r.0.n = has(1, 2);", ("sum", 0)), ("r.0.n = 1; up n number: b; p.1.n = 1;", ("sum", 1)), ("up n number: b; r.0.n = n.0;", ("sum", 0)),
+                ("up n number: z;", ("mark", 0)), ("up n number: a; up n text: b;", ("mark", 1)),
+                             ("up n number: a a;", ("mark", 0)), ("up n number: a;", ("lacks", ("p", 0, "n"))),
+                ("p.0.n = 1;", ("sum", 0)), ("up n number: b; r.0.n = 1; r.0.n = 1;", ("sum", 1)),
+                             ("up n number: b; r.0.n = \"a\";", ("sum", 0)),
+                             ("up n number: b; r.0.n = word(2);", ("sum", 0)),
+                ("up n number: b; r.0.n = has(1, 2);", ("sum", 0)), ("r.0.n = 1; up n number: b; p.1.n = 1;",
+                    ("sum", 1)), ("up n number: b; r.0.n = n.0;", ("sum", 0)),
                 ("up n number: b; r.0.n = " + "plus(1, " * 5 + "1" + ")" * 5 + "; r.0.n = 2;", ("sum", 1)),
                 ("up n number: b; r.0.n = plus(plus(plus(1, 1), plus(1, 1)), plus(plus(plus(1, 1), plus(1, 1)), plus(1, plus(1, 1))));", ("sum", 0))):
             self.assertEqual(refusal(lambda: read_tally(SMALL, text)), (NoTally,) + wanted, text)
+
+    def test_figures(self):
+        for number in (0, 7, 10, 1234567890 // 10, 908070605, 999999999, 1000000000):
+            self.assertEqual(sums_read(f"p.0.n = {number};"), ([], [("p", 0, "n", ("number", number))]))
 
     def test_fill(self):
         text = "up n number: a b; r.0.n = 4;"
         self.assertEqual(refusal(lambda: read_tally(SMALL, text)), (NoTally, "lacks", ("p", 0, "n")))
         self.assertEqual(refusal(lambda: read_tally(SMALL, text, fill=False)), (NoTally, "lacks", ("p", 0, "n")))
-        self.assertEqual(read_tally(SMALL, text, fill=True), completed(SMALL, [("n", "up", "number", ("a", "b"))], [("r", 0, "n", ("number", 4))]))
-        self.assertEqual(refusal(lambda: read_tally(SMALL, "down d text: b;", fill=True)), (NoTally, "lacks", ("p", 1, "d")))
-        self.assertEqual(refusal(lambda: read_tally(SMALL, "down d text: b; p.2.d = 1;", fill=True)), (NoTally, "sum", 0))
+        self.assertEqual(read_tally(SMALL, text, fill=True), completed(SMALL, [("n", "up", "number", ("a", "b"))],
+            [("r", 0, "n", ("number", 4))]))
+        self.assertEqual(refusal(lambda: read_tally(SMALL, "down d text: b;", fill=True)),
+                         (NoTally, "lacks", ("p", 1, "d")))
+        self.assertEqual(refusal(lambda: read_tally(SMALL, "down d text: b; p.2.d = 1;", fill=True)),
+                         (NoTally, "sum", 0))
         # No text goes ahead of no tally.
         self.assertEqual(refusal(lambda: read_tally(SMALL, "up n number: z; p", fill=True)), (NoText, 17))
         self.assertEqual(refusal(lambda: read_tally(SMALL, "up n number: z; p")), (NoText, 17))
@@ -134,7 +151,9 @@ class NoTexts(unittest.TestCase):
 
     def test_each_sign_otherwise_out_and_put_in(self):
         found = set()
-        for text in ("up n number: a b;down t text:c ;", "p.0.n=plus(1,n.2);# e\n", "p.6.q = choose(\"a\\n\", word(6), nobody( ));", "up.1.a=has(just(x.0),\"\\\"\");", "down long names: w;w.0.s=shown(10);"):
+        for text in ("up n number: a b;down t text:c ;", "p.0.n=plus(1,n.2);# e\n",
+                     "p.6.q = choose(\"a\\n\", word(6), nobody( ));", "up.1.a=has(just(x.0),\"\\\"\");",
+                     "down long names: w;w.0.s=shown(10);"):
             keep_beginnings("tally", text)
             for at in range(len(text) + 1):
                 found.add(self.check(text[:at]))
@@ -149,11 +168,21 @@ class NoTexts(unittest.TestCase):
             return "p.0.n = " + expression + ";"
         start = len("p.0.n = ")
         for expression, at in (
-                ("1000000000", None), ("1000000001", 9), ("2000000000", 9), ("10000000000", 10), ("999999999", None), ("9999999999", 9), ("00", 1), ("01", 1), ("0", None), ("1 0", 2), ("-1", 0), ("+1", 0), ("1.2", 1),
-                ("\"" + "a" * 60 + "\"", None), ("\"" + "a" * 61 + "\"", 61), ("\"" + "a" * 60 + "\\n\"", 61), ("\"" + "\\n" * 60 + "\"", None), ("\"" + "\\n" * 61 + "\"", 121), ("\"\t\"", 1), ("\"\n\"", 1), ("\"\\t\"", 2),
-                ("n.7", 2), ("n.6", None), ("n.0", None), ("n.00", 3), ("word(0)", 5), ("word(1)", None), ("word(6)", None), ("word(7)", 5), ("word(11)", 6), ("word.1", 4), ("word 1", 5), ("word()", 5), ("words.1", None), ("words(1)", 5),
-                ("at(1, n)", 2), ("number(1)", 6), ("text(\"a\")", 4), ("skip.1", 4), ("rule(1)", 4), ("top", 3), ("plus", 4), ("plus.1", None), ("plus(1)", 6), ("plus(1, 2)", None), ("plus(1, 2, 3)", 9), ("plus()", 5), ("nobody", 6), ("nobody(1)", 7),
-                ("nobody()", None), ("nobody.1", None), ("just(1, 2)", 6), ("choose(1, 2)", 11), ("choose(1, 2, 3)", None), ("choose(1, 2, 3, 4)", 14), ("longest.1", None), ("toolonger.1", 8), ("plus(1 2)", 7), ("plus(1,, 2)", 7), ("(1)", 0), ("", 0)):
+                ("1000000000", None), ("1000000001", 9), ("2000000000", 9), ("10000000000", 10), ("999999999", None),
+                               ("9999999999", 9), ("00", 1), ("01", 1), ("0", None), ("1 0", 2), ("-1", 0), ("+1", 0),
+                               ("1.2", 1),
+                ("\"" + "a" * 60 + "\"", None), ("\"" + "a" * 61 + "\"", 61), ("\"" + "a" * 60 + "\\n\"", 61),
+                               ("\"" + "\\n" * 60 + "\"", None), ("\"" + "\\n" * 61 + "\"", 121), ("\"\t\"", 1),
+                               ("\"\n\"", 1), ("\"\\t\"", 2),
+                ("n.7", 2), ("n.6", None), ("n.0", None), ("n.00", 3), ("word(0)", 5), ("word(1)", None),
+                               ("word(6)", None), ("word(7)", 5), ("word(11)", 6), ("word.1", 4), ("word 1", 5),
+                               ("word()", 5), ("words.1", None), ("words(1)", 5),
+                ("at(1, n)", 2), ("number(1)", 6), ("text(\"a\")", 4), ("skip.1", 4), ("rule(1)", 4), ("top", 3),
+                               ("plus", 4), ("plus.1", None), ("plus(1)", 6), ("plus(1, 2)", None),
+                               ("plus(1, 2, 3)", 9), ("plus()", 5), ("nobody", 6), ("nobody(1)", 7),
+                ("nobody()", None), ("nobody.1", None), ("just(1, 2)", 6), ("choose(1, 2)", 11),
+                               ("choose(1, 2, 3)", None), ("choose(1, 2, 3, 4)", 14), ("longest.1", None),
+                               ("toolonger.1", 8), ("plus(1 2)", 7), ("plus(1,, 2)", 7), ("(1)", 0), ("", 0)):
             self.assertEqual(self.check(row(expression)), None if at is None else start + at, expression)
 
     def test_depths(self):
@@ -173,8 +202,15 @@ class NoTexts(unittest.TestCase):
             self.assertIsNotNone(self.check("p.0.n = " + "long(" * 6 + leaf + ")" * 6 + ";"))
 
     def test_rows(self):
-        for text, at in (("up", 2), ("up;", 2), ("up n", 4), ("up n;", 4), ("up n numbers: a;", 11), ("up n num: a;", 8), ("up n nx: a;", 6), ("up n Number: a;", 5), ("up n number a;", 12), ("up n number:;", 12), ("up n number: a, b;", 14),
-                         ("upn number: a;", 4), ("up nnumber: a;", 10), ("up n number: a b c;", None), ("up n names:a;", None), ("down n text : a ;", None), ("up.0.n = 1;", None), ("up .0.n = 1;", None), ("down.7", 5), ("side n number: a;", 5),
-                         ("p.n = 1;", 2), ("p.0 = 1;", 4), ("p.0.n 1;", 6), ("p.0.n = 1", 9), ("p.0.n = 1;;", 10), ("p.0.n == 1;", 7), ("p.0.word = 1;", 8), ("bar.0.n = 1;", 3), ("up word number: a;", 7), ("up n number: rule;", 17),
-                         ("p#\n.0.n = 1;", None), ("p.0.n = 1;#", None), ("p.0.n = 1;# x\ny", 15), ("up#up\nn#\nnumber:a;", None), ("up n number: abcdefghi;", 21)):
+        for text, at in (("up", 2), ("up;", 2), ("up n", 4), ("up n;", 4), ("up n numbers: a;", 11),
+                         ("up n num: a;", 8), ("up n nx: a;", 6), ("up n Number: a;", 5), ("up n number a;", 12),
+                         ("up n number:;", 12), ("up n number: a, b;", 14),
+                         ("upn number: a;", 4), ("up nnumber: a;", 10), ("up n number: a b c;", None),
+                         ("up n names:a;", None), ("down n text : a ;", None), ("up.0.n = 1;", None),
+                         ("up .0.n = 1;", None), ("down.7", 5), ("side n number: a;", 5),
+                         ("p.n = 1;", 2), ("p.0 = 1;", 4), ("p.0.n 1;", 6), ("p.0.n = 1", 9), ("p.0.n = 1;;", 10),
+                         ("p.0.n == 1;", 7), ("p.0.word = 1;", 8), ("bar.0.n = 1;", 3), ("up word number: a;", 7),
+                         ("up n number: rule;", 17),
+                         ("p#\n.0.n = 1;", None), ("p.0.n = 1;#", None), ("p.0.n = 1;# x\ny", 15),
+                         ("up#up\nn#\nnumber:a;", None), ("up n number: abcdefghi;", 21)):
             self.assertEqual(self.check(text), at, text)

@@ -17,13 +17,15 @@ from tongueyard.trees import parts_of, spelled_by
 from tongueyard.treetexts import TREES, read_tree, show_tree
 from tongueyard.wordtables import word_table
 
-ANY = grammar_of("a: p b x a | q x | r\n b: s y a y", kinds=[("x", more(signs(SIGNS)), False), ("y", then(signs("\""), more(signs("\n\\a")), signs("\"")), False)])
+ANY = grammar_of("a: p b x a | q x | r\n b: s y a y", kinds=[("x", more(signs(SIGNS)), False),
+    ("y", then(signs("\""), more(signs("\n\\a")), signs("\"")), False)])
 TREE = (("p", "s", "q", "r"), (("y", "\"\n\""), ("x", "a b()\"\\n"), ("y", "\"\\a\""), ("x", "\n")))
 TEXT = "p(s(y\"\\\"\\n\\\"\" q(x\"a b()\\\"\\\\n\") y\"\\\"\\\\a\\\"\") x\"\\n\" r())"
 
 
 def plain_text(grammar, tree, name=None):
-    words = [kind + "\"" + "".join({"\"": "\\\"", "\\": "\\\\", "\n": "\\n"}.get(sign, sign) for sign in text) + "\"" for kind, text in tree[1]]
+    words = [kind + "\"" + "".join({"\"": "\\\"", "\\": "\\\\", "\n": "\\n"}.get(sign,
+        sign) for sign in text) + "\"" for kind, text in tree[1]]
 
     def show(node):
         label, parts = node
@@ -71,7 +73,10 @@ class Shown(unittest.TestCase):
             for name, _ in grammar.rules():
                 for shape in sorted(shapes_up_to(grammar, 4, name))[:8]:
                     words = some_words(grammar, shape, chance, name) if grammar != ANY else tuple(
-                        (kind, chance.choice(["x", "a\\", "\"\""]) if kind == "x" else "\"\\\n\"") for kind in spelled_by(grammar, shape, name=name))
+                        (kind,
+                         chance.choice(["x", "a\\",
+                                        "\"\""]) if kind == "x" else "\"\\\n\"") for kind in spelled_by(grammar, shape,
+                                            name=name))
                     tree = (shape, words)
                     text = show_tree(tree, parts_of(grammar, shape, name=name))
                     self.assertEqual(text, plain_text(grammar, tree, name))
@@ -113,9 +118,14 @@ class NoTexts(unittest.TestCase):
         self.assertGreater(len(found), 50)
 
     def test_by_hand(self):
-        for text, at in (("", 0), ("  ", 2), ("a", 1), ("a(", 2), ("a()b", 3), ("a() ", None), ("a()()", 3), ("a(()", 2), ("A()", 0), ("a b()", 2), ("a(b)", 3),
-                         ("a(\"x\")", 2), ("a\"x\"", 1), ("a(b\"x\n\")", 5), ("a(b\"x\\t\")", 6), ("a(b\"x", 5), ("a(b\"x\\", 6), ("a(b\"x\"", 6), ("a(b\"\t\")", 4), ("word()", 4), ("rule ()", 4), ("wor()", None),
-                         ("abcdefghi()", 8), ("abcdefgh()", None), ("a(top\"x\")", 5), ("a(skipp\"x\")", None), ("# a()", 0), ("a( #\n)", 3), ("a(b\"x\"c\"y\"d())", None), ("a,", 1), ("a(b\"" + chr(37) + "\")", 4)):
+        for text, at in (("", 0), ("  ", 2), ("a", 1), ("a(", 2), ("a()b", 3), ("a() ", None), ("a()()", 3),
+                         ("a(()", 2), ("A()", 0), ("a b()", 2), ("a(b)", 3),
+                         ("a(\"x\")", 2), ("a\"x\"", 1), ("a(b\"x\n\")", 5), ("a(b\"x\\t\")", 6), ("a(b\"x", 5),
+                         ("a(b\"x\\", 6), ("a(b\"x\"", 6), ("a(b\"\t\")", 4), ("word()", 4), ("rule ()", 4),
+                         ("wor()", None),
+                         ("abcdefghi()", 8), ("abcdefgh()", None), ("a(top\"x\")", 5), ("a(skipp\"x\")", None),
+                         ("# a()", 0), ("a( #\n)", 3), ("a(b\"x\"c\"y\"d())", None), ("a,", 1),
+                         ("a(b\"" + chr(37) + "\")", 4)):
             self.assertEqual(first_wrong("treetext", text), at, text)
             told = refusal(lambda: read_tree(ANY, text))
             self.assertEqual(told if told[0] is NoText else None, (NoText, at) if at is not None else None, text)
@@ -124,14 +134,21 @@ class NoTexts(unittest.TestCase):
 class NoTrees(unittest.TestCase):
     def test_each_reason_with_its_number(self):
         for text, node in (
-                ("z()", 0), ("s()", 0), ("x()", 0), ("a()", 0), ("q()", 0), ("r(r())", 0), ("r(x\"x\")", 0), ("p(s() x\"x\" r())", 1), ("q(x\"x\" x\"x\")", 0), ("q(r())", 1), ("q(z())", 1),
-                ("q(y\"\\\"a\\\"\")", 0), ("q(b\"x\")", 0), ("q(x\"\")", 0), ("p(b\"x\" x\"x\" r())", 0), ("p(q(x\"x\") x\"x\" r())", 1), ("p(x\"x\" s() r())", 0), ("p(s(y\"a\" r() y\"a\") x\"x\" z())", 1),
-                ("p(s(y\"\\\"a\\\"\" q(x\"x\") y\"\\\"a\\\"\") x\"x\" z())", 3), ("p(s(y\"\\\"a\\\"\" q(x\"x\") y\"\\\"a\\\"\") s(z()) r(z()))", 3), ("p(s(y\"\\\"a\\\"\" z() q() ) x\"\" r())", 0),
-                ("p(s(y\"\\\"a\\\"\" z() q() ) x\"x\" r())", 2), ("p(s(y\"\\\"a\\\"\" r() q()) x\"x\" r())", 3), ("p(s(y\"\\\"a\\\"\" r() ) x\"x\" z())", 1)):
+                ("z()", 0), ("s()", 0), ("x()", 0), ("a()", 0), ("q()", 0), ("r(r())", 0), ("r(x\"x\")", 0),
+                           ("p(s() x\"x\" r())", 1), ("q(x\"x\" x\"x\")", 0), ("q(r())", 1), ("q(z())", 1),
+                ("q(y\"\\\"a\\\"\")", 0), ("q(b\"x\")", 0), ("q(x\"\")", 0), ("p(b\"x\" x\"x\" r())", 0),
+                           ("p(q(x\"x\") x\"x\" r())", 1), ("p(x\"x\" s() r())", 0),
+                           ("p(s(y\"a\" r() y\"a\") x\"x\" z())", 1),
+                ("p(s(y\"\\\"a\\\"\" q(x\"x\") y\"\\\"a\\\"\") x\"x\" z())", 3),
+                           ("p(s(y\"\\\"a\\\"\" q(x\"x\") y\"\\\"a\\\"\") s(z()) r(z()))", 3),
+                           ("p(s(y\"\\\"a\\\"\" z() q() ) x\"\" r())", 0),
+                ("p(s(y\"\\\"a\\\"\" z() q() ) x\"x\" r())", 2), ("p(s(y\"\\\"a\\\"\" r() q()) x\"x\" r())", 3),
+                           ("p(s(y\"\\\"a\\\"\" r() ) x\"x\" z())", 1)):
             self.assertEqual(refusal(lambda: read_tree(ANY, text)), (NoTree, node), text)
 
     def test_of_other_rules(self):
-        self.assertEqual(read_tree(ANY, "s(y\"\\\"a\\\"\" r() y\"\\\"a\\\"\")", name="b"), (("s", "r"), (("y", "\"a\""), ("y", "\"a\""))))
+        self.assertEqual(read_tree(ANY, "s(y\"\\\"a\\\"\" r() y\"\\\"a\\\"\")", name="b"),
+                         (("s", "r"), (("y", "\"a\""), ("y", "\"a\""))))
         self.assertEqual(refusal(lambda: read_tree(ANY, "r()", name="b")), (NoTree, 0))
         self.assertEqual(refusal(lambda: read_tree(ANY, TEXT, name="b")), (NoTree, 0))
         self.assertEqual(refusal(lambda: read_tree(ANY, "r(", name="b")), (NoText, 2))
@@ -141,8 +158,10 @@ class NoTrees(unittest.TestCase):
 
     def test_bars(self):
         grammar = BARRED["sums"]
-        self.assertEqual(refusal(lambda: read_tree(grammar, "p(r(y\"y\") x\"x\" p(r(y\"y\") x\"x\" r(y\"y\")))")), (NoTree, 2))
-        self.assertEqual(read_tree(grammar, "p(p(r(y\"y\") x\"x\" r(y\"y\")) x\"x\" r(y\"y\"))")[0], ("p", "p", "r", "r", "r"))
+        self.assertEqual(refusal(lambda: read_tree(grammar, "p(r(y\"y\") x\"x\" p(r(y\"y\") x\"x\" r(y\"y\")))")),
+                         (NoTree, 2))
+        self.assertEqual(read_tree(grammar, "p(p(r(y\"y\") x\"x\" r(y\"y\")) x\"x\" r(y\"y\"))")[0],
+                         ("p", "p", "r", "r", "r"))
         # What is barred goes ahead of what is wrong further on.
         self.assertEqual(refusal(lambda: read_tree(grammar, "p(r(y\"y\") x\"x\" p(z()))")), (NoTree, 2))
         self.assertEqual(refusal(lambda: read_tree(grammar, "p(r(x\"y\") x\"x\" p(z()))")), (NoTree, 1))
@@ -175,11 +194,13 @@ class OwnGrammar(unittest.TestCase):
 
     def test_reads_what_is_of_the_form(self):
         chance = Random(2)
-        texts = [TEXT, " p ( x\n\"a\"r( ) )\n", "r()", "longernamethaneight(\nword\"\")", "word(skip(rule(top(bar\"x\"))))"]
+        texts = [TEXT, " p ( x\n\"a\"r( ) )\n", "r()", "longernamethaneight(\nword\"\")",
+                 "word(skip(rule(top(bar\"x\"))))"]
         read = 0
         for text in texts:
             for at in range(len(text) + 1):
-                for other in [text[:at], text[:at] + text[at + 1:]] + [text[:at] + sign + text[at:] for sign in "a()\"\\ \n#nZ"]:
+                for other in [text[:at],
+                              text[:at] + text[at + 1:]] + [text[:at] + sign + text[at:] for sign in "a()\"\\ \n#nZ"]:
                     told = self.run_text(other)
                     if first_wrong("treetext", other) is None:
                         self.assertIsNotNone(told, other)
@@ -190,7 +211,8 @@ class OwnGrammar(unittest.TestCase):
                         self.check_nodes(other, told)
         self.assertGreater(read, 300)
         for _ in range(200):
-            text = "".join(chance.choice(["a", "b", "(", ")", "\"x\"", " ", "()", "a("]) for _ in range(chance.randint(1, 9)))
+            text = "".join(chance.choice(["a", "b", "(", ")", "\"x\"", " ", "()",
+                                          "a("]) for _ in range(chance.randint(1, 9)))
             self.assertEqual(self.run_text(text) is not None, first_wrong("treetext", text) is None, text)
 
     def check_nodes(self, text, told):
@@ -213,7 +235,8 @@ class OwnGrammar(unittest.TestCase):
                 wanted.append(("leaf", name))
             at += 1
         parts = parts_of(self.GRAMMAR, shape)
-        found = [(shape[node], [words[number] for sort, number in parts[node] if sort == "word" and words[number].isalpha()])
+        found = [(shape[node],
+                  [words[number] for sort, number in parts[node] if sort == "word" and words[number].isalpha()])
                  for node in range(len(shape)) if shape[node] in ("node", "leaf")]
         self.assertEqual(found, [(label, [name]) for label, name in wanted])
 

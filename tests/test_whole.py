@@ -53,33 +53,67 @@ def tally():
 
 def step():
     return Step(SUMS, SUMS, {name: name for name in ("sum", "term", "num", "plus")},
-                {label: (("node", label),) + tuple(("part", at + 1) for at in range(len(SUMS.row_of(label)))) for label in SUMS.labels()})
+                {label: (("node", label),
+                         ) + tuple(("part",
+                                    at + 1) for at in range(len(SUMS.row_of(label)))) for label in SUMS.labels()})
 
 
 def samples():
     """For each function of the interface arguments, made anew, by place and by name."""
-    kinds, pattern, table = SUMS.kinds(), ("or", ("signs", "ab"), ("then", ("signs", "a"), ("signs", "b"))), word_table(SUMS.kinds())
+    kinds, pattern, table = SUMS.kinds(), ("or", ("signs", "ab"), ("then", ("signs", "a"),
+        ("signs", "b"))), word_table(SUMS.kinds())
     told_table, orders = table_of(SUMS), round_paper(SUMS, tally())
     grammar_text = show_grammar(SUMS)
     return {
-        "is_name": [["a"]], "fresh": ["sum", ["sumaa"]], "is_pattern": [pattern], "spells": [pattern, "ab"], "spells_none": [pattern], "least_spelled": [pattern], "only_text": [pattern],
-        "word_table": [kinds], "state_of": [table, "1"], "least_row": [table, 1], "least_apart": [table, 0, 1], "least_word": [table, "num"], "unlike_words": [kinds, kinds[:1]], "lost_word": [table, "num", table, "plus"],
-        "beyond": [pattern, ("signs", "a")], "word_paper": [kinds], "first_piece": [table, "1+", 0], "pieces_of": [table, "1+ ?"], "cut_words": [kinds, "1+ ?"], "is_good": [table, "num", "1"], "gap_holds": [kinds, "1", " ", "2"],
-        "gap_breaks": [kinds, "1", "", "2"], "is_shape": [SUMS, TREE[0], list(ROW)], "is_tree": [SUMS, [TREE]], "need_tree": [SUMS, TREE], "spelled_by": [SUMS, TREE[0]], "nodes_of": [SUMS, TREE[0]], "parts_of": [SUMS, TREE[0]],
-        "part_at": [SUMS, TREE, 1], "put_at": [SUMS, TREE, 3, (("none",), ())], "flat": list(numbered(SUMS, TREE)), "numbered": [SUMS, TREE], "least": [SUMS], "stands": [SUMS], "begins": [SUMS], "follows": [SUMS],
-        "can_be_empty": [SUMS], "ring": [NAMED["ring"]], "known_paper": [SUMS], "parted": [BARS], "show_grammar": [SUMS], "show_pattern": [pattern], "read_grammar": [grammar_text], "read_pattern": ["[ab]*"],
-        "is_worth": ["number", [1]], "due_sums": [SUMS, list(MARKS)], "is_tally": [SUMS, [tally()]], "tally_of": [SUMS, list(MARKS), list(tally()[1])], "completed": [SUMS, list(MARKS), list(SUMS_OF)], "parted_tally": [BARS, completed(BARS, [("n", "up", "number", ("a",))], [])],
-        "log_of": [SUMS, TREE[0]], "shape_of_log": [SUMS, log_of(SUMS, TREE[0])], "lets_by": [SUMS, ["tree"]], "word_fault": [kinds, table, word_paper(kinds)], "words_hold": [SUMS, ("words", table, word_paper(kinds))],
-        "mends_hold": [SUMS, mend_paper(SUMS, ROW)], "worths_hold": [SUMS, orders], "known_holds": [SUMS, known_paper(SUMS)], "led_holds": [SUMS, led_paper(step(), TREE)], "nth_shape": [AMBIGUOUS, ["y", "x", "y"], 0],
-        "place_of_shape": [AMBIGUOUS, ["y", "x", "y"], ("p", "q", "q")], "only_shape": [SUMS, list(ROW)], "reading_paper": [SUMS, ["num", "num"]], "dead_paper": [SUMS, ["num", "num"]], "going_on": [SUMS, ["num", "plus"]],
-        "twice": [SUMS], "begins_of": [SUMS, ("term", "num"), ["plus"]], "split_states": [SUMS], "merged_states": [SUMS], "table_of": [SUMS], "why_ahead": [SUMS, *reduced(told_table)], "run_kinds": [told_table, list(ROW)],
-        "table_text": [told_table], "read_table": [table_text(told_table)], "mended": [list(ROW), [("keep",), ("drop",), ("put", "plus"), ("keep",)]], "fewest": [SUMS, ["num", "num"]], "mend": [SUMS, ["num", "num"]],
-        "mend_paper": [SUMS, ["num", "num"]], "lows": [SUMS, ["num", "num"]], "nofewer_paper": [SUMS, ["num", "num"]], "printed": [Layout(SUMS, {"both": ("soft", "soft")}), TREE], "packed": [SUMS, TREE],
-        "printed_spans": [Layout(SUMS, {}), TREE], "worths": [SUMS, tally(), TREE], "why": [SUMS, tally(), TREE, 0, "n"], "hangs_on": [SUMS, tally(), TREE, 0, "n"], "relations": [SUMS, tally()], "round_paper": [SUMS, tally()],
-        "shape_of_rows": [relations(SUMS, tally())], "one_walk": [SUMS, tally()], "step_fault": [step()], "led": [step(), TREE], "led_paper": [step(), TREE], "turned": [step()], "hindered": [step()], "found_step": [SUMS, SUMS],
-        "done": [SUMS, ("rule", 0, "new", [("nn", ("sum",))])], "turn": [SUMS, [("label", "one", "uno"), ("rule", 0, "new", [("nn", ("sum",))])]], "led_tally": [Bridge([step()]), tally()], "show_tree": [TREE, parts_of(SUMS, TREE[0])],
-        "read_tree": [SUMS, show_tree(TREE, parts_of(SUMS, TREE[0]))], "show_tally": [tally()], "sums_read": [show_tally(tally())], "read_tally": [SUMS, show_tally(tally())], "show_deed": [("rule", 0, "new", [("nn", ("sum",))])],
-        "read_deed": ["rule 0 new nn: sum | oo:"], "desk_of": [["grammar g " + grammar_text, "open d g 1"]], "desk_from": ["tongues\n"],
+        "is_name": [["a"]], "fresh": ["sum", ["sumaa"]], "is_pattern": [pattern], "spells": [pattern, "ab"],
+            "spells_none": [pattern], "least_spelled": [pattern], "only_text": [pattern],
+        "word_table": [kinds], "state_of": [table, "1"], "least_row": [table, 1], "least_apart": [table, 0, 1],
+            "least_word": [table, "num"], "unlike_words": [kinds, kinds[:1]],
+            "lost_word": [table, "num", table, "plus"],
+        "beyond": [pattern, ("signs", "a")], "word_paper": [kinds], "first_piece": [table, "1+", 0],
+            "pieces_of": [table, "1+ ?"], "cut_words": [kinds, "1+ ?"], "is_good": [table, "num", "1"],
+            "gap_holds": [kinds, "1", " ", "2"],
+        "gap_breaks": [kinds, "1", "", "2"], "is_shape": [SUMS, TREE[0], list(ROW)], "is_tree": [SUMS, [TREE]],
+            "need_tree": [SUMS, TREE], "spelled_by": [SUMS, TREE[0]], "nodes_of": [SUMS, TREE[0]],
+            "parts_of": [SUMS, TREE[0]],
+        "part_at": [SUMS, TREE, 1], "put_at": [SUMS, TREE, 3, (("none",), ())], "flat": list(numbered(SUMS, TREE)),
+            "numbered": [SUMS, TREE], "least": [SUMS], "stands": [SUMS], "begins": [SUMS], "follows": [SUMS],
+        "can_be_empty": [SUMS], "ring": [NAMED["ring"]], "known_paper": [SUMS], "parted": [BARS],
+            "show_grammar": [SUMS], "show_pattern": [pattern], "read_grammar": [grammar_text],
+            "read_pattern": ["[ab]*"],
+        "is_worth": ["number", [1]], "due_sums": [SUMS, list(MARKS)], "is_tally": [SUMS, [tally()]],
+            "tally_of": [SUMS, list(MARKS), list(tally()[1])], "completed": [SUMS, list(MARKS), list(SUMS_OF)],
+            "parted_tally": [BARS, completed(BARS, [("n", "up", "number", ("a",))], [])],
+        "log_of": [SUMS, TREE[0]], "shape_of_log": [SUMS, log_of(SUMS, TREE[0])], "lets_by": [SUMS, ["tree"]],
+            "word_fault": [kinds, table, word_paper(kinds)], "words_hold": [SUMS, ("words", table, word_paper(kinds))],
+        "mends_hold": [SUMS, mend_paper(SUMS, ROW)], "worths_hold": [SUMS, orders],
+            "known_holds": [SUMS, known_paper(SUMS)], "led_holds": [SUMS, led_paper(step(), TREE)],
+            "nth_shape": [AMBIGUOUS, ["y", "x", "y"], 0],
+        "place_of_shape": [AMBIGUOUS, ["y", "x", "y"], ("p", "q", "q")], "only_shape": [SUMS, list(ROW)],
+            "reading_paper": [SUMS, ["num", "num"]], "dead_paper": [SUMS, ["num", "num"]],
+            "going_on": [SUMS, ["num", "plus"]],
+        "twice": [SUMS], "begins_of": [SUMS, ("term", "num"), ["plus"]], "split_states": [SUMS],
+            "merged_states": [SUMS], "table_of": [SUMS], "why_ahead": [SUMS, *reduced(told_table)],
+            "run_kinds": [told_table, list(ROW)],
+        "table_text": [told_table], "read_table": [table_text(told_table)],
+            "mended": [list(ROW), [("keep",), ("drop",), ("put", "plus"), ("keep",)]], "fewest": [SUMS, ["num", "num"]],
+            "mend": [SUMS, ["num", "num"]],
+        "mend_paper": [SUMS, ["num", "num"]], "lows": [SUMS, ["num", "num"]], "nofewer_paper": [SUMS, ["num", "num"]],
+            "printed": [Layout(SUMS, {"both": ("soft", "soft")}), TREE], "packed": [SUMS, TREE],
+        "printed_spans": [Layout(SUMS, {}), TREE], "worths": [SUMS, tally(), TREE],
+            "why": [SUMS, tally(), TREE, 0, "n"], "hangs_on": [SUMS, tally(), TREE, 0, "n"],
+            "relations": [SUMS, tally()], "round_paper": [SUMS, tally()],
+        "shape_of_rows": [relations(SUMS, tally())], "one_walk": [SUMS, tally()], "step_fault": [step()],
+            "led": [step(), TREE], "led_paper": [step(), TREE], "turned": [step()], "hindered": [step()],
+            "found_step": [SUMS, SUMS],
+        "done": [SUMS, ("rule", 0, "new", [("nn", ("sum",))])], "turn": [SUMS,
+            [("label", "one", "uno"), ("rule", 0, "new", [("nn", ("sum",))])]],
+            "led_tally": [Bridge([step()]), tally()], "show_tree": [TREE, parts_of(SUMS, TREE[0])],
+        "read_tree": [SUMS, show_tree(TREE, parts_of(SUMS, TREE[0]))], "show_tally": [tally()],
+            "sums_read": [show_tally(tally())], "read_tally": [SUMS, show_tally(tally())],
+            "show_deed": [("rule", 0, "new", [("nn", ("sum",))])],
+        "read_deed": ["rule 0 new nn: sum | oo:"], "desk_of": [["grammar g " + grammar_text, "open d g 1"]],
+            "desk_from": ["tongues\n"],
     }
 
 
@@ -94,7 +128,8 @@ def reduced(table):
 def files():
     found = {name: file for file, functions in FUNCTIONS.items() for name in functions}
     found.update({name: file for file, name, _, _, _ in NAMED_ONES})
-    found.update({name: file for file, row in SIGNED.items() for name, _ in names_and_arguments(row) if name[0].islower()})
+    found.update({name: file for file, row in SIGNED.items() for name,
+                  _ in names_and_arguments(row) if name[0].islower()})
     return found
 
 
@@ -179,7 +214,8 @@ class Objects(unittest.TestCase):
         edits = [(0, 0, "3")]
         document.edits(edits)
         broken = Document(Reader(SUMS), "1 1")
-        bench, deeds, told_marks, told_sums, layouts, rows = Bench(), [("label", "one", "uno"), ("rule", 0, "new", [("nn", ())])], list(MARKS), list(SUMS_OF), {"both": ("soft", "soft")}, [(0, 0, "1")]
+        bench, deeds, told_marks, told_sums, layouts, rows = Bench(), [("label", "one", "uno"),
+            ("rule", 0, "new", [("nn", ())])], list(MARKS), list(SUMS_OF), {"both": ("soft", "soft")}, [(0, 0, "1")]
         bench.founded("g", SUMS)
         bench.opened("d", "g", "1+2")
         bench.edits("d", rows)
@@ -189,16 +225,25 @@ class Objects(unittest.TestCase):
         desk = Desk()
         desk.say("grammar g " + META)
         return [
-            ([kinds, rules], [grammar.kinds, grammar.rules, grammar.labels, grammar.bars, lambda: grammar.labels_of("sum"), lambda: grammar.row_of("both")]),
+            ([kinds, rules], [grammar.kinds, grammar.rules, grammar.labels, grammar.bars,
+                              lambda: grammar.labels_of("sum"), lambda: grammar.row_of("both")]),
             ([marks], [lambda: [layout.marks_of(label) for label in SUMS.labels()]]),
-            ([names, templates], [one.names, one.templates, one.steps, lambda: one.leads("one")]), ([steps], [bridge.steps, lambda: bridge.straight("one")]),
-            ([row], [chart.facts, chart.bad, lambda: chart.next_kinds(3), chart.how_many]), ([*table[1]], [machine.may, machine.stand, machine.log, machine.taken, machine.whole]),
+            ([names, templates], [one.names, one.templates, one.steps, lambda: one.leads("one")]),
+                ([steps], [bridge.steps, lambda: bridge.straight("one")]),
+            ([row], [chart.facts, chart.bad, lambda: chart.next_kinds(3), chart.how_many]),
+                ([*table[1]], [machine.may, machine.stand, machine.log, machine.taken, machine.whole]),
             ([tree], [ledger.worths_now, lambda: ledger.worth_of(0, "n")]),
-            ([edits], [document.words_now, document.nodes_now, document.change_now, document.entries, document.tree_now, document.stop_now, lambda: document.cut_again(0, put="1")]),
+            ([edits], [document.words_now, document.nodes_now, document.change_now, document.entries, document.tree_now,
+                       document.stop_now, lambda: document.cut_again(0, put="1")]),
             ([], [broken.stop_now, broken.words_now]),
-            ([deeds, told_marks, told_sums, layouts, rows], [bench.tongues, bench.docs, bench.spared, bench.changed, bench.entries, lambda: bench.worths_of("d"), lambda: bench.hangs_of("d"), lambda: bench.papers_of("d"), lambda: bench.about("d"),
-             lambda: bench.grammar_of("g"), lambda: bench.sums_of("g"), lambda: bench.layout_of("g"), lambda: bench.bridge_of("g", 1), lambda: bench.document("d").words_now(), lambda: bench.document("d").nodes_now()]),
-            ([], [desk.log, desk.entries, desk.log_text]), ([], [lambda: parted(BARS).plain(), lambda: parted(BARS).led_in(("p", "r", "r"))]),
+            ([deeds, told_marks, told_sums, layouts, rows], [bench.tongues, bench.docs, bench.spared, bench.changed,
+                bench.entries, lambda: bench.worths_of("d"), lambda: bench.hangs_of("d"), lambda: bench.papers_of("d"),
+                    lambda: bench.about("d"),
+             lambda: bench.grammar_of("g"), lambda: bench.sums_of("g"), lambda: bench.layout_of("g"),
+                 lambda: bench.bridge_of("g", 1), lambda: bench.document("d").words_now(),
+                     lambda: bench.document("d").nodes_now()]),
+            ([], [desk.log, desk.entries, desk.log_text]), ([], [lambda: parted(BARS).plain(),
+                lambda: parted(BARS).led_in(("p", "r", "r"))]),
         ]
 
     def test_handed_in_and_told(self):
@@ -222,7 +267,8 @@ class Refusals(unittest.TestCase):
     def test_lists_of_refusals_are_the_askers(self):
         document, machine = Document(Reader(SUMS), "1 1"), Machine(table_of(SUMS))
         machine.feed("num")
-        for call, kind in ((document.tree_now, NoReading), (lambda: only_shape(SUMS, ["num", "num"]), NoReading), (lambda: machine.feed("num"), Stop), (lambda: going_on(SUMS, ["num", "num"]), NoReading)):
+        for call, kind in ((document.tree_now, NoReading), (lambda: only_shape(SUMS, ["num", "num"]), NoReading),
+                           (lambda: machine.feed("num"), Stop), (lambda: going_on(SUMS, ["num", "num"]), NoReading)):
             found = []
             for _ in range(2):
                 with self.assertRaises(kind) as caught:
@@ -261,7 +307,8 @@ class Promise(unittest.TestCase):
                 word, told = self.outcome(grammar, row)
                 seen[word] = seen.get(word, 0) + 1
                 shapes = slow_shapes(grammar, row)
-                self.assertEqual(word, "ring" if shapes is None else ["none", "one"][len(shapes)] if len(shapes) < 2 else "many")
+                self.assertEqual(word, "ring" if shapes is None else ["none",
+                    "one"][len(shapes)] if len(shapes) < 2 else "many")
                 if word == "one":
                     self.assertEqual(told, shapes[0])
                 elif word == "many":
@@ -318,7 +365,8 @@ class Promise(unittest.TestCase):
             for told in (packed(SUMS, tree), printed(Layout(SUMS, {"both": ("soft", "blank")}), tree)):
                 self.assertEqual(Document(Reader(SUMS), told).tree_now(), tree)
             rows = worths(SUMS, tally(), tree)
-            self.assertEqual([row[:2] for row in rows], [(at, name) for at, label in enumerate(tree[0]) for name in ("n", "d")
+            self.assertEqual([row[:2] for row in rows], [(at, name) for at,
+                                                         label in enumerate(tree[0]) for name in ("n", "d")
                                                         if name == "n" or SUMS.rule_of(label) == "term"])
             self.assertTrue(lets_by(SUMS, ("worth", tally(), tree, (), tuple(why(SUMS, tally(), tree, 0, "n")))))
 
@@ -339,7 +387,8 @@ class Promise(unittest.TestCase):
                 for row in all_rows(2, ["num", "plus"] if old is SUMS else ["x", "y"]):
                     word, shape = self.outcome(old, row)
                     if word == "one":
-                        texts = {name: pattern[1][0] if pattern[0] == "signs" else "1" for name, pattern, _ in old.kinds()}
+                        texts = {name: pattern[1][0] if pattern[0] == "signs" else "1" for name, pattern,
+                                 _ in old.kinds()}
                         tree = shape, tuple((kind, texts[kind]) for kind in row)
                         try:
                             self.assertTrue(lets_by(old, led_paper(found, tree)))
@@ -349,7 +398,8 @@ class Promise(unittest.TestCase):
     def test_worths_or_a_ring(self):
         grammar = grammar_of("a: p b\n b: r y | s b")
         marks = [("n", "down", "number", ("b",)), ("m", "up", "number", ("b",))]
-        ring = completed(grammar, marks, [("p", 1, "n", ("at", 1, "m")), ("r", 0, "m", ("at", 0, "n")), ("s", 1, "n", ("at", 0, "n"))])
+        ring = completed(grammar, marks, [("p", 1, "n", ("at", 1, "m")), ("r", 0, "m", ("at", 0, "n")),
+                                          ("s", 1, "n", ("at", 0, "n"))])
         with self.assertRaises(RoundWorths):
             worths(grammar, ring, (("p", "s", "r"), (("y", "y"),)))
         with self.assertRaises(NoGiven):

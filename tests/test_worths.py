@@ -31,7 +31,8 @@ def refusal(call):
 
 def given_for(grammar, tally, tree, chance):
     name = grammar.rule_of(tree[0][0])
-    pairs = [(attribute, chance.randint(0, 9)) for attribute, way, _, names in tally[0] if way == "down" and name in names]
+    pairs = [(attribute, chance.randint(0, 9)) for attribute, way, _,
+             names in tally[0] if way == "down" and name in names]
     chance.shuffle(pairs)
     return tuple(pairs)
 
@@ -66,9 +67,11 @@ def is_circle(plain, circle):
 class Worths(unittest.TestCase):
     def test_by_hand(self):
         self.assertEqual(worths(SUMS, TALLY, TREE, given=(("depth", 4),))[0], (0, "size", 5))
-        tally = completed(SUMS, [("size", "up", "number", ("sum", "term"))], [("leaf", 0, "size", ("long", ("word", 1)))])
+        tally = completed(SUMS, [("size", "up", "number", ("sum", "term"))],
+                          [("leaf", 0, "size", ("long", ("word", 1)))])
         self.assertEqual(worths(SUMS, tally, TREE),
-                         [(0, "size", 5), (1, "size", 2), (2, "size", 2), (3, "size", 2), (4, "size", 0), (5, "size", 3)])
+                         [(0, "size", 5), (1, "size", 2), (2, "size", 2), (3, "size", 2), (4, "size", 0),
+                          (5, "size", 3)])
         self.assertEqual(worths(SUMS, tally_of(SUMS, [], []), TREE), [])
 
     def test_against_plain_ones(self):
@@ -82,7 +85,8 @@ class Worths(unittest.TestCase):
                 self.assertTrue(is_circle(plain, told[1]), told[1])
             else:
                 seen += 1
-                self.assertEqual(told, [instance + (plain.rows[instance],) for instance in in_order(grammar, tally, tree)])
+                self.assertEqual(told, [instance + (plain.rows[instance],) for instance in in_order(grammar, tally,
+                    tree)])
         self.assertGreater(seen, 600)
         self.assertGreater(rings, 60)
 
@@ -92,11 +96,15 @@ class Worths(unittest.TestCase):
                  ("d", "down", "text", ("b",)), ("e", "down", "names", ("a", "b"))]
         two = ("either", ("just", ("word", 1)), ("just", ("text", "b")))
         sums = [
-            ("p", 0, "n", ("most", ("plus", ("at", 2, "n"), ("times", ("number", 3), ("long", ("word", 3)))), ("number", 2))),
-            ("p", 0, "t", ("join", ("word", 3), ("shown", ("at", 2, "n")))), ("p", 0, "s", ("either", ("at", 2, "s"), ("at", 0, "e"))),
-            ("p", 2, "d", ("choose", ("has", ("at", 0, "e"), ("text", "k")), ("word", 1), ("text", "no"))), ("p", 2, "e", ("off", ("at", 0, "e"), ("just", ("text", "k")))),
+            ("p", 0, "n", ("most", ("plus", ("at", 2, "n"), ("times", ("number", 3), ("long", ("word", 3)))),
+                           ("number", 2))),
+            ("p", 0, "t", ("join", ("word", 3), ("shown", ("at", 2, "n")))),
+                ("p", 0, "s", ("either", ("at", 2, "s"), ("at", 0, "e"))),
+            ("p", 2, "d", ("choose", ("has", ("at", 0, "e"), ("text", "k")), ("word", 1), ("text", "no"))),
+                ("p", 2, "e", ("off", ("at", 0, "e"), ("just", ("text", "k")))),
             ("r", 0, "n", ("less", ("digits", ("at", 0, "d")), ("many", ("at", 0, "e")))), ("r", 0, "s", two),
-            ("s", 0, "n", ("same", ("at", 0, "d"), ("text", "no"))), ("s", 0, "s", ("nobody",)), ("s", 1, "e", ("at", 0, "e"))]
+            ("s", 0, "n", ("same", ("at", 0, "d"), ("text", "no"))), ("s", 0, "s", ("nobody",)),
+                ("s", 1, "e", ("at", 0, "e"))]
         tally = completed(grammar, marks, sums)
         for given in ((), ("k",), ("a", "k", "z")):
             for shape, words in (("pr", "xxy"), ("psq", "xy"), ("pspr", "xxxyy"), ("q", "")):
@@ -104,17 +112,20 @@ class Worths(unittest.TestCase):
                 plain = PlainTree(grammar, tally, tree, (("e", given),))
                 told = worths(grammar, tally, tree, given=(("e", given),))
                 self.assertEqual(told, [one + (plain.rows[one],) for one in in_order(grammar, tally, tree)])
-                self.assertTrue(lets_by(grammar, ("worth", tally, tree, (("e", given),), tuple(why(grammar, tally, tree, 0, "s", given=(("e", given),))))))
+                self.assertTrue(lets_by(grammar, ("worth", tally, tree, (("e", given),),
+                                                  tuple(why(grammar, tally, tree, 0, "s", given=(("e", given),))))))
                 for node, attribute, worth in told:
                     found = plain.sum_of((node, attribute))
                     if found:
-                        self.assertEqual(worth, plain_worth(found[1], lambda place, name: plain.rows[plain.spot(found[0], place, name)],
+                        self.assertEqual(worth, plain_worth(found[1], lambda place,
+                                                            name: plain.rows[plain.spot(found[0], place, name)],
                                                             lambda place: plain.parts[found[0]][place - 1]))
 
     def test_long_chains(self):
         grammar = grammar_of("a: p x a | q")
         marks = [("n", "down", "number", ("a",)), ("m", "up", "number", ("a",))]
-        tally = completed(grammar, marks, [("p", 2, "n", ("plus", ("at", 0, "n"), ("number", 1))), ("q", 0, "m", ("at", 0, "n"))])
+        tally = completed(grammar, marks, [("p", 2, "n", ("plus", ("at", 0, "n"), ("number", 1))),
+                                           ("q", 0, "m", ("at", 0, "n"))])
         tree = (("p",) * 5000 + ("q",), (("x", "x"),) * 5000)
         told = worths(grammar, tally, tree, given=(("n", 7),))
         self.assertEqual(len(told), 10002)
@@ -125,18 +136,21 @@ class Worths(unittest.TestCase):
     def test_a_long_ring(self):
         grammar = grammar_of("z: o a\n a: p x a | q")
         marks = [("n", "down", "number", ("a",)), ("m", "up", "number", ("a",))]
-        tally = completed(grammar, marks, [("o", 1, "n", ("at", 1, "m")), ("p", 2, "n", ("at", 0, "n")), ("q", 0, "m", ("at", 0, "n"))])
+        tally = completed(grammar, marks, [("o", 1, "n", ("at", 1, "m")), ("p", 2, "n", ("at", 0, "n")),
+                                           ("q", 0, "m", ("at", 0, "n"))])
         told = refusal(lambda: worths(grammar, tally, (("o",) + ("p",) * 900 + ("q",), (("x", "x"),) * 900)))
         self.assertEqual((told[0], len(told[1])), (RoundWorths, 2 * 901))
 
 
 class Given(unittest.TestCase):
-    MARKS = [("b", "down", "number", ("a",)), ("a", "down", "text", ("a", "c")), ("u", "up", "number", ("a",)), ("d", "down", "names", ("c",))]
+    MARKS = [("b", "down", "number", ("a",)), ("a", "down", "text", ("a", "c")), ("u", "up", "number", ("a",)),
+             ("d", "down", "names", ("c",))]
     GRAMMAR = grammar_of("a: p x | q a\n c: r a")
 
     def calls(self, tree, given):
         tally = completed(self.GRAMMAR, self.MARKS, [("r", 1, "b", ("number", 1)), ("p", 0, "u", ("at", 0, "b"))])
-        return [lambda: worths(self.GRAMMAR, tally, tree, given=given), lambda: why(self.GRAMMAR, tally, tree, 0, "u", given=given),
+        return [lambda: worths(self.GRAMMAR, tally, tree, given=given),
+                lambda: why(self.GRAMMAR, tally, tree, 0, "u", given=given),
                 lambda: hangs_on(self.GRAMMAR, tally, tree, 9, "no", given=given)]
 
     def test_the_first_in_order(self):
@@ -144,16 +158,21 @@ class Given(unittest.TestCase):
         good = (("b", 3), ("a", "t"))
         self.assertEqual(self.calls(tree, good)[0](), self.calls(tree, good[::-1])[0]())
         for given, attribute in (
-                ((), "b"), (good[:1], "a"), (good[1:], "b"), (good + good[:1], "b"), (good[:1] + (("a", 3),), "a"), ((("b", "t"), ("a", 3)), "b"),
-                (good + (("u", 1),), "u"), (good + (("d", ()),), "d"), (good + (("z", 1), ("y", 1)), "z"), ((("z", 1),) + good, "z"),
-                ((("z", 1), ("b", 3)), "a"), ((("z", 1), ("u", 1)) + good, "u"), ((("b", True), ("a", "t")), "b"), ((("b", -1), ("a", "t")), "b"),
-                ((("b", 3), ("a", None)), "a"), ((("b", 10 ** 9 + 1), ("a", "t")), "b"), ((("b", 3), ("a", "x" * 61)), "a"), (good + (("a", "t"),), "a")):
+                ((), "b"), (good[:1], "a"), (good[1:], "b"), (good + good[:1], "b"), (good[:1] + (("a", 3),), "a"),
+                                 ((("b", "t"), ("a", 3)), "b"),
+                (good + (("u", 1),), "u"), (good + (("d", ()),), "d"), (good + (("z", 1), ("y", 1)), "z"),
+                                 ((("z", 1),) + good, "z"),
+                ((("z", 1), ("b", 3)), "a"), ((("z", 1), ("u", 1)) + good, "u"), ((("b", True), ("a", "t")), "b"),
+                                 ((("b", -1), ("a", "t")), "b"),
+                ((("b", 3), ("a", None)), "a"), ((("b", 10 ** 9 + 1), ("a", "t")), "b"),
+                                 ((("b", 3), ("a", "x" * 61)), "a"), (good + (("a", "t"),), "a")):
             for call in self.calls(tree, given):
                 self.assertEqual(refusal(call), (NoGiven, attribute), given)
 
     def test_of_each_top(self):
         tree = (("r", "p"), (("x", "x"),))
-        for given, attribute in (((), "a"), ((("a", "t"),), "d"), ((("a", "t"), ("d", ("b", "a"))), "d"), ((("a", "t"), ("d", ()), ("b", 1)), "b")):
+        for given, attribute in (((), "a"), ((("a", "t"),), "d"), ((("a", "t"), ("d", ("b", "a"))), "d"),
+                                 ((("a", "t"), ("d", ()), ("b", 1)), "b")):
             self.assertEqual(refusal(self.calls(tree, given)[0]), (NoGiven, attribute))
         self.assertEqual(self.calls(tree, (("d", ("a", "b")), ("a", "t")))[0](),
                          [(0, "a", "t"), (0, "d", ("a", "b")), (1, "b", 1), (1, "a", "t"), (1, "u", 1)])
@@ -242,8 +261,10 @@ class Why(unittest.TestCase):
 
     def test_words_that_are_read(self):
         grammar = SUMS
-        marks = [("n", "up", "number", ("sum", "term")), ("t", "up", "text", ("sum",)), ("d", "down", "number", ("sum",))]
-        tally = completed(grammar, marks, [("leaf", 0, "n", ("long", ("word", 1))), ("both", 0, "t", ("choose", ("number", 0), ("word", 2), ("at", 1, "t"))),
+        marks = [("n", "up", "number", ("sum", "term")), ("t", "up", "text", ("sum",)),
+                 ("d", "down", "number", ("sum",))]
+        tally = completed(grammar, marks, [("leaf", 0, "n", ("long", ("word", 1))),
+                                           ("both", 0, "t", ("choose", ("number", 0), ("word", 2), ("at", 1, "t"))),
                                            ("one", 0, "t", ("shown", ("at", 0, "d")))])
         given = (("d", 5),)
         self.assertEqual(hangs_on(grammar, tally, TREE, 0, "n", given=given), ([0, 3], []))
@@ -267,14 +288,16 @@ class Why(unittest.TestCase):
     def test_no_worth(self):
         for call in (why, hangs_on):
             for node, attribute in ((9, "size"), (-1, "size"), (0, "z"), (0, ""), (3, "used"), (10 ** 29, "size")):
-                self.assertEqual(refusal(lambda: call(SUMS, TALLY, TREE, node, attribute, given=(("depth", 4),))), (NoWorth, node, attribute))
+                self.assertEqual(refusal(lambda: call(SUMS, TALLY, TREE, node, attribute, given=(("depth", 4),))),
+                                 (NoWorth, node, attribute))
 
     def test_no_tree(self):
         grammar = BARRED["sums"]
         tally = completed(grammar, [("n", "up", "number", ("a", "b"))], [])
         self.assertEqual(len(worths(grammar, tally, (("p", "r", "r"), (("y", "y"), ("x", "x"), ("y", "y"))))), 3)
         with self.assertRaises(NoTree):
-            worths(grammar, tally, (("p", "r", "p", "r", "r"), (("y", "y"), ("x", "x"), ("y", "y"), ("x", "x"), ("y", "y"))))
+            worths(grammar, tally, (("p", "r", "p", "r", "r"), (("y", "y"), ("x", "x"), ("y", "y"), ("x", "x"),
+                ("y", "y"))))
 
 
 class Parts(unittest.TestCase):
@@ -286,11 +309,14 @@ class Parts(unittest.TestCase):
                 continue
             for node, (_, _, _, _, end) in enumerate(nodes_of(grammar, tree[0], name=grammar.rule_of(tree[0][0]))):
                 name = grammar.rule_of(tree[0][node])
-                downs = tuple((mark[0], plain.rows[(node, mark[0])]) for mark in tally[0] if mark[1] == "down" and name in mark[3])
+                downs = tuple((mark[0],
+                               plain.rows[(node,
+                                           mark[0])]) for mark in tally[0] if mark[1] == "down" and name in mark[3])
                 part = part_at(grammar, tree, node)
                 alone = worths(grammar, tally, part, given=downs)
                 self.assertEqual([(at + node, attribute, worth) for at, attribute, worth in alone],
-                                 [one + (plain.rows[one],) for one in in_order(grammar, tally, tree) if node <= one[0] < end])
+                                 [one + (plain.rows[one],) for one in in_order(grammar, tally,
+                                     tree) if node <= one[0] < end])
                 seen += 1
                 changed += self.check_other_part(grammar, tally, (tree, given), plain, node, downs)
         self.assertGreater(seen, 500)

@@ -20,7 +20,8 @@ class Bench:
         self._numbers = Numbers(1, 1)
         self._houses = [House({}, {})]
         self._at = 0
-        self._ahead = None
+        # What stood ahead of the last step.
+        self._ahead = self._houses[0]
         self._spared = []
 
     def house(self):
@@ -151,8 +152,6 @@ class Bench:
         return list(self._spared)
 
     def changed(self):
-        if self._ahead is None:
-            return []
         return [name for name in self.docs() if seen(self.house(), name) != seen(self._ahead, name)]
 
     def is_busy(self):

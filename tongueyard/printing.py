@@ -131,8 +131,6 @@ class Wishes:
     def flat_gap(self, number, texts, gaps, every):
         """The gap ahead of a word where each soft is a blank; None where it is a row, or none holds."""
         wish = self.wished(number, every)
-        if wish == ROW:
-            return None
         gap = gaps.first_gap(texts[number - 1], texts[number], wish, self.depths[number])
         return gap if gap in ("", " ") else None
 
